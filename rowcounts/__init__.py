@@ -1,0 +1,1 @@
+"""Set operations over tables with duplicates, judged for all tables."""

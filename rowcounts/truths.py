@@ -1,0 +1,274 @@
+"""Tests of rows: true, false or unknown."""
+
+from rowcounts.basics import is_integer, is_name, is_value, ordered_texts
+from rowcounts.errors import BadCounts, BadName, BadNumber, BadQuestion, BadRow, BadTest, NoColumn, NoTable
+from rowcounts.marks import AnyQuestion
+
+
+class Test:
+    """The base of all tests; it is not made itself."""
+
+    def __init__(self, text, held):
+        self._text = text
+        self._columns = ordered_texts([column for one in held for column in one.columns])
+        self._names = ordered_texts([name for one in held for name in one.names])
+        self._conditions = unlike_conditions([one.conditions for one in held])
+        self._size = sum([one.size for one in held])
+
+    @property
+    def columns(self):
+        """All columns in the test, ascending."""
+        return self._columns
+
+    @property
+    def names(self):
+        """All table names in the test, ascending."""
+        return self._names
+
+    @property
+    def conditions(self):
+        """All unlike conditions in the test, ascending by their texts."""
+        return self._conditions
+
+    @property
+    def size(self):
+        """How many operators its questions have; each Has counts, too."""
+        return self._size
+
+    def truth(self, values, counts=None):
+        """True, False or None (unknown) for a row with these values and counts."""
+        check_told(self, values, {} if counts is None else counts)
+        return self.known(values, {} if counts is None else counts)
+
+    def __call__(self, values, counts=None):
+        return self.truth(values, counts) is True
+
+    def __and__(self, other):
+        return And(self, other)
+
+    def __or__(self, other):
+        return Or(self, other)
+
+    def __invert__(self):
+        return Not(self)
+
+    def __eq__(self, other):
+        # Texts are enough: unlike tests have unlike texts.
+        return isinstance(other, Test) and self._text == other._text
+
+    def __str__(self):
+        return str(self._text)
+
+
+class Condition(Test):
+    """The base of the tests that look at one value; it is not made itself."""
+
+    def __init__(self, column, text):
+        Test.__init__(self, text, ())
+        self._columns = (column,)
+        self._conditions = (self,)
+        self.column = column
+
+    def filled_by(self, parts):
+        """The condition itself: it has no table names."""
+        return self
+
+
+class Below(Condition):
+    """The value in a column is less than a number."""
+
+    def __init__(self, column, number):
+        check_comparison(column, number)
+        Condition.__init__(self, column, f"{column} < {number}")
+        self.number = number
+
+    def known(self, values, counts):
+        """The truth for a row that is known to have the column."""
+        value = values[self.column]
+        return None if value is None else value < self.number
+
+
+class UpTo(Condition):
+    """The value in a column is at most a number."""
+
+    def __init__(self, column, number):
+        check_comparison(column, number)
+        Condition.__init__(self, column, f"{column} <= {number}")
+        self.number = number
+
+    def known(self, values, counts):
+        """The truth for a row that is known to have the column."""
+        value = values[self.column]
+        return None if value is None else value <= self.number
+
+
+class Equals(Condition):
+    """The value in a column is a number."""
+
+    def __init__(self, column, number):
+        check_comparison(column, number)
+        Condition.__init__(self, column, f"{column} = {number}")
+        self.number = number
+
+    def known(self, values, counts):
+        """The truth for a row that is known to have the column."""
+        value = values[self.column]
+        return None if value is None else value == self.number
+
+
+class Missing(Condition):
+    """The value in a column is NULL."""
+
+    def __init__(self, column):
+        if not is_name(column):
+            raise BadName(column)
+        Condition.__init__(self, column, f"{column} null")
+
+    def known(self, values, counts):
+        """The truth for a row that is known to have the column."""
+        return values[self.column] is None
+
+
+class Has(Test):
+    """The row stands in the answer of a question."""
+
+    def __init__(self, question):
+        if not isinstance(question, AnyQuestion):
+            raise BadQuestion("question")
+        Test.__init__(self, f"has {question}", (question,))
+        self._size = 1 + question.size
+        self.question = question
+
+    def known(self, values, counts):
+        """The truth for a row that is known to have all columns and tables."""
+        return self.question.number_at(values, counts) > 0
+
+    def filled_by(self, parts):
+        """The same with questions in the place of table names."""
+        return Has(self.question.filled_by(parts))
+
+
+class And(Test):
+    """Both tests are true."""
+
+    def __init__(self, one, other):
+        check_both(one, other)
+        Test.__init__(self, f"( {one} and {other} )", (one, other))
+        self.one = one
+        self.other = other
+
+    def known(self, values, counts):
+        """The truth for a row that is known to have all columns and tables."""
+        return truth_of_both(self.one.known(values, counts), self.other.known(values, counts))
+
+    def filled_by(self, parts):
+        """The same with questions in the place of table names."""
+        return And(self.one.filled_by(parts), self.other.filled_by(parts))
+
+
+class Or(Test):
+    """At least one of two tests is true."""
+
+    def __init__(self, one, other):
+        check_both(one, other)
+        Test.__init__(self, f"( {one} or {other} )", (one, other))
+        self.one = one
+        self.other = other
+
+    def known(self, values, counts):
+        """The truth for a row that is known to have all columns and tables."""
+        return truth_of_either(self.one.known(values, counts), self.other.known(values, counts))
+
+    def filled_by(self, parts):
+        """The same with questions in the place of table names."""
+        return Or(self.one.filled_by(parts), self.other.filled_by(parts))
+
+
+class Not(Test):
+    """A test is false."""
+
+    def __init__(self, test):
+        if not isinstance(test, Test) or isinstance(test, Not):
+            raise BadTest("test")
+        Test.__init__(self, f"not {test}", (test,))
+        self.test = test
+
+    def known(self, values, counts):
+        """The truth for a row that is known to have all columns and tables."""
+        return truth_of_opposite(self.test.known(values, counts))
+
+    def filled_by(self, parts):
+        """The same with questions in the place of table names."""
+        return Not(self.test.filled_by(parts))
+
+    def __invert__(self):
+        return self.test
+
+
+def truth_of_both(one, other):
+    """The truth of two tests put together by and."""
+    if one is False or other is False:
+        return False
+    return None if one is None or other is None else True
+
+
+def truth_of_either(one, other):
+    """The truth of two tests put together by or."""
+    if one is True or other is True:
+        return True
+    return None if one is None or other is None else False
+
+
+def truth_of_opposite(truth):
+    """The truth of the opposite of a test."""
+    return None if truth is None else not truth
+
+
+def unlike_conditions(groups):
+    """The tuple of the unlike conditions of some groups, ascending by their texts."""
+    by_text = {str(condition): condition for group in groups for condition in group}
+    return tuple([by_text[text] for text in ordered_texts(list(by_text))])
+
+
+def check_comparison(column, number):
+    """Refuse what cannot be the column and the number of a condition."""
+    if not is_name(column):
+        raise BadName(column)
+    if not is_integer(number):
+        raise BadNumber(number)
+
+
+def check_both(one, other):
+    """Refuse two values that are not both tests."""
+    if not isinstance(one, Test):
+        raise BadTest("one")
+    if not isinstance(other, Test):
+        raise BadTest("other")
+
+
+def check_told(asked, values, counts):
+    """Refuse values and counts of a row that a test or a question cannot be asked of."""
+    if not are_values(values):
+        raise BadRow("values")
+    if not are_counts(counts):
+        raise BadCounts("counts")
+    for column in asked.columns:
+        if column not in values:
+            raise NoColumn(column)
+    for name in asked.names:
+        if name not in counts:
+            raise NoTable(name)
+
+
+def are_values(value):
+    """Whether any value is a dict from columns to values."""
+    if not isinstance(value, dict):
+        return False
+    return all([is_name(column) and is_value(value[column]) for column in value])
+
+
+def are_counts(value):
+    """Whether any value is a dict from table names to integers from 0 on."""
+    if not isinstance(value, dict):
+        return False
+    return all([is_name(name) and is_integer(value[name]) and value[name] >= 0 for name in value])

@@ -1,0 +1,83 @@
+"""The interface: what is defined where, under which names, and with which arguments."""
+
+import importlib
+import inspect
+import unittest
+
+MODULES = {
+    "bags": {
+        "Bag": """__init__(*pairs) of(rows) width whole often(row) __contains__ __len__ __iter__ __getitem__ __add__
+                  __and__ __or__ __sub__ __mul__ __rmul__ __le__ __lt__ __ge__ __gt__ __eq__ __str__ read(text)""",
+    },
+    "truths": {
+        "Test": """columns names conditions size truth(values,counts=None) __call__(values,counts=None) __and__ __or__
+                   __invert__ __eq__ __str__""",
+        "Condition": "",
+        "Below": "__init__(column,number)",
+        "UpTo": "__init__(column,number)",
+        "Equals": "__init__(column,number)",
+        "Missing": "__init__(column)",
+        "Has": "__init__(question)",
+        "And": "__init__(one,other)",
+        "Or": "__init__(one,other)",
+        "Not": "__init__(test)",
+    },
+    "bases": {
+        "Base": """__init__(columns,**bags) of(columns,bags) columns names __getitem__ __contains__ __len__ __iter__
+                   rows() numbers(row) values_of(row) with_bag(name,bag) only(row) filled(parts) __eq__""",
+    },
+    "questions": {
+        "Question": """names columns conditions size parts is_plain __contains__ often(values,counts) __call__(base)
+                       __iter__ places() __getitem__ put(place,part) filled(parts) __eq__ __str__ __add__ __mul__
+                       __and__ __or__ __sub__ __mod__ __floordiv__""",
+        "Bare": "", "Pair": "", "Single": "", "Straight": "", "Bent": "", "Chosen": "",
+        "Table": "__init__(name)",
+        "Empty": "__init__()",
+        "Both": "__init__(one,other)",
+        "Times": "__init__(number,part)",
+        "Lesser": "__init__(one,other)",
+        "Greater": "__init__(one,other)",
+        "Rest": "__init__(one,other)",
+        "Where": "__init__(part,test)",
+        "Unless": "__init__(part,test)",
+    },
+}
+
+FUNCTIONS = {}
+
+
+def arguments(call):
+    """The arguments of a function or a method, its own object left out."""
+    told = [str(one) for one in inspect.signature(call).parameters.values() if one.name != "self"]
+    return ",".join(told)
+
+
+class InterfaceTest(unittest.TestCase):
+
+    def test_classes_and_their_methods(self):
+        for file, classes in MODULES.items():
+            module = importlib.import_module(f"rowcounts.{file}")
+            for name, methods in classes.items():
+                made = getattr(module, name)
+                self.assertTrue(inspect.isclass(made))
+                self.assertEqual(made.__module__, module.__name__)
+                for method in methods.split():
+                    self.check_method(made, method)
+
+    def check_method(self, made, method):
+        name, sign, told = method.partition("(")
+        self.assertIn(name, vars(made), made)
+        if sign:
+            found = getattr(made, name)
+            self.assertEqual(arguments(found), told.rstrip(")"), f"{made} {name}")
+
+    def test_functions(self):
+        for place, told in FUNCTIONS.items():
+            file, _, name = place.partition(".")
+            module = importlib.import_module(f"rowcounts.{file}")
+            found = getattr(module, name)
+            self.assertEqual([found.__module__, arguments(found)], [module.__name__, told])
+
+
+if __name__ == "__main__":
+    unittest.main()

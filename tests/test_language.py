@@ -1,0 +1,260 @@
+"""LANGUAGE.md: those of its rules that a script can tell simply, each by its number."""
+
+import ast
+import builtins
+import pathlib
+import re
+import unittest
+
+PACKAGE = pathlib.Path(__file__).resolve().parent.parent / "rowcounts"
+
+LIBRARY = {
+    "heapq": {"heappush", "heappop", "heapify", "heapreplace", "heappushpop"},
+    "math": {"gcd", "lcm", "isqrt", "comb", "perm", "factorial"},
+    "itertools": {"product", "combinations", "permutations"},
+}
+
+BUILTINS = set("""
+    len range enumerate zip min max sum abs sorted reversed int str bool bytes list tuple dict set isinstance ord repr
+    any all divmod iter next map Exception ValueError TypeError KeyError IndexError LookupError ZeroDivisionError
+    ArithmeticError OverflowError RuntimeError NotImplementedError AttributeError StopIteration NotImplemented
+    property staticmethod classmethod super
+""".split())
+
+METHODS = set("""
+    append clear copy count endswith extend find get index insert isalnum isalpha isdigit islower isspace isupper items
+    join keys ljust lower lstrip partition pop remove replace reverse rfind rjust rpartition rsplit rstrip setdefault
+    split splitlines startswith strip update upper values zfill bit_length title capitalize swapcase casefold center
+    expandtabs removeprefix removesuffix rindex isascii isdecimal isnumeric istitle isidentifier isprintable translate
+    sort add discard
+""".split())
+
+DOUBLE = set("""
+    init eq repr str len enter exit call iter lt le gt ge ne add sub mul floordiv mod pow and or xor lshift rshift
+    radd rsub rmul rfloordiv rmod rand ror rxor rlshift rrshift iadd isub imul ifloordiv imod ipow iand ior ixor
+    ilshift irshift neg pos invert abs bool contains getitem setitem
+""".split())
+
+NOWHERE = set("register mro elements open input law version_info with_traceback add_note format format_map".split())
+
+NO_WORDS = set("""
+    typing typing_extensions enum Enum IntEnum StrEnum Flag IntFlag Generic Protocol ABC ABCMeta namedtuple NamedTuple
+    TypedDict TYPE_CHECKING abstractmethod
+""".split())
+
+STATEMENTS = (
+    ast.Assign, ast.AugAssign, ast.AnnAssign, ast.If, ast.While, ast.For, ast.Return, ast.Break, ast.Continue, ast.Pass,
+    ast.Raise, ast.Assert, ast.Delete, ast.Nonlocal, ast.Match, ast.With, ast.Try, ast.Expr, ast.FunctionDef,
+    ast.ClassDef, ast.ImportFrom,
+)
+
+
+def files():
+    return sorted(path for path in PACKAGE.rglob("*") if "__pycache__" not in path.parts and path.is_file())
+
+
+def trees():
+    return [(path, ast.parse(path.read_text())) for path in files()]
+
+
+def nodes(kind):
+    for path, tree in trees():
+        for node in ast.walk(tree):
+            if isinstance(node, kind):
+                yield f"{path.name}:{getattr(node, 'lineno', 0)}", node
+
+
+def module_of(path):
+    return f"rowcounts.{path.stem}" if path.stem != "__init__" else "rowcounts"
+
+
+def imported():
+    return {module_of(path): [node.module for node in ast.walk(tree) if isinstance(node, ast.ImportFrom)]
+            for path, tree in trees()}
+
+
+def bound_at_top(tree):
+    """The names that a file binds, in order, with those of its imports."""
+    for node in tree.body:
+        if isinstance(node, (ast.FunctionDef, ast.ClassDef)):
+            yield node.name
+        elif isinstance(node, ast.ImportFrom):
+            yield from (alias.name for alias in node.names)
+        elif isinstance(node, ast.Assign):
+            yield from (target.id for target in node.targets)
+
+
+def bound_in_functions(tree):
+    """Parameters, variables and nested functions."""
+    for node in ast.walk(tree):
+        if isinstance(node, ast.arg):
+            yield node.arg
+        elif isinstance(node, ast.FunctionDef):
+            inner = [part for part in ast.walk(node) if part is not node]
+            yield from (part.id for part in inner if isinstance(part, ast.Name) and isinstance(part.ctx, ast.Store))
+            yield from (part.name for part in inner if isinstance(part, ast.FunctionDef))
+
+
+def docstrings(tree):
+    return {id(node.body[0].value) for node in ast.walk(tree)
+            if isinstance(node, (ast.Module, ast.ClassDef, ast.FunctionDef)) and ast.get_docstring(node) is not None}
+
+
+class LanguageTest(unittest.TestCase):
+
+    def holds(self, rule, wrong):
+        self.assertEqual(list(wrong), [], rule)
+
+    def test_l1_l14_files(self):
+        names = [str(path.relative_to(PACKAGE)) for path in files()]
+        self.holds("L1", [name for name in names if not re.fullmatch(r"__init__\.py|[a-z][a-z0-9_]*\.py", name)])
+        stems = [name.removesuffix(".py") for name in names if not name.startswith("_")]
+        self.holds("L14", [stem for stem in stems if hasattr(builtins, stem)])
+        self.assertIn("__init__.py", names)
+        self.assertLessEqual(len(names), 100)
+
+    def test_l10_sizes(self):
+        for path in files():
+            lines = path.read_text().splitlines()
+            self.assertLessEqual(len(lines), 399, path.name)
+            self.holds("L10", [(path.name, at) for at, line in enumerate(lines, 1) if len(line) > 120])
+        self.holds("L10", [(at, node.name) for at, node in nodes(ast.FunctionDef)
+                           if node.end_lineno - node.lineno + 1 > 40])
+
+    def test_l14_characters(self):
+        for path in files():
+            signs = set(path.read_bytes())
+            self.holds("L14", signs - set(range(32, 127)) - {10})
+
+    def test_l2_l16_imports(self):
+        names = {module_of(path): set(bound_at_top(tree)) - {
+            alias.name for node in tree.body if isinstance(node, ast.ImportFrom) for alias in node.names}
+            for path, tree in trees()}
+        self.holds("L2", (at for at, _ in nodes(ast.Import)))
+        for at, node in nodes(ast.ImportFrom):
+            self.assertEqual(node.level, 0, at)
+            known = LIBRARY.get(node.module, names.get(node.module))
+            self.assertIsNotNone(known, f"L2 {at} {node.module}")
+            self.holds(f"L16 {at}", [alias.name for alias in node.names if alias.name not in known or alias.asname])
+        for path, tree in trees():
+            kinds = [isinstance(node, ast.ImportFrom) for node in tree.body[1:]]
+            self.assertEqual(kinds, sorted(kinds, reverse=True), f"L2 {path.name}")
+
+    def test_l16_no_two_files_import_from_each_other(self):
+        steps = imported()
+        for module in steps:
+            found, left = set(), list(steps[module])
+            while left:
+                one = left.pop()
+                if one in steps and one not in found:
+                    found.add(one)
+                    left.extend(steps[one])
+            self.assertNotIn(module, found, "L16")
+
+    def test_l3_module_level(self):
+        kinds = (ast.ImportFrom, ast.FunctionDef, ast.ClassDef, ast.Assign, ast.Expr)
+        for path, tree in trees():
+            self.holds("L3", [(path.name, node.lineno) for node in tree.body if not isinstance(node, kinds)])
+            self.holds("L3", [(path.name, node.lineno) for node in tree.body if isinstance(node, ast.Expr)
+                              and not isinstance(node.value, ast.Constant)])
+
+    def test_l4_l5_functions_and_classes(self):
+        for at, node in nodes(ast.FunctionDef):
+            told = [ast.unparse(one) for one in node.decorator_list]
+            self.holds(f"L4 {at}", [one for one in told if one not in ("property", "staticmethod", "classmethod")])
+            if node.name.startswith("__"):
+                self.assertIn(node.name.strip("_"), DOUBLE, f"L5 {at}")
+        for at, node in nodes(ast.ClassDef):
+            self.assertEqual(node.decorator_list, [], f"L4 {at}")
+            told = [part.name for part in node.body if isinstance(part, ast.FunctionDef)]
+            self.assertEqual(len(told), len(set(told)), f"L18 {at}")
+            if "__getitem__" in told:
+                self.assertIn("__iter__", told, f"L5 {at}")
+
+    def test_l6_l7_statements_and_expressions(self):
+        self.holds("L6", (at for at, node in nodes(ast.stmt) if not isinstance(node, STATEMENTS)))
+        self.holds("L7", (at for at, node in nodes(ast.BinOp) if isinstance(node.op, (ast.Div, ast.MatMult))))
+        self.holds("L7", (at for at, node in nodes(ast.Constant) if isinstance(node.value, (float, complex))))
+        self.holds("L7, a class has __eq__", (at for at, _ in nodes(ast.GeneratorExp)))
+
+    def test_l8_l15_names(self):
+        for path, tree in trees():
+            top = list(bound_at_top(tree))
+            self.assertEqual(len(top), len(set(top)), f"L15 {path.name}")
+            inner = set(bound_in_functions(tree))
+            self.holds(f"L15 {path.name}", [name for name in {*top, *inner} if hasattr(builtins, name)])
+            barred = {alias.name for node in tree.body if isinstance(node, ast.ImportFrom) for alias in node.names}
+            barred |= {node.name for node in tree.body if isinstance(node, ast.ClassDef)}
+            self.holds(f"L15 {path.name}", barred & inner)
+            used = {node.id for node in ast.walk(tree) if isinstance(node, ast.Name)}
+            self.holds(f"L8 {path.name}", [name for name in used if hasattr(builtins, name) and name not in BUILTINS])
+            self.holds(f"L2 {path.name}", [name for name in barred if not re.search(
+                rf"\b{name}\b", "\n".join(ast.unparse(node) for node in tree.body
+                                          if not isinstance(node, ast.ImportFrom)))] if path.stem != "__init__" else [])
+
+    def test_l12_l17_l26_names(self):
+        for path, tree in trees():
+            told = {node.attr for node in ast.walk(tree) if isinstance(node, ast.Attribute)}
+            told |= set(bound_at_top(tree)) | set(bound_in_functions(tree))
+            told |= {node.name for node in ast.walk(tree) if isinstance(node, (ast.FunctionDef, ast.ClassDef))}
+            self.holds(f"L17 {path.name}", told & NOWHERE)
+            self.holds(f"L12 {path.name}", [name for name in told if not re.fullmatch(
+                r"_|__[a-z]+__|_?[A-Za-z][A-Za-z0-9_]*", name)])
+            words = set(re.findall(r"\w+", "\n".join(ast.unparse(node) for node in tree.body)))
+            self.holds(f"L17 {path.name}", words & NO_WORDS)
+
+    def test_l19_errors(self):
+        self.holds("L19", (at for at, node in nodes(ast.ExceptHandler) if node.type is None))
+        for at, node in nodes(ast.Raise):
+            self.assertTrue(node.exc is None or isinstance(node.exc, ast.Call) and isinstance(node.exc.func, ast.Name),
+                            f"L19 {at}")
+
+    def test_l20_is(self):
+        for at, node in nodes(ast.Compare):
+            for sign, side in zip(node.ops, node.comparators):
+                if isinstance(sign, (ast.Is, ast.IsNot)):
+                    self.assertTrue(isinstance(side, ast.Constant) and side.value in (None, True, False), f"L20 {at}")
+
+    def test_l5_l22_sorted_and_its_kin(self):
+        """Bag has an order, so these take what is plainly numbers or strings."""
+        plain = ("len", "int", "ord", "str", "repr", "range")
+        for at, node in nodes(ast.Call):
+            if isinstance(node.func, ast.Name) and node.func.id in ("sorted", "min", "max"):
+                told = ast.unparse(node)
+                starts = "|".join(rf"\[?{name}\(" for name in plain) + r"|set\(\[str\(|\[?f'|\d"
+                self.assertTrue(any(re.match(starts, ast.unparse(one)) for one in node.args), f"L5 {at} {told}")
+
+    def test_l25_methods(self):
+        own = {node.name for _, node in nodes(ast.FunctionDef)}
+        for at, node in nodes(ast.Call):
+            if isinstance(node.func, ast.Attribute):
+                self.assertTrue(node.func.attr in own | METHODS, f"L25 {at} {node.func.attr}")
+                if node.func.attr in METHODS:
+                    self.assertEqual(node.keywords, [], f"L25 {at}")
+
+    def test_l18_methods_and_attributes(self):
+        methods = {part.name for _, node in nodes(ast.ClassDef) for part in node.body
+                   if isinstance(part, ast.FunctionDef)}
+        stored = {node.attr for _, node in nodes(ast.Attribute) if isinstance(node.ctx, ast.Store)}
+        self.holds("L18", methods & stored)
+        self.holds("L26", (methods | stored) & (METHODS | set("args encode decode hex fromhex".split())))
+
+    def test_l23_generators(self):
+        made = [node.name for _, node in nodes(ast.FunctionDef)
+                if any(isinstance(part, (ast.Yield, ast.YieldFrom)) for part in ast.walk(node))]
+        told = [node.name for _, node in nodes(ast.FunctionDef)]
+        self.holds("L23", [name for name in made if name != "__iter__" and told.count(name) > 1])
+
+    def test_l27_strings(self):
+        for path, tree in trees():
+            told = [node for node in ast.walk(tree) if isinstance(node, ast.Constant) and isinstance(node.value, str)]
+            self.holds(f"L27 {path.name}", [node.lineno for node in told if "%" in node.value])
+            quiet = docstrings(tree)
+            self.holds(f"L17 {path.name}", [node.lineno for node in told if id(node) not in quiet
+                                            and re.search(r"\btype\b", node.value)])
+            escapes = re.findall(r"\\.", path.read_text())
+            self.holds(f"L27 {path.name}", [one for one in escapes if one[1] not in "nt\\\"'"])
+
+
+if __name__ == "__main__":
+    unittest.main()
