@@ -4,7 +4,9 @@ import unittest
 
 from rowcounts.bags import Bag
 from rowcounts.bases import Base
+from rowcounts.branches import Branch, Open
 from rowcounts.errors import BadBag
+from rowcounts.forms import Bound
 from rowcounts.questions import Empty, Table
 from rowcounts.truths import Below, Has, Missing
 
@@ -21,7 +23,7 @@ def any_values():
         {}, {"a": 1}, {"a": True}, {"x": None}, {1: 2}, {"a": []}, {(): ()}, nested, [nested], (nested,),
         Bag(), Bag(((1,), 2)), Base(("x",)), Base(("x", "y"), a=Bag(((1, None), 3))),
         Table("a"), Empty(), Table("a") - Table("b"), Below("x", 5), Missing("y"), Has(Table("a")), ~Below("x", 1),
-        BadBag("rows"), ValueError("x"),
+        Bound((1, -1)), Bound((), True), Branch(("a",)), Branch(("a", "b"), Bound((1, 2))), Open((1, 2)), BadBag("rows"),
     ]
 
 

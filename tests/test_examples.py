@@ -29,6 +29,13 @@ raises BadText(0, 5)
 [None, True, 'not ( x < 5 and has a )', True]
 >>> asked.often({"x": 4}, {"a": 1, "c": 1})
 raises NoTable('b')
+>>> from rowcounts.words import read_question, read_test
+>>> [read_question("( a - ( 3 * b ) )") == a - b * 3, read_question(str(asked)) == asked, str(read_test("not has ( a + b )"))]
+[True, True, 'not has ( a + b )']
+>>> read_question("( a + b - c )")
+raises BadText(0, 4)
+>>> read_test("x < y")
+raises BadText(0, 2)
 >>> from rowcounts.bases import Base
 >>> base = Base(("x",), a=Bag(((1,), 3), ((7,), 1)), b=Bag(((1,), 1), ((None,), 2)))
 >>> [str((a - b)(base)), str((a % Below("x", 5))(base)), str((b // Below("x", 5))(base)), str((a // Has(b))(base)), list(base.rows())]
@@ -37,6 +44,20 @@ raises NoTable('b')
 [{'a': 3, 'b': 1}, {'x': 7}, ('a', 'b'), '1 of 1', '1 of 1']
 >>> (a + c)(base)
 raises NoTable('c')
+>>> from rowcounts.forms import Bound, is_multiple
+>>> more, less = Bound((1, -1)), Bound((-1, 1), True)
+>>> [str(more), str(~more) == str(less), more((2, 2)), less([2, 2]), str(more + less), (more + less).is_false, str(2 * more + Bound((0, 1))), Bound.read("1 -1 >= 0") == more]
+['1 -1 >= 0', True, True, False, '0 0 > 0', True, '2 -1 >= 0', True]
+>>> [is_multiple((2, -4), (3, -6)), is_multiple((2, -4), (-1, 2)), is_multiple((0, 0), (0, 0)), is_multiple((0, 1), (0, 0))]
+[True, False, True, False]
+>>> Bound.read("1 1 > 1")
+raises BadText(0, 3)
+>>> from rowcounts.branches import Branch, Open, form_of
+>>> plain = Branch(("a", "b"))
+>>> [form_of(a + b * 2, {}, plain), form_of(a - b, {}, plain) == Open((1, -1)), form_of(a - b, {}, plain + more), form_of(a - b, {}, plain + less), form_of(a % Has(b), {}, plain) == Open((0, -1))]
+[(1, 2), True, (1, -1), (0, 0), True]
+>>> [plain.side((1, -1)), (plain + more).side((2, -2)), (plain + more).side((-1, 1)), (plain + Bound((0, 1), True)).stands((0, 3)), plain.stands((0, 0)), len(plain + more), plain((1, -1))]
+[None, True, False, True, False, 3, False]
 """
 
 

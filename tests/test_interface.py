@@ -41,9 +41,23 @@ MODULES = {
         "Where": "__init__(part,test)",
         "Unless": "__init__(part,test)",
     },
+    "forms": {
+        "Bound": """__init__(form,is_strict=False) __call__(numbers) __len__ is_false __add__ __mul__ __rmul__ __invert__
+                    __eq__ __str__ read(text)""",
+    },
+    "branches": {
+        "Branch": """__init__(names,*bounds) names bounds __iter__ __len__ __getitem__ __contains__ __add__
+                     __call__(numbers) __eq__ side(form) stands(form)""",
+        "Open": "__init__(form)",
+    },
 }
 
-FUNCTIONS = {}
+FUNCTIONS = {
+    "words.read_question": "text",
+    "words.read_test": "text",
+    "forms.is_multiple": "one,other",
+    "branches.form_of": "question,truths,branch",
+}
 
 
 def arguments(call):
