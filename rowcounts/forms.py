@@ -67,8 +67,7 @@ class Bound:
         return isinstance(other, Bound) and self.form == other.form and self.is_strict == other.is_strict
 
     def __str__(self):
-        sign = ">" if self.is_strict else ">="
-        return " ".join([*[str(factor) for factor in self.form], sign, "0"])
+        return " ".join([*[str(factor) for factor in self.form], ">" if self.is_strict else ">=", "0"])
 
 
 def is_multiple(one, other):

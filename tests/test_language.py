@@ -245,6 +245,17 @@ class LanguageTest(unittest.TestCase):
         told = [node.name for _, node in nodes(ast.FunctionDef)]
         self.holds("L23", [name for name in made if name != "__iter__" and told.count(name) > 1])
 
+    def test_l28_double_underscore_methods(self):
+        for at, node in nodes(ast.FunctionDef):
+            if node.name in ("__eq__", "__repr__", "__str__", "__len__"):
+                told = [part for part in ast.walk(node) if isinstance(part, (ast.Assign, ast.AugAssign, ast.Delete))]
+                self.assertEqual(told, [], f"L28 {at}")
+            if node.name in ("__repr__", "__str__", "__len__"):
+                self.assertIsInstance(node.body[-1], ast.Return, f"L28 {at}")
+            for part in ast.walk(node):
+                if isinstance(part, ast.Return) and node.name in ("__str__", "__repr__", "__len__"):
+                    self.assertRegex(ast.unparse(part), r"return (len\(|str\(|repr\(|f?'|'.*'\.join\()", f"L28 {at}")
+
     def test_l27_strings(self):
         for path, tree in trees():
             told = [node for node in ast.walk(tree) if isinstance(node, ast.Constant) and isinstance(node.value, str)]

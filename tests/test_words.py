@@ -122,6 +122,7 @@ class ReadingTest(WordsCase):
             "has ( a": 3, "has ( x null )": 3, "not": 1, "not not x null": 1, "not a": 2, "not ( not x null )": 5,
             "( x null )": 3, "( x null and )": 4, "( x null and x null": 6, "( x null and x null ) ": 7,
             "( x null and x null or x null )": 6, "( has a or has ( a + b ) ) )": 11, "( not not": 2, "self null": 0,
+            "x < \u00b2": 2, "x < \u0661": 2,
         }
         for text, word in wrong.items():
             self.refused(BadText(0, word), read_test, text)
