@@ -136,6 +136,9 @@ class Question(AnyQuestion):
 class Bare(Question):
     """The base of the questions without parts; it is not made itself."""
 
+    def __init__(self, text):
+        Question.__init__(self, text, (), ())
+
     def with_parts(self, parts):
         """The question itself: it has no parts."""
         return self
@@ -156,6 +159,9 @@ class Pair(Question):
 
 class Single(Question):
     """The base of the questions with one part; it is not made itself."""
+
+    def __init__(self, text, part, tests):
+        Question.__init__(self, text, (part,), tests)
 
 
 class Straight(Question):
@@ -185,7 +191,7 @@ class Table(Bare, Straight):
     def __init__(self, name):
         if not is_name(name):
             raise BadName(name)
-        Question.__init__(self, name, (), ())
+        Bare.__init__(self, name)
         self._names = (name,)
         self.name = name
 
@@ -202,7 +208,7 @@ class Empty(Bare, Straight):
     """No rows."""
 
     def __init__(self):
-        Question.__init__(self, "empty", (), ())
+        Bare.__init__(self, "empty")
 
     def number_at(self, values, counts):
         """The number of a row that is known to have all columns and tables."""
@@ -232,7 +238,7 @@ class Times(Single, Straight):
             raise BadNumber(number)
         if not isinstance(part, Question):
             raise BadQuestion("part")
-        Question.__init__(self, f"( {number} * {part} )", (part,), ())
+        Single.__init__(self, f"( {number} * {part} )", part, ())
         self.number = number
         self.part = part
 

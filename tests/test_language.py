@@ -100,6 +100,13 @@ def docstrings(tree):
             if isinstance(node, (ast.Module, ast.ClassDef, ast.FunctionDef)) and ast.get_docstring(node) is not None}
 
 
+def calls_of_init(tree):
+    """The calls of an __init__ by its name."""
+    for node in ast.walk(tree):
+        if isinstance(node, ast.Call) and isinstance(node.func, ast.Attribute) and node.func.attr == "__init__":
+            yield node
+
+
 class LanguageTest(unittest.TestCase):
 
     def holds(self, rule, wrong):
@@ -255,6 +262,21 @@ class LanguageTest(unittest.TestCase):
             for part in ast.walk(node):
                 if isinstance(part, ast.Return) and node.name in ("__str__", "__repr__", "__len__"):
                     self.assertRegex(ast.unparse(part), r"return (len\(|str\(|repr\(|f?'|'.*'\.join\()", f"L28 {at}")
+
+    def test_l28_the_init_of_a_base_class(self):
+        """Each X.__init__(self, ..) stands in an __init__, and X stands in the brackets of the very class."""
+        many = 0
+        for at, node in nodes(ast.ClassDef):
+            bases = [ast.unparse(base) for base in node.bases]
+            for method in [part for part in node.body if isinstance(part, ast.FunctionDef)]:
+                for call in calls_of_init(method):
+                    many += 1
+                    self.assertEqual(method.name, "__init__", f"L28 {at}")
+                    self.assertIn(ast.unparse(call.func.value), bases, f"L28 {at}")
+                    self.assertEqual(ast.unparse(call.args[0]), method.args.args[0].arg, f"L28 {at}")
+        told = [path.read_text().count(".__init__") for path in files()]
+        self.assertEqual(many, sum(told), "L28, all of them stand in classes and are called")
+        self.assertGreater(many, 20)
 
     def test_l27_strings(self):
         for path, tree in trees():
