@@ -3,7 +3,7 @@
 from rowcounts.basics import are_names
 from rowcounts.errors import BadBounds, BadForm, BadQuestion, BadTest, NoTable
 from rowcounts.forms import (
-    MOST_FACTORS, Bound, check_numbers_of, is_bound_of, is_form_of, is_multiple, minus_form, nought_form, rest_form,
+    MOST_FACTORS, Bound, check_numbers_of, is_bound_of, is_form_of, lowest_terms, minus_form, nought_form, rest_form,
     sum_form, times_form, unit_form,
 )
 from rowcounts.papers import kept, same
@@ -24,6 +24,8 @@ class Branch:
                 raise BadBounds(at)
         self._names = names
         self._bounds = (*unit_bounds(len(names)), *bounds)
+        self._plain = {lowest_terms(bound.form): True for bound in self._bounds}
+        self._standing = {lowest_terms(bound.form): True for bound in self._bounds if bound.is_strict}
 
     @property
     def names(self):
@@ -64,17 +66,21 @@ class Branch:
         """True if it is plain that a form is at least 0, False if that it is at most 0, otherwise None."""
         if not is_form_of(form, len(self._names)):
             raise BadForm("form")
-        if is_plain_side(form, self._bounds):
+        if self.is_at_least(form):
             return True
-        return False if is_plain_side(minus_form(form), self._bounds) else None
+        return False if self.is_at_least(minus_form(form)) else None
 
     def stands(self, form):
         """True if it is plain that a row stands so often at all, False if that it does not, otherwise None."""
         if not is_form_of(form, len(self._names)):
             raise BadForm("form")
-        if is_plain_standing(form, self._bounds):
+        if lowest_terms(form) in self._standing:
             return True
-        return False if is_plain_side(minus_form(form), self._bounds) else None
+        return False if self.is_at_least(minus_form(form)) else None
+
+    def is_at_least(self, form):
+        """Whether it is plain that a form is at least 0."""
+        return all([factor >= 0 for factor in form]) or lowest_terms(form) in self._plain
 
 
 class Open:
@@ -119,31 +125,27 @@ def unit_bounds(many):
     return tuple([Bound(unit_form(at, many)) for at in range(many)])
 
 
-def is_plain_side(form, bounds):
-    """Whether it is plain that a form is at least 0."""
-    if all([factor >= 0 for factor in form]):
-        return True
-    return any([is_multiple(form, bound.form) for bound in bounds])
-
-
-def is_plain_standing(form, bounds):
-    """Whether it is plain that a form is above 0."""
-    return any([bound.is_strict and is_multiple(form, bound.form) for bound in bounds])
-
-
 def form_in(question, truths, branch):
     """The same as form_of, for arguments that are known to fit."""
-    forms = []
-    for part in question.parts:
-        form = form_in(part, truths, branch)
-        if isinstance(form, Open):
-            return form
-        forms.append(form)
+    forms = forms_in(question.parts, truths, branch)
+    if isinstance(forms, Open):
+        return forms
     if isinstance(question, Bent):
         return bent_form(question, forms[0], forms[1], branch)
     if isinstance(question, Chosen):
         return chosen_form(question, forms[0], truths, branch)
     return straight_form(question, forms, branch)
+
+
+def forms_in(questions, truths, branch):
+    """The list of the forms that some questions are in a branch, or an Open for the first comparison that is open."""
+    forms = []
+    for question in questions:
+        form = form_in(question, truths, branch)
+        if isinstance(form, Open):
+            return form
+        forms.append(form)
+    return forms
 
 
 def bent_form(question, one, other, branch):

@@ -1,5 +1,7 @@
 """Forms, which are sums of multiples of numbers, and bounds, which say that a form is at least 0 or above 0."""
 
+from math import gcd
+
 from rowcounts.basics import is_integer
 from rowcounts.errors import BadForm, BadNumber, BadText
 from rowcounts.parsing import expect, expect_end, is_integer_word, word_at, words_of
@@ -80,6 +82,14 @@ def is_multiple(one, other):
     if one[at] * other[at] <= 0:
         return False
     return all([factor * other[at] == against * one[at] for factor, against in zip(one, other)])
+
+
+def lowest_terms(numbers):
+    """The tuple of some integers, divided by all that divides each of them; multiples by fractions above 0 have one."""
+    common = 0
+    for number in numbers:
+        common = gcd(common, number)
+    return tuple([number // common if common > 1 else number for number in numbers])
 
 
 def first_factor(form):

@@ -7,8 +7,12 @@ from rowcounts.bases import Base
 from rowcounts.branches import Branch, Open
 from rowcounts.errors import BadBag
 from rowcounts.forms import Bound
+from rowcounts.judge import Agreed, Leaf, Parted, Shown, Split
+from rowcounts.kinds import Kind
 from rowcounts.questions import Empty, Table
+from rowcounts.rules import Alike, Apart, Within
 from rowcounts.truths import Below, Has, Missing
+from rowcounts.weights import Clash, Point
 
 
 def any_values():
@@ -24,7 +28,29 @@ def any_values():
         Bag(), Bag(((1,), 2)), Base(("x",)), Base(("x", "y"), a=Bag(((1, None), 3))),
         Table("a"), Empty(), Table("a") - Table("b"), Below("x", 5), Missing("y"), Has(Table("a")), ~Below("x", 1),
         Bound((1, -1)), Bound((), True), Branch(("a",)), Branch(("a", "b"), Bound((1, 2))), Open((1, 2)), BadBag("rows"),
+        Point((1, 2)), Point([1]), Clash((1, 0)), Clash(None), Kind((), ()), Kind((("x", 5),), (True,)),
+        Leaf((1, 0)), Leaf([]), Split((1,), Leaf((1,)), Leaf((0, 1))), Shown((Leaf((1,)),)), Shown(5), Shown(()),
+        Agreed(Shown(()), Shown(())), Agreed(1, 2), Parted((), {"a": 1}), Parted((("x", None),), {}), Parted([], None),
+        Within(Table("a"), Table("b")), Alike(Table("a"), Empty()), Apart(Table("a"), Table("b")),
     ]
+
+
+PAPERS = (Open, Point, Clash, Kind, Leaf, Split, Shown, Agreed, Parted)
+
+
+def repr_of(value):
+    """A text of a value that tells its kind and all that is in it."""
+    if isinstance(value, (list, tuple)):
+        return type(value).__name__ + str([repr_of(item) for item in value])
+    if isinstance(value, dict):
+        return "dict" + str(sorted((repr_of(key), repr_of(item)) for key, item in value.items()))
+    if isinstance(value, Base):
+        return f"Base {value.columns} {[(name, str(value[name])) for name in value]}"
+    if isinstance(value, Branch):
+        return f"Branch {value.names} {[str(bound) for bound in value]}"
+    if isinstance(value, PAPERS):
+        return f"{type(value).__name__} {repr_of(vars(value))}"
+    return type(value).__name__ + (str(id(value)) if isinstance(value, Exception) else str(value))
 
 
 def is_integer(value):
@@ -57,6 +83,27 @@ class Case(unittest.TestCase):
             self.assertTrue(alike(vars(caught), vars(error)), f"{vars(caught)} instead of {vars(error)} for {told}")
             return
         self.fail(f"{found!r} instead of {error!r} for {told} {named}")
+
+    def check_paper(self, paper, *fields):
+        """A paper keeps any values, as they are when it is made, and equals what has the same class and attributes."""
+        for at, field in enumerate(fields):
+            def made(value):
+                return paper(*[value if place == at else 5 for place in range(len(fields))])
+            told = [(value, repr_of(value), made(value)) for value in any_values()]
+            for value, text, one in told:
+                self.assertEqual(repr_of(vars(one)[field]), text)
+                self.assertTrue(one == paper(**{**dict.fromkeys(fields, 5), field: value}))
+                self.same([one == value, one != value, one == 5], [False, True, False])
+                for _, other, another in told:
+                    self.same([one == another, one != another], [text == other, text != other])
+            for one, other in ((1, True), (0, False), ((1,), (True,)), ([0], [False]), ((), []), ({1: 2}, {True: 2})):
+                self.same(made(one) == made(other), False)
+            inner, table = [1], {"a": [2]}
+            kept = made((inner, table))
+            inner.append(2)
+            table["a"].append(3)
+            table["b"] = 4
+            self.same(vars(kept)[field], ([1], {"a": [2]}))
 
     def same(self, one, other):
         """Two values are equal, and their kinds, too."""

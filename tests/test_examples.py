@@ -58,6 +58,63 @@ raises BadText(0, 3)
 [(1, 2), True, (1, -1), (0, 0), True]
 >>> [plain.side((1, -1)), (plain + more).side((2, -2)), (plain + more).side((-1, 1)), (plain + Bound((0, 1), True)).stands((0, 3)), plain.stands((0, 0)), len(plain + more), plain((1, -1))]
 [None, True, False, True, False, 3, False]
+>>> from rowcounts.weights import Clash, Point, settled, shows_clash, shows_point
+>>> [shows_clash([more, less], 2, settled([more, less], 2)), bool(settled([more], 2)), shows_clash([more, less, Bound((1, 0))], 2, Clash((3, 3, 0))), shows_clash([more], 2, Clash((0,))), shows_point([more, ~less], 2, Point((-5, -7)))]
+[True, True, True, False, True]
+>>> from rowcounts.judge import Agreed, Leaf, Parted, Shown, Split, alike, never_more
+>>> from rowcounts.look_judge import shows_agreed, shows_parted, shows_shown
+>>> from rowcounts.rules import Apart, Within
+>>> tree = Split((1, -1), Leaf((0, 1, 0, 1)), Leaf((1, 0, 0, 1)))
+>>> [shows_shown(a, a + b, Shown((Leaf((0, 1, 1)),))), shows_shown(a - b, a, Shown((tree,))), shows_shown(a, c, Shown((Leaf((0, 0, 0, 1, 1, 1)),)), Within(a, b), Within(b, c))]
+[True, True, True]
+>>> [bool(alike((a - b) - c, a - (b + c))), bool(never_more(a & (b + c), (a & b) + (a & c))), bool(never_more((a & b) + (a & c), a & (b + c))), bool(alike(a - (a - b), a & b))]
+[True, True, False, True]
+>>> [shows_parted(a - b, a // Has(b), Parted((), {"a": 2, "b": 1})), shows_parted(a - b, a // Has(b), Parted((), {"a": 1, "b": 1})), bool(never_more(a, a - b, Apart(a, b)))]
+[True, False, True]
+>>> found = never_more(a // Below("x", 5), a % ~Below("x", 5))
+>>> [bool(found), found.row, found.counts["a"] > 0, bool(alike(a % Below("x", 5) + a // Below("x", 5), a))]
+[False, (('x', None),), True, True]
+>>> never_more(a, b, Within(a, b), (a, b))
+raises BadRule(1)
+>>> from rowcounts.kinds import Kind, kinds
+>>> from rowcounts.truths import Equals, Missing
+>>> [(kind.row, kind.truths) for kind in kinds(Below("x", 5))]
+[((('x', 4),), (True,)), ((('x', 5),), (False,)), ((('x', None),), (None,))]
+>>> [kind.truths for kind in kinds(Equals("x", 5), Below("x", 5))]
+[(True, False), (False, True), (False, False), (None, None)]
+>>> [kinds() == (Kind((), ()),), kinds(Missing("x"))[1].row, len(kinds(Below("x", 5), Missing("y")))]
+[True, (('x', None),), 6]
+>>> from rowcounts.least import least_parted, shows_least
+>>> spread = (a & b) + (a & c)
+>>> [least_parted(spread, a & (b + c)).counts, least_parted(a & (b + c), spread), least_parted(a - b, a // Has(b)).counts]
+[{'a': 1, 'b': 1, 'c': 1}, None, {'a': 2, 'b': 1}]
+>>> low = Below("x", 5)
+>>> least_parted(a // low, a % ~low) == Parted((("x", None),), {"a": 1})
+True
+>>> [least_parted(a, b, Within(a, b)), shows_least(a, b, Parted((), {"a": 1, "b": 0})), shows_least(a, b, Parted((), {"a": 2, "b": 1}))]
+[None, True, False]
+>>> least_parted(a % Has(b), (b + b) * 9)
+raises TooMany('counts', 12)
+>>> from rowcounts.hangs import gain, harms, helps, loss, never_any, plays_part, same_rows
+>>> [helps(a - b, "a"), helps(a - b, "b"), harms(a - b, "b"), plays_part((a - a) + b, "a"), helps(a % Has(a - b), "a")]
+[True, False, True, False, True]
+>>> [gain(a - b, "a"), gain(a - b, "b"), loss(a - b, "b"), gain(a + a - b, "a"), gain(a % Has(a - b), "a"), gain((a + a) * 9, "a")]
+[1, 0, 1, 2, None, None]
+>>> [never_any((a & b) - a), same_rows(a + b, a | b), same_rows(a - b, a // Has(b))]
+[True, True, False]
+>>> helps(a - b, "c")
+raises NoTable('c')
+>>> from rowcounts.shortest import explains, shortest
+>>> [str(shortest(a - (a - b))), str(shortest(a + b - b)), str(shortest((a & b) + (a | b))), str(shortest((a & b) - a)), shortest(a * 3 - b)]
+['( a & b )', 'a', '( a + b )', 'empty', None]
+>>> [str(explains([({"a": 2, "b": 1}, 1), ({"a": 1, "b": 2}, 0)])), explains([({"a": 1}, 9)]), str(explains([]))]
+['( a - b )', None, 'empty']
+>>> from rowcounts.rules import Alike, Inside
+>>> base = Base(("x",), a=Bag(((1,), 2), ((3,), 1)), b=Bag(((1,), 1)))
+>>> [Within(b, a)(base), Within(a, b).broken_at(base), Inside(a, b).broken_at(base), Apart(a, b).broken_at(base), len(Alike(a, b).pairs)]
+[True, (1,), (3,), (1,), 2]
+>>> Inside(a, b).pairs[0] == (a // Has(b), Empty())
+True
 """
 
 

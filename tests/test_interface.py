@@ -48,7 +48,27 @@ MODULES = {
     "branches": {
         "Branch": """__init__(names,*bounds) names bounds __iter__ __len__ __getitem__ __contains__ __add__
                      __call__(numbers) __eq__ side(form) stands(form)""",
-        "Open": "__init__(form)",
+        "Open": "__init__(form) __eq__",
+    },
+    "weights": {
+        "Point": "__init__(counts) __bool__ __eq__",
+        "Clash": "__init__(weights) __bool__ __eq__",
+    },
+    "rules": {
+        "Rule": "pairs __call__(base) broken_at(base) __eq__ __str__ read(text)",
+        "Within": "__init__(one,other)",
+        "Alike": "__init__(one,other)",
+        "Apart": "__init__(one,other)",
+        "Inside": "__init__(one,other)",
+    },
+    "kinds": {"Kind": "__init__(row,truths) __eq__"},
+    "judge": {
+        "Verdict": "",
+        "Shown": "__init__(trees) __bool__ __eq__",
+        "Agreed": "__init__(first,last) __bool__ __eq__",
+        "Parted": "__init__(row,counts) __bool__ __eq__",
+        "Split": "__init__(form,yes,no) __eq__",
+        "Leaf": "__init__(weights) __eq__",
     },
 }
 
@@ -57,6 +77,26 @@ FUNCTIONS = {
     "words.read_test": "text",
     "forms.is_multiple": "one,other",
     "branches.form_of": "question,truths,branch",
+    "weights.settled": "bounds,many",
+    "weights.shows_point": "bounds,many,value",
+    "weights.shows_clash": "bounds,many,value",
+    "kinds.kinds": "*conditions",
+    "judge.never_more": "one,other,*rules",
+    "judge.alike": "one,other,*rules",
+    "look_judge.shows_shown": "one,other,value,*rules",
+    "look_judge.shows_agreed": "one,other,value,*rules",
+    "look_judge.shows_parted": "one,other,value,*rules",
+    "least.least_parted": "one,other,*rules",
+    "least.shows_least": "one,other,paper,*rules",
+    "hangs.helps": "question,name",
+    "hangs.harms": "question,name",
+    "hangs.plays_part": "question,name",
+    "hangs.gain": "question,name",
+    "hangs.loss": "question,name",
+    "hangs.never_any": "question",
+    "hangs.same_rows": "one,other",
+    "shortest.shortest": "question",
+    "shortest.explains": "samples",
 }
 
 

@@ -228,7 +228,7 @@ class LanguageTest(unittest.TestCase):
         for at, node in nodes(ast.Call):
             if isinstance(node.func, ast.Name) and node.func.id in ("sorted", "min", "max"):
                 told = ast.unparse(node)
-                starts = "|".join(rf"\[?{name}\(" for name in plain) + r"|set\(\[str\(|\[?f'|\d"
+                starts = "|".join(rf"\[?{name}\(" for name in plain) + r"|set\(\[(str|int)\(|\[?f'|\d"
                 self.assertTrue(any(re.match(starts, ast.unparse(one)) for one in node.args), f"L5 {at} {told}")
 
     def test_l25_methods(self):
@@ -245,6 +245,27 @@ class LanguageTest(unittest.TestCase):
         stored = {node.attr for _, node in nodes(ast.Attribute) if isinstance(node.ctx, ast.Store)}
         self.holds("L18", methods & stored)
         self.holds("L26", (methods | stored) & (METHODS | set("args encode decode hex fromhex".split())))
+
+    def test_l5_properties(self):
+        told = {node.name for _, node in nodes(ast.FunctionDef) if "property" in map(ast.unparse, node.decorator_list)}
+        others = {node.name for _, node in nodes(ast.FunctionDef) if "property" not in map(ast.unparse, node.decorator_list)}
+        stored = {node.attr for _, node in nodes(ast.Attribute) if isinstance(node.ctx, ast.Store)}
+        self.holds("L5", told & (others | stored | METHODS))
+        self.assertGreater(len(told), 10)
+
+    def test_l23_l24_iterated_at_once(self):
+        """Sets, zip and its kin stand straight in what uses them up, and not in an assignment or a return."""
+        for at, node in nodes((ast.Assign, ast.Return)):
+            value = node.value
+            if isinstance(value, ast.Call) and isinstance(value.func, ast.Name):
+                self.assertNotIn(value.func.id, ("zip", "enumerate", "reversed", "map", "range", "set"), f"L23 {at}")
+            self.assertNotIsInstance(value, (ast.Set, ast.SetComp), f"L24 {at}")
+        for at, node in nodes(ast.Call):
+            if isinstance(node.func, ast.Name) and node.func.id in ("sorted", "len"):
+                continue
+            for part in node.args:
+                is_set = isinstance(part, ast.Call) and ast.unparse(part.func) in ("set", "frozenset")
+                self.assertFalse(is_set or isinstance(part, (ast.Set, ast.SetComp)), f"L24 {at}")
 
     def test_l23_generators(self):
         made = [node.name for _, node in nodes(ast.FunctionDef)
