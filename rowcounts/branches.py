@@ -6,7 +6,7 @@ from rowcounts.forms import (
     MOST_FACTORS, Bound, check_numbers_of, is_bound_of, is_form_of, lowest_terms, minus_form, nought_form, rest_form,
     sum_form, times_form, unit_form,
 )
-from rowcounts.papers import kept, same
+from rowcounts.papers import own_copy, same
 from rowcounts.questions import Bent, Both, Chosen, Greater, Lesser, Question, Table, Times, Where
 from rowcounts.truths import (
     And, Condition, Has, Not, truth_of_both, truth_of_either, truth_of_opposite,
@@ -87,7 +87,7 @@ class Open:
     """A paper: a comparison is open, which it is no longer with a bound on this form."""
 
     def __init__(self, form):
-        self.form = kept(form)
+        self.form = own_copy(form)
 
     def __eq__(self, other):
         return isinstance(other, Open) and same(self.form, other.form)
@@ -134,7 +134,7 @@ def form_in(question, truths, branch):
         return bent_form(question, forms[0], forms[1], branch)
     if isinstance(question, Chosen):
         return chosen_form(question, forms[0], truths, branch)
-    return straight_form(question, forms, branch)
+    return straight_form(question, forms, branch.names)
 
 
 def forms_in(questions, truths, branch):
@@ -152,13 +152,16 @@ def bent_form(question, one, other, branch):
     """The form of a question that compares two parts, out of their forms."""
     rest = rest_form(one, other)
     is_more = branch.side(rest)
-    if is_more is None:
-        return Open(rest)
+    return Open(rest) if is_more is None else compared_form(question, one, other, is_more)
+
+
+def compared_form(question, one, other, is_more):
+    """The same if it is known whether the first form is at least, or at most, the second one."""
     if isinstance(question, Lesser):
         return other if is_more else one
     if isinstance(question, Greater):
         return one if is_more else other
-    return rest if is_more else nought_form(len(rest))
+    return rest_form(one, other) if is_more else nought_form(len(one))
 
 
 def chosen_form(question, form, truths, branch):
@@ -170,15 +173,15 @@ def chosen_form(question, form, truths, branch):
     return form if is_kept else nought_form(len(form))
 
 
-def straight_form(question, forms, branch):
-    """The form of a question that compares nothing, out of the forms of its parts."""
+def straight_form(question, forms, names):
+    """The form of a question that compares nothing, out of the forms of its parts, over the tables of these names."""
     if isinstance(question, Both):
         return sum_form(forms[0], forms[1])
     if isinstance(question, Times):
         return times_form(question.number, forms[0])
     if isinstance(question, Table):
-        return unit_form(branch.names.index(question.name), len(branch.names))
-    return nought_form(len(branch.names))
+        return unit_form(names.index(question.name), len(names))
+    return nought_form(len(names))
 
 
 def truth_in(test, truths, branch):
@@ -186,7 +189,7 @@ def truth_in(test, truths, branch):
     if isinstance(test, Condition):
         return truths[str(test)]
     if isinstance(test, Has):
-        return standing_in(test.question, truths, branch)
+        return standing_in(test.asked, truths, branch)
     if isinstance(test, Not):
         truth = truth_in(test.test, truths, branch)
         return truth if isinstance(truth, Open) else truth_of_opposite(truth)

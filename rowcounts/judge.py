@@ -3,7 +3,7 @@
 from rowcounts.branches import Open, forms_in
 from rowcounts.forms import Bound, nought_form
 from rowcounts.judgements import judgement_of
-from rowcounts.papers import kept, same
+from rowcounts.papers import own_copy, same
 from rowcounts.weights import Point, point_or_clash
 
 
@@ -15,7 +15,7 @@ class Shown(Verdict):
     """A paper: trees that show, kind by kind, that one question never tells a row more often than another one."""
 
     def __init__(self, trees):
-        self.trees = kept(trees)
+        self.trees = own_copy(trees)
 
     def __bool__(self):
         return True
@@ -28,8 +28,8 @@ class Agreed(Verdict):
     """A paper: two Showns, of two questions and of the same the other way about."""
 
     def __init__(self, first, last):
-        self.first = kept(first)
-        self.last = kept(last)
+        self.first = own_copy(first)
+        self.last = own_copy(last)
 
     def __bool__(self):
         return True
@@ -42,8 +42,8 @@ class Parted(Verdict):
     """A paper: a row with counts that one question tells more often than another one."""
 
     def __init__(self, row, counts):
-        self.row = kept(row)
-        self.counts = kept(counts)
+        self.row = own_copy(row)
+        self.counts = own_copy(counts)
 
     def __bool__(self):
         return False
@@ -56,9 +56,9 @@ class Split:
     """A paper, a tree: in yes a form is at least 0, in no it is below."""
 
     def __init__(self, form, yes, no):
-        self.form = kept(form)
-        self.yes = kept(yes)
-        self.no = kept(no)
+        self.form = own_copy(form)
+        self.yes = own_copy(yes)
+        self.no = own_copy(no)
 
     def __eq__(self, other):
         if not isinstance(other, Split) or not same(self.form, other.form):
@@ -70,7 +70,7 @@ class Leaf:
     """A paper, a tree: weights by which the bounds add up to one that holds nowhere."""
 
     def __init__(self, weights):
-        self.weights = kept(weights)
+        self.weights = own_copy(weights)
 
     def __eq__(self, other):
         return isinstance(other, Leaf) and same(self.weights, other.weights)

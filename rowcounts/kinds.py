@@ -2,7 +2,7 @@
 
 from rowcounts.basics import ordered_texts
 from rowcounts.errors import BadTest, TooMany
-from rowcounts.papers import kept, same
+from rowcounts.papers import own_copy, same
 from rowcounts.truths import Condition, Missing, unlike_conditions
 
 MOST_CONDITIONS = 3
@@ -12,8 +12,8 @@ class Kind:
     """A paper: the columns of some conditions with values of a row, and the truths of the conditions for it."""
 
     def __init__(self, row, truths):
-        self.row = kept(row)
-        self.truths = kept(truths)
+        self.row = own_copy(row)
+        self.truths = own_copy(truths)
 
     def __eq__(self, other):
         return isinstance(other, Kind) and same(self.row, other.row) and same(self.truths, other.truths)

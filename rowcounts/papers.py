@@ -1,14 +1,14 @@
 """What all papers share: they may be made of any values, and kinds count when they are compared."""
 
 
-def kept(value):
+def own_copy(value):
     """A value as a paper keeps it: its lists and dicts are new ones, which nobody else changes."""
     if isinstance(value, tuple):
-        return tuple([kept(item) for item in value])
+        return tuple([own_copy(item) for item in value])
     if isinstance(value, list):
-        return [kept(item) for item in value]
+        return [own_copy(item) for item in value]
     if isinstance(value, dict):
-        return {key: kept(value[key]) for key in value}
+        return {key: own_copy(value[key]) for key in value}
     return value
 
 

@@ -137,15 +137,15 @@ class Has(Test):
             raise BadQuestion("question")
         Test.__init__(self, f"has {question}", (question,))
         self._size = 1 + question.size
-        self.question = question
+        self.asked = question
 
     def known(self, values, counts):
         """The truth for a row that is known to have all columns and tables."""
-        return self.question.number_at(values, counts) > 0
+        return self.asked.number_at(values, counts) > 0
 
     def filled_by(self, parts):
         """The same with questions in the place of table names."""
-        return Has(self.question.filled_by(parts))
+        return Has(self.asked.filled_by(parts))
 
 
 class And(Test):

@@ -9,7 +9,7 @@ from rowcounts.errors import BadBounds, BadNumber
 from rowcounts.forms import (
     MOST_FACTORS, is_bound_of, is_nought, lowest_terms, nought_form, sum_form, times_form, unit_form,
 )
-from rowcounts.papers import kept, same
+from rowcounts.papers import own_copy, same
 
 MOST_BOUNDS = 80
 
@@ -18,7 +18,7 @@ class Point:
     """A paper: numbers at which all bounds hold."""
 
     def __init__(self, counts):
-        self.counts = kept(counts)
+        self.counts = own_copy(counts)
 
     def __bool__(self):
         return True
@@ -31,7 +31,7 @@ class Clash:
     """A paper: weights by which the bounds add up to one that holds nowhere."""
 
     def __init__(self, weights):
-        self.weights = kept(weights)
+        self.weights = own_copy(weights)
 
     def __bool__(self):
         return False

@@ -4,12 +4,16 @@ import unittest
 
 from rowcounts.bags import Bag
 from rowcounts.bases import Base
+from rowcounts.books import Book
 from rowcounts.branches import Branch, Open
 from rowcounts.errors import BadBag
 from rowcounts.forms import Bound
 from rowcounts.judge import Agreed, Leaf, Parted, Shown, Split
 from rowcounts.kinds import Kind
+from rowcounts.plans import Plan
 from rowcounts.questions import Empty, Table
+from rowcounts.rewrites import Rewrite
+from rowcounts.rooms import Later, Piece, Room, Share
 from rowcounts.rules import Alike, Apart, Within
 from rowcounts.truths import Below, Has, Missing
 from rowcounts.weights import Clash, Point
@@ -32,10 +36,13 @@ def any_values():
         Leaf((1, 0)), Leaf([]), Split((1,), Leaf((1,)), Leaf((0, 1))), Shown((Leaf((1,)),)), Shown(5), Shown(()),
         Agreed(Shown(()), Shown(())), Agreed(1, 2), Parted((), {"a": 1}), Parted((("x", None),), {}), Parted([], None),
         Within(Table("a"), Table("b")), Alike(Table("a"), Empty()), Apart(Table("a"), Table("b")),
+        Book(), Book(Within(Table("a"), Table("b"))), Rewrite(Table("a"), Table("a")), Plan(Table("a")),
+        Plan(Table("a"), Rewrite(Table("a"), Table("a"))), Piece((1, 0), (1, 2)), Piece([1], None), Share((1,), 1),
+        Share((), True), Room(1, (Piece((1,), (1,)),), Share((1,), 1)), Room(0, (), {"a": 1}), Later({"a": 1}, 0, 1),
     ]
 
 
-PAPERS = (Open, Point, Clash, Kind, Leaf, Split, Shown, Agreed, Parted)
+PAPERS = (Open, Point, Clash, Kind, Leaf, Split, Shown, Agreed, Parted, Piece, Share, Room, Later)
 
 
 def repr_of(value):
@@ -48,9 +55,11 @@ def repr_of(value):
         return f"Base {value.columns} {[(name, str(value[name])) for name in value]}"
     if isinstance(value, Branch):
         return f"Branch {value.names} {[str(bound) for bound in value]}"
+    if isinstance(value, Plan):
+        return f"Plan {value.begun} {value.question} {[str(one) for one in value.rewrites]} {value.log}"
     if isinstance(value, PAPERS):
         return f"{type(value).__name__} {repr_of(vars(value))}"
-    return type(value).__name__ + (str(id(value)) if isinstance(value, Exception) else str(value))
+    return type(value).__name__ + " " + (str(id(value)) if isinstance(value, Exception) else str(value))
 
 
 def is_integer(value):

@@ -113,7 +113,39 @@ raises NoTable('c')
 >>> base = Base(("x",), a=Bag(((1,), 2), ((3,), 1)), b=Bag(((1,), 1)))
 >>> [Within(b, a)(base), Within(a, b).broken_at(base), Inside(a, b).broken_at(base), Apart(a, b).broken_at(base), len(Alike(a, b).pairs)]
 [True, (1,), (3,), (1,), 2]
->>> Inside(a, b).pairs[0] == (a // Has(b), Empty())
+>>> from rowcounts.books import Book
+>>> chain = Book(Within(a, b), Within(b, c), Within(a, c))
+>>> [chain.needless(), len(chain.bare()), len(chain[:2].follows(chain[2])), chain[:1].first_broken(base)]
+[(2,), 2, 1, (0, (1,))]
+>>> [len(Book(Apart(a, b)).follows(Alike(a, a - b))), isinstance(Book(Inside(a, b)).follows(Within(a, b)), Parted), Inside(a, b).pairs[0] == (a // Has(b), Empty())]
+[2, True, True]
+>>> from rowcounts.plans import Plan
+>>> from rowcounts.rewrites import Rewrite
+>>> x, y, z = Table("x"), Table("y"), Table("z")
+>>> twice, wrong, chained = Rewrite(x - (x - y), x & y), Rewrite(x - y, x // Has(y)), Rewrite((x - y) - z, x - (y + z))
+>>> [twice.is_right, wrong.is_right, chained.is_right, bool(wrong.verdict), chained.back().is_right]
+[True, False, True, False, True]
+>>> deep = c + ((a & b) - ((a & b) - c))
+>>> [list(twice.places(deep)), twice.fits(deep, (1,)) == {"x": a & b, "y": c}, twice.fits(deep, ()), twice.done(deep, (1,)) == c + ((a & b) & c)]
+[[(1,)], True, None, True]
+>>> plan = Plan(deep, twice, chained)
+>>> [list(plan.each_step()), plan.shrink(), plan.size, plan.log, plan.question(base.with_bag("c", Bag())) == deep(base.with_bag("c", Bag()))]
+[[(0, (1,))], 1, 3, ('do 0 1',), True]
+>>> plan.question = c
+raises Unlike
+>>> plan.question = ((a & b) & c) + c
+>>> [plan.deeds, plan.undo(), plan.undo(), plan.question == deep, plan.deeds]
+[2, 'turn', 'shrink', True, 0]
+>>> Rewrite(x, x + (y - y))
+raises BadRewrite('blank')
+>>> from rowcounts.rooms import pieces, room, shows_room, told_apart
+>>> [[piece.form for piece in pieces(one)] for one in (a - b, a & b, a + b, (a - b) + (b - a))]
+[[(0, 0), (1, -1)], [(0, 1), (1, 0)], [(1, 1)], [(-1, 1), (1, -1)]]
+>>> [room(one).rank for one in (a - b, a & b, a + b, (a - b) + (b - a), a * 3 - (a & b) * 3, Empty())]
+[1, 2, 1, 1, 1, 0]
+>>> [told_apart(a - b, {"a": 5, "b": 3}, {"a": 4, "b": 2}), told_apart(a & b, {"a": 1, "b": 0}, {"a": 0, "b": 1}) is None]
+[None, False]
+>>> shows_room(a - b, room(a - b))
 True
 """
 
@@ -130,8 +162,13 @@ def example_lines(text):
 def answer_of(line, names):
     """What a line answers, as the document shows it."""
     try:
+        if line.startswith("plan.question = "):
+            exec(line, names)
         return repr(eval(line, names))
     except errors.CountError as error:
+        if isinstance(error, (errors.Unlike, errors.Breaks)):
+            # The document does not show the papers and rules that these errors have.
+            return f"raises {type(error).__name__}"
         fields = ", ".join(repr(field) for field in vars(error).values())
         return f"raises {type(error).__name__}({fields})"
 

@@ -70,6 +70,24 @@ MODULES = {
         "Split": "__init__(form,yes,no) __eq__",
         "Leaf": "__init__(weights) __eq__",
     },
+    "books": {
+        "Book": """__init__(*rules) __iter__ __len__ __contains__ __getitem__ pairs __add__ __sub__ __eq__ keeps(base)
+                   first_broken(base) follows(rule) needless() bare() __str__ read(text)""",
+    },
+    "rewrites": {
+        "Rewrite": """__init__(pattern,replacement) verdict is_right back() fits(question,place) places(question)
+                      done(question,place) __eq__ __str__ read(text)""",
+    },
+    "plans": {
+        "Plan": """__init__(question,*rewrites) question begun rewrites size turn(question) do(at,place) each_step()
+                   shrink() papers log undo() deeds trial() tried(work) attempt(work) twin() __eq__""",
+    },
+    "rooms": {
+        "Piece": "__init__(form,point) __eq__",
+        "Room": "__init__(rank,kept,tree) __eq__",
+        "Share": "__init__(shares,divisor) __eq__",
+        "Later": "__init__(counts,one,other) __eq__",
+    },
 }
 
 FUNCTIONS = {
@@ -97,6 +115,10 @@ FUNCTIONS = {
     "hangs.same_rows": "one,other",
     "shortest.shortest": "question",
     "shortest.explains": "samples",
+    "rooms.pieces": "question",
+    "rooms.room": "question",
+    "rooms.shows_room": "question,value",
+    "rooms.told_apart": "question,counts,others",
 }
 
 

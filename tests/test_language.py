@@ -100,6 +100,14 @@ def docstrings(tree):
             if isinstance(node, (ast.Module, ast.ClassDef, ast.FunctionDef)) and ast.get_docstring(node) is not None}
 
 
+def is_setter(node):
+    return f"{node.name}.setter" in map(ast.unparse, node.decorator_list)
+
+
+def is_generator(node):
+    return any(isinstance(part, (ast.Yield, ast.YieldFrom)) for part in ast.walk(node))
+
+
 def calls_of_init(tree):
     """The calls of an __init__ by its name."""
     for node in ast.walk(tree):
@@ -168,12 +176,13 @@ class LanguageTest(unittest.TestCase):
     def test_l4_l5_functions_and_classes(self):
         for at, node in nodes(ast.FunctionDef):
             told = [ast.unparse(one) for one in node.decorator_list]
-            self.holds(f"L4 {at}", [one for one in told if one not in ("property", "staticmethod", "classmethod")])
+            known = ("property", "staticmethod", "classmethod", f"{node.name}.setter")
+            self.holds(f"L4 {at}", [one for one in told if one not in known])
             if node.name.startswith("__"):
                 self.assertIn(node.name.strip("_"), DOUBLE, f"L5 {at}")
         for at, node in nodes(ast.ClassDef):
             self.assertEqual(node.decorator_list, [], f"L4 {at}")
-            told = [part.name for part in node.body if isinstance(part, ast.FunctionDef)]
+            told = [part.name for part in node.body if isinstance(part, ast.FunctionDef) and not is_setter(part)]
             self.assertEqual(len(told), len(set(told)), f"L18 {at}")
             if "__getitem__" in told:
                 self.assertIn("__iter__", told, f"L5 {at}")
@@ -248,7 +257,8 @@ class LanguageTest(unittest.TestCase):
 
     def test_l5_properties(self):
         told = {node.name for _, node in nodes(ast.FunctionDef) if "property" in map(ast.unparse, node.decorator_list)}
-        others = {node.name for _, node in nodes(ast.FunctionDef) if "property" not in map(ast.unparse, node.decorator_list)}
+        others = {node.name for _, node in nodes(ast.FunctionDef)
+                  if "property" not in map(ast.unparse, node.decorator_list) and not is_setter(node)}
         stored = {node.attr for _, node in nodes(ast.Attribute) if isinstance(node.ctx, ast.Store)}
         self.holds("L5", told & (others | stored | METHODS))
         self.assertGreater(len(told), 10)
@@ -268,10 +278,11 @@ class LanguageTest(unittest.TestCase):
                 self.assertFalse(is_set or isinstance(part, (ast.Set, ast.SetComp)), f"L24 {at}")
 
     def test_l23_generators(self):
-        made = [node.name for _, node in nodes(ast.FunctionDef)
-                if any(isinstance(part, (ast.Yield, ast.YieldFrom)) for part in ast.walk(node))]
-        told = [node.name for _, node in nodes(ast.FunctionDef)]
-        self.holds("L23", [name for name in made if name != "__iter__" and told.count(name) > 1])
+        """The document asks for two generators of the name places, so generators may share one."""
+        made = {node.name for _, node in nodes(ast.FunctionDef) if is_generator(node)} - {"__iter__"}
+        told = {node.name for _, node in nodes(ast.FunctionDef) if not is_generator(node)}
+        stored = {node.attr for _, node in nodes(ast.Attribute) if isinstance(node.ctx, ast.Store)}
+        self.holds("L23", made & (told | stored))
 
     def test_l28_double_underscore_methods(self):
         for at, node in nodes(ast.FunctionDef):

@@ -36,13 +36,21 @@ def first_wrong(words, goal):
             stack.append("question")
         elif top in ("test", "other test") and is_name(word):
             stack.append("comparing")
+        elif top == "rule" and word in ("within", "alike", "apart", "inside"):
+            stack += ["question", ";", "question"]
+        elif top == "rewrite" or top == "book" and word != "none":
+            stack += ["question", "->", "question"] if top == "rewrite" else ["more rules", "rule"]
+            at -= 1
+        elif top == "more rules" and word == "/":
+            stack += ["more rules", "rule"]
         elif top == "comparing" and word in ("<", "<=", "=", "null"):
             stack += ["number"] if word != "null" else []
-        elif not (top == "number" and is_number(word)) and not (top == word and top in (")", "*")):
+        elif not (top == "number" and is_number(word)) and not (top == word and top in (")", "*", ";", "->")) and not (
+                top == "book" and word == "none"):
             return at
         opened -= 1 if top == word == ")" else 0
         at += 1
-    return None if not stack and at == len(words) else at
+    return None if stack in ([], ["more rules"]) and at == len(words) else at
 
 
 def is_number(word):
