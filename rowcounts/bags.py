@@ -31,10 +31,7 @@ class Bag:
     def read(text):
         """The bag with this text."""
         words = words_of(text)
-        if word_at(words, 0) == "none":
-            expect_end(words, 1)
-            return Bag()
-        pairs = pairs_of_words(words)
+        pairs = pairs_at(words, 0, 1, MOST_VALUES)
         return Bag(*pairs)
 
     @property
@@ -172,19 +169,27 @@ def rows_of(one, other):
     return list({row: True for row, _ in [*one, *other]})
 
 
-def pairs_of_words(words):
-    """The pairs of a text of at least one row."""
-    pairs = []
-    at = 0
-    more = True
+def pairs_at(words, at, least, most):
+    """The pairs of the bag whose words begin at an index, its rows with so many values at least and at most."""
+    if word_at(words, at) == "none":
+        expect_end(words, at + 1)
+        return []
+    times, row, more = pair_at(words, at, None, least, most)
+    pairs = [(row, times)]
     while more:
-        times = times_at(words, at)
-        expect(words, at + 1, "of")
-        row, more = row_at(words, at + 2, pairs[-1][0] if pairs else None)
-        pairs.append((row, times))
         at = at + 2 + len(row)
-    expect_end(words, at)
+        times, row, more = pair_at(words, at, row, len(row), len(row))
+        pairs.append((row, times))
+    expect_end(words, at + 2 + len(row))
     return pairs
+
+
+def pair_at(words, at, ahead, least, most):
+    """The number and the row that begin at an index, behind another row or None, and whether a comma ends them."""
+    times = times_at(words, at)
+    expect(words, at + 1, "of")
+    row, more = row_at(words, at + 2, ahead, least, most)
+    return times, row, more
 
 
 def times_at(words, at):
@@ -195,9 +200,8 @@ def times_at(words, at):
     return int(word)
 
 
-def row_at(words, at, ahead):
-    """The row that begins at an index, behind another one or None, and whether a comma ends it."""
-    least, most = (1, MOST_VALUES) if ahead is None else (len(ahead), len(ahead))
+def row_at(words, at, ahead, least, most):
+    """The row of so many values that begins at an index, behind another one or None, and whether a comma ends it."""
     row = ()
     while len(row) < most:
         here = at + len(row)

@@ -69,15 +69,7 @@ class Book:
 
     def follows(self, rule):
         """The Showns of all pairs of a rule, under the rules of the book, or the Parted of the first that has one."""
-        if not isinstance(rule, Rule):
-            raise BadRule("rule")
-        found = []
-        for one, other in rule.pairs:
-            verdict = never_more(one, other, *self._rules)
-            if isinstance(verdict, Parted):
-                return verdict
-            found.append(verdict)
-        return tuple(found)
+        return following(self._rules, rule)
 
     def needless(self):
         """The indexes of the rules that follow from all the others, ascending."""
@@ -98,6 +90,19 @@ class Book:
         return " / ".join([str(rule) for rule in self._rules] if self._rules else ["none"])
 
 
+def following(rules, rule):
+    """The Showns of all pairs of a rule, under some rules, or the Parted of the first pair that has one."""
+    if not isinstance(rule, Rule):
+        raise BadRule("rule")
+    found = []
+    for one, other in rule.pairs:
+        verdict = never_more(one, other, *rules)
+        if isinstance(verdict, Parted):
+            return verdict
+        found.append(verdict)
+    return tuple(found)
+
+
 def rules_in(value):
     """A list of the rules of a book, or of a rule alone; refuses any other value."""
     if isinstance(value, Rule):
@@ -114,8 +119,7 @@ def without(rules, at):
 
 def follows_from_others(rules, at):
     """Whether the rule at an index follows from all the others."""
-    others = Book(*without(rules, at))
-    return isinstance(others.follows(rules[at]), tuple)
+    return isinstance(following(without(rules, at), rules[at]), tuple)
 
 
 def rule_trees(words):

@@ -1,5 +1,6 @@
 """The words of a text, and which of them can stand."""
 
+from rowcounts.basics import is_name
 from rowcounts.errors import BadText
 
 MOST_DIGITS = 60
@@ -27,6 +28,14 @@ def expect_end(words, at):
     """Refuse any word at an index."""
     if at < len(words):
         raise BadText(0, at)
+
+
+def name_at(words, at):
+    """The name of a table or a column at an index."""
+    word = word_at(words, at)
+    if not is_name(word):
+        raise BadText(0, at)
+    return word
 
 
 def is_integer_word(word):

@@ -3,10 +3,10 @@
 from rowcounts.copies import copied
 from rowcounts.errors import BadQuestion, BadRewrite, NoFit, Unlike
 from rowcounts.judge import Agreed, alike
-from rowcounts.parsing import expect, expect_end, words_of
+from rowcounts.parsing import expect_end, words_of
 from rowcounts.questions import Chosen, Question, Table, Times
 from rowcounts.truths import Condition, Has, Not
-from rowcounts.words import question_of, question_tree
+from rowcounts.words import question_of, two_trees
 
 
 class Rewrite:
@@ -84,9 +84,7 @@ def check_question(question):
 
 def rewrite_trees(words, at):
     """The trees of both sides of the rewrite whose words begin at an index and end with the last one."""
-    pattern, middle = question_tree(words, at, 0)
-    expect(words, middle, "->")
-    replacement, after = question_tree(words, middle + 1, 0)
+    pattern, replacement, after = two_trees(words, at, "->")
     expect_end(words, after)
     return pattern, replacement
 

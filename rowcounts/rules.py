@@ -3,10 +3,10 @@
 from rowcounts.bases import Base
 from rowcounts.basics import row_before
 from rowcounts.errors import BadBase, BadRule, BadText
-from rowcounts.parsing import expect, expect_end, word_at, words_of
+from rowcounts.parsing import expect_end, word_at, words_of
 from rowcounts.questions import Empty, Question
 from rowcounts.truths import Has
-from rowcounts.words import question_of, question_tree
+from rowcounts.words import question_of, two_trees
 
 RULE_WORDS = ("within", "alike", "apart", "inside")
 
@@ -109,9 +109,7 @@ def rule_tree(words, at):
     word = word_at(words, at)
     if word not in RULE_WORDS:
         raise BadText(0, at)
-    one, middle = question_tree(words, at + 1, 0)
-    expect(words, middle, ";")
-    other, after = question_tree(words, middle + 1, 0)
+    one, other, after = two_trees(words, at + 1, ";")
     return (word, one, other), after
 
 

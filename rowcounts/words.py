@@ -25,10 +25,7 @@ COMPARING_SIGNS = ("<", "<=", "=")
 
 def read_question(text):
     """The question with this text."""
-    words = words_of(text)
-    tree, after = question_tree(words, 0, 0)
-    expect_end(words, after)
-    return question_of(tree)
+    return question_of(last_tree(words_of(text), 0))
 
 
 def read_test(text):
@@ -37,6 +34,21 @@ def read_test(text):
     tree, after = test_tree(words, 0, 0)
     expect_end(words, after)
     return test_of(tree)
+
+
+def last_tree(words, at):
+    """The tree of the question whose words begin at an index and end with the last one."""
+    tree, after = question_tree(words, at, 0)
+    expect_end(words, after)
+    return tree
+
+
+def two_trees(words, at, sign):
+    """The trees of two questions with a sign between them, which begin at an index, and the index behind them."""
+    one, middle = question_tree(words, at, 0)
+    expect(words, middle, sign)
+    other, after = question_tree(words, middle + 1, 0)
+    return one, other, after
 
 
 def question_tree(words, at, depth):
