@@ -6,6 +6,7 @@ from rowcounts.bags import Bag
 from rowcounts.bases import Base
 from rowcounts.books import Book
 from rowcounts.branches import Branch, Open
+from rowcounts.desk import Desk
 from rowcounts.errors import BadBag
 from rowcounts.forms import Bound
 from rowcounts.judge import Agreed, Leaf, Parted, Shown, Split
@@ -15,6 +16,8 @@ from rowcounts.questions import Empty, Table
 from rowcounts.rewrites import Rewrite
 from rowcounts.rooms import Later, Piece, Room, Share
 from rowcounts.rules import Alike, Apart, Within
+from rowcounts.stores import Store
+from rowcounts.texts import store_text
 from rowcounts.truths import Below, Has, Missing
 from rowcounts.weights import Clash, Point
 
@@ -39,6 +42,7 @@ def any_values():
         Book(), Book(Within(Table("a"), Table("b"))), Rewrite(Table("a"), Table("a")), Plan(Table("a")),
         Plan(Table("a"), Rewrite(Table("a"), Table("a"))), Piece((1, 0), (1, 2)), Piece([1], None), Share((1,), 1),
         Share((), True), Room(1, (Piece((1,), (1,)),), Share((1,), 1)), Room(0, (), {"a": 1}), Later({"a": 1}, 0, 1),
+        Store(Base(("x",))), Store(Base(("x",), a=Bag(((1,), 2))), Within(Table("a"), Table("a"))), Desk(Store(Base(("x",)))),
     ]
 
 
@@ -57,6 +61,8 @@ def repr_of(value):
         return f"Branch {value.names} {[str(bound) for bound in value]}"
     if isinstance(value, Plan):
         return f"Plan {value.begun} {value.question} {[str(one) for one in value.rewrites]} {value.log}"
+    if isinstance(value, Store):
+        return f"Store {store_text(value)}"
     if isinstance(value, PAPERS):
         return f"{type(value).__name__} {repr_of(vars(value))}"
     return type(value).__name__ + " " + (str(id(value)) if isinstance(value, Exception) else str(value))

@@ -4,7 +4,7 @@ import unittest
 
 from rowcounts import errors
 
-EXAMPLES = """
+EXAMPLES = r"""
 >>> from rowcounts.bags import Bag
 >>> bag, more = Bag(((3, None), 2), ((1, 4), 1), ((3, None), 1)), Bag.of([(1, 4), (1, 4), (2, 2)])
 >>> [str(bag), bag.width, bag.whole, bag.often((3, None)), (1, None) in bag, len(bag), bag[:1]]
@@ -147,6 +147,42 @@ raises BadRewrite('blank')
 [None, False]
 >>> shows_room(a - b, room(a - b))
 True
+>>> from rowcounts.stores import Store
+>>> store = Store(Base(("x",), a=Bag(((1,), 2)), b=Bag(((1,), 3), ((4,), 1))), Within(a, b))
+>>> store.watch("rest", b - a)
+>>> store.put("a", (4,))
+>>> [str(store.watched("rest")), list(store.changes()), store.deeds, str(store.answer(a & b))]
+['1 of 1', [('rest', (4,), -1)], 2, '2 of 1, 1 of 4']
+>>> store.put("a", (4,))
+raises Breaks
+>>> store.take("b", (1,), 2)
+raises Breaks
+>>> [store.move((1,), "b", "b"), store.undo(), store.undo(), str(store["a"]), str(store.watched("rest")), store.tried(lambda same: same.take("a", (1,), 2)), len(store["a"])]
+[None, 'move', 'put', '2 of 1', '1 of 1, 1 of 4', None, 1]
+>>> store.take("a", (9,))
+raises NoRow((9,))
+>>> from rowcounts.streams import joined, stream
+>>> base = store.base
+>>> [list(stream(b - a, base)), list(stream(a + b, base, (1,))), list(joined(stream(a, base), stream(b, base), [((2,), 7)]))]
+[[((1,), 1), ((4,), 1)], [((4,), 1)], [((1,), 5), ((2,), 7), ((4,), 1)]]
+>>> list(joined([((2,), 1), ((1,), 1)]))
+raises BadBag(0)
+>>> from rowcounts.reader import read_base, read_plan, read_store
+>>> from rowcounts.texts import base_text, plan_text, store_text
+>>> [base_text(base), read_base(base_text(base)) == base]
+['base x\ntable a 2 of 1\ntable b 3 of 1, 1 of 4', True]
+>>> read_base("base x\ntable a 2 of 1 4")
+raises BadText(1, 5)
+>>> read_store("base x\ntable a 2 of 1\ntable b none\nrule within a ; b")
+raises Breaks
+>>> from rowcounts.desk import Desk
+>>> desk = Desk(read_store("base x\ntable a 2 of 1\ntable b 3 of 1, 1 of 4\nrule within a ; b"))
+>>> desk.run("put 1 of 4 in a", "put 1 of 4 in a", "ask ( b - a )", "more a ; b", "more b ; a", "alike ( a - ( a - b ) ) ; a", "undo", "gain a ( ( a + a ) - b )")
+['ok', 'broken within a ; b', '1 of 1', 'never', 'least a 0 b 1', 'alike', 'put', '2']
+>>> [desk("room ( a - b )"), desk("short ( a - ( a - b ) )"), desk("follows inside a ; b"), desk.deeds]
+['1', '( a & b )', 'yes', 0]
+>>> desk.say("put 1 of 4 in")
+raises BadLine(5)
 """
 
 

@@ -88,6 +88,13 @@ MODULES = {
         "Share": "__init__(shares,divisor) __eq__",
         "Later": "__init__(counts,one,other) __eq__",
     },
+    "stores": {
+        "Store": """__init__(base,*rules) base rules __contains__ __getitem__ __len__ __iter__ put(name,row,times=1)
+                    take(name,row,times=1) move(row,one,other) __setitem__ set_bag(name,bag) answer(question)
+                    watch(title,question) unwatch(title) titles watched(title) changes() undo() deeds trial()
+                    tried(work) attempt(work) twin() __eq__""",
+    },
+    "desk": {"Desk": "__init__(store) say(line) __call__(line) run(*lines) store_now() deeds"},
 }
 
 FUNCTIONS = {
@@ -119,6 +126,14 @@ FUNCTIONS = {
     "rooms.room": "question",
     "rooms.shows_room": "question,value",
     "rooms.told_apart": "question,counts,others",
+    "streams.stream": "question,base,behind=None",
+    "streams.joined": "*parts",
+    "texts.base_text": "base",
+    "texts.store_text": "store",
+    "texts.plan_text": "plan",
+    "reader.read_base": "text",
+    "reader.read_store": "text",
+    "reader.read_plan": "text",
 }
 
 
