@@ -355,23 +355,23 @@ class TextTest(Case):
             self.refused(BadText(0, word), Bag.read, text)
 
 
-def first_wrong(words):
+def first_wrong(words, widths=(1, 2, 3)):
     """The first index at which no text of a bag goes on so, or at which a row is not greater; otherwise None."""
-    found = [many - 1 for many in range(1, len(words) + 1) if not can_go_on(words[:many])][:1]
-    found += [] if found or can_be_whole(words) else [len(words)]
+    found = [many - 1 for many in range(1, len(words) + 1) if not can_go_on(words[:many], widths)][:1]
+    found += [] if found or can_be_whole(words, widths) else [len(words)]
     read = words[:found[0]] if found else words
     return min([*found, *lesser_values(read)], default=None)
 
 
-def can_go_on(words):
+def can_go_on(words, widths):
     """Whether some few words behind these make a whole text, the order of rows left aside."""
     nulls = [["null"] * many for many in range(4)]
     ends = [*nulls, *[["of", *row] for row in nulls], *[["1", "of", *row] for row in nulls]]
-    return any(can_be_whole(words + end) for end in ends)
+    return any(can_be_whole(words + end, widths) for end in ends)
 
 
-def can_be_whole(words):
-    """Whether these words are the text of a bag, the order of rows left aside."""
+def can_be_whole(words, allowed):
+    """Whether these words are the text of a bag with rows of an allowed width, the order of rows left aside."""
     text = " ".join(words)
     if text == "none":
         return True
@@ -382,7 +382,7 @@ def can_be_whole(words):
         if not 1 <= whole_number(times) <= MOST or any(v != "null" and whole_number(v) is False for v in values):
             return False
         widths.add(len(values))
-    return len(widths) == 1 and max(widths) <= 3
+    return len(widths) == 1 and max(widths) in allowed
 
 
 def lesser_values(words):
