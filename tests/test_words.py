@@ -15,9 +15,12 @@ POOL = ["", "(", ")", "a", "x", "empty", "+", "&", "|", "-", "*", "where", "unle
         "<", "<=", "=", ">", "0", "9", "10", "-5", "05", "-0", "none", "X", "\n", "a\n"]
 
 
+SIGNS = (")", "*", ";", "->", "of", "in")
+
+
 def first_wrong(words, goal):
-    """The first word that cannot stand, by a stack of what must come; None if all can."""
-    stack, opened, at = [goal], 0, 0
+    """The first word that cannot stand, by a stack of what must come; None if all can. The goal may be a list, too."""
+    stack, opened, at = [goal] if isinstance(goal, str) else goal[::-1], 0, 0
     while stack and at < len(words):
         word, top = words[at], stack.pop()
         if word == "(" and top in ("question", "test", "other test") and opened < 40:
@@ -45,8 +48,11 @@ def first_wrong(words, goal):
             stack += ["more rules", "rule"]
         elif top == "comparing" and word in ("<", "<=", "=", "null"):
             stack += ["number"] if word != "null" else []
-        elif not (top == "number" and is_number(word)) and not (top == word and top in (")", "*", ";", "->")) and not (
-                top == "book" and word == "none"):
+        elif top == "value" and word == "null" or top == "times" and is_number(word) and 1 <= int(word) <= 10 ** 30:
+            pass
+        elif top == "name" and is_name(word) or top == "book" and word == "none":
+            pass
+        elif not (top in ("number", "value") and is_number(word)) and not (top == word and top in SIGNS):
             return at
         opened -= 1 if top == word == ")" else 0
         at += 1
