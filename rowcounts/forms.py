@@ -89,6 +89,8 @@ def lowest_terms(numbers):
     common = 0
     for number in numbers:
         common = gcd(common, number)
+        if common == 1:
+            return tuple(numbers)
     return tuple([number // common if common > 1 else number for number in numbers])
 
 

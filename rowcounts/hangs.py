@@ -1,10 +1,13 @@
 """How the answer of a question hangs on one of its tables, on all bases."""
 
+from rowcounts.courses import found_by_kinds
 from rowcounts.errors import BadQuestion, NoTable
-from rowcounts.judge import Shown, verdict_of
+from rowcounts.forms import rest_form, times_form, value_of
+from rowcounts.judge import Shown, leaf_or_point, parted_either_way, verdict_of
 from rowcounts.judgements import Judgement, check_sizes, judgement_of
 from rowcounts.questions import Empty, Question, Table
 from rowcounts.truths import Has
+from rowcounts.weights import Point
 
 MOST_TABLES = 3
 
@@ -30,7 +33,7 @@ def harms(question, name):
 def plays_part(question, name):
     """Whether some bases that differ in a table alone have unlike answers."""
     more = with_more(question, name)
-    return not (is_never_more(question, more) and is_never_more(more, question))
+    return parted_either_way(Judgement(question, more, [])) is not None
 
 
 def gain(question, name):
@@ -91,13 +94,40 @@ def is_never_more(one, other):
 
 def least_times(one, other, new):
     """The least n from 0 to 9 with which one is never more than other and n times the new table, or None."""
-    if not is_never_more(one, other + new * MOST_TIMES):
-        return None
-    least, most = 0, MOST_TIMES
-    while least < most:
-        middle = (least + most) // 2
-        if is_never_more(one, other + new * middle):
-            most = middle
-        else:
-            least = middle + 1
-    return most
+    slope = Slope(MOST_TIMES)
+    found_by_kinds(Judgement(one, other, []), [one, other, new], slope)
+    return None if slope.is_reached(None) else slope.least
+
+
+class Slope:
+    """A goal: the least number of times, up to a most, that a table must be put to a question so that it is not less.
+
+    Each number that is too small is left behind at counts where it is: so the last one is the least.
+    """
+
+    def __init__(self, most):
+        self.most = most
+        self.least = 0
+
+    def at_end(self, forms, cell):
+        """Raise the number in a cell where the questions, and the table, are these forms."""
+        above, new = rest_form(forms[0], forms[1]), forms[2]
+        found = leaf_or_point(cell, [], rest_form(above, times_form(self.least, new)))
+        while isinstance(found, Point) and self.least <= self.most:
+            self.least = least_over(value_of(above, found.counts), value_of(new, found.counts), self.most)
+            found = leaf_or_point(cell, [], rest_form(above, times_form(self.least, new)))
+
+    def at_clash(self, weights):
+        """In a cell without counts there is nothing to do."""
+
+    def branched(self, form, yes, no):
+        """Behind both parts of a cell there is nothing to do."""
+
+    def is_reached(self, found):
+        """Whether no number up to the most is enough."""
+        return self.least > self.most
+
+
+def least_over(difference, times, most):
+    """The least number that times another one is not less than a difference, or one above the most."""
+    return -(-difference // times) if times > 0 else most + 1

@@ -1,10 +1,11 @@
 """Judging: whether one question never tells a row more often than another one, on all bases that keep some rules."""
 
-from rowcounts.branches import Open, forms_in
-from rowcounts.forms import Bound, nought_form
+from rowcounts.cells import is_never_below
+from rowcounts.courses import found_by_kinds
+from rowcounts.forms import minus_form, nought_form, rest_form, value_of
 from rowcounts.judgements import judgement_of
 from rowcounts.papers import own_copy, same
-from rowcounts.weights import Point, point_or_clash
+from rowcounts.weights import Point
 
 
 class Verdict:
@@ -83,51 +84,82 @@ def never_more(one, other, *rules):
 
 def alike(one, other, *rules):
     """An Agreed that two questions tell each row equally often, or a Parted, of one and other first."""
-    judgement = judgement_of(one, other, rules)
-    first = verdict_of(judgement)
-    if isinstance(first, Parted):
-        return first
-    last = verdict_of(judgement.turned())
-    return last if isinstance(last, Parted) else Agreed(first, last)
+    found = verdicts_of(judgement_of(one, other, rules), Ways(2, 1))
+    for verdict in found:
+        if isinstance(verdict, Parted):
+            return verdict
+    return Agreed(found[0], found[1])
 
 
 def verdict_of(judgement):
     """The Shown or the Parted of a judgement, of any size."""
-    trees = []
-    for kind in judgement.sorts:
-        inside = nought_form(len(judgement.tables))
-        found = tree_on(judgement, judgement.truths_of(kind), judgement.branch(), inside)
-        if isinstance(found, Point):
-            return Parted(kind.row, dict(zip(judgement.tables, found.counts)))
-        trees.append(found)
-    return Shown(tuple(trees))
+    return verdicts_of(judgement, Ways(1, 1))[0]
 
 
-def tree_on(judgement, truths, branch, inside):
-    """A right tree on a branch, which has a point inside, or else a Point of it at which the questions part."""
-    forms = forms_in(judgement.questions, truths, branch)
-    if isinstance(forms, Open):
-        return split_on(judgement, truths, branch, inside, forms.form)
-    found = point_or_clash(judgement.leaf_bounds(branch, forms), len(judgement.tables))
-    return found if isinstance(found, Point) else Leaf(found.weights)
+def parted_either_way(judgement):
+    """A Parted of a judgement, or of the same the other way about, or None; of any size."""
+    for verdict in verdicts_of(judgement, Ways(2, 2)):
+        if isinstance(verdict, Parted):
+            return verdict
+    return None
 
 
-def split_on(judgement, truths, branch, inside, form):
-    """The same if a comparison of this form is open."""
-    bound = Bound(form)
-    yes = tree_below(judgement, truths, branch + bound, inside)
+class Ways:
+    """A goal: a tree, or else a Point at which the questions part, from one to other and, if asked, back.
+
+    Of how many ways, from the first one on, a Point is enough, so that nothing else need be found, is told, too.
+    """
+
+    def __init__(self, many, enough):
+        self.many = many
+        self.enough = enough
+
+    def at_end(self, forms, cell):
+        """What is found for each way in a cell where the questions are these forms."""
+        demanded = [rest_form(forms[at + 1], forms[at]) for at in range(0, len(forms) - 2, 2)]
+        above = rest_form(forms[-2], forms[-1])
+        return [leaf_or_point(cell, demanded, form) for form in (above, minus_form(above))[:self.many]]
+
+    def at_clash(self, weights):
+        """What is found for each way in a cell that has no counts."""
+        return [Leaf(weights) for _ in range(self.many)]
+
+    def branched(self, form, yes, no):
+        """What is found for each way out of what is found where a form is at least 0, and where it is below."""
+        return [branched_tree(form, tree, other) for tree, other in zip(yes, no)]
+
+    def is_reached(self, found):
+        """Whether a Point is found that is enough."""
+        return any([isinstance(tree, Point) for tree in found[:self.enough]])
+
+
+def branched_tree(form, yes, no):
+    """The tree out of two, or the first Point."""
     if isinstance(yes, Point):
         return yes
-    no = tree_below(judgement, truths, branch + ~bound, inside)
     return no if isinstance(no, Point) else Split(form, yes, no)
 
 
-def tree_below(judgement, truths, branch, inside):
-    """The same on a branch whose last bound is new: a point of the branch without it may lie outside of it."""
-    newest = branch[-1]
-    if newest(inside):
-        return tree_on(judgement, truths, branch, inside)
-    found = point_or_clash(branch.bounds, len(judgement.tables))
-    if isinstance(found, Point):
-        return tree_on(judgement, truths, branch, found.counts)
-    return Leaf(found.weights)
+def leaf_or_point(cell, demanded, above):
+    """A Leaf that in a cell a form is never above 0 if the demanded ones are at least 0; or a Point where it is so."""
+    if is_never_below(minus_form(above)):
+        return Leaf((*minus_form(above), *nought_form(len(cell.sides) + len(demanded)), 1))
+    for point in cell.points:
+        if value_of(above, point) > 0 and all([value_of(form, point) >= 0 for form in demanded]):
+            return Point(point)
+    found = cell.settled_with([*demanded, above], [*nought_form(len(demanded)), 1])
+    return found if isinstance(found, Point) else Leaf(found.weights)
+
+
+def verdicts_of(judgement, ways):
+    """A list of the verdicts for each way; if a Point is enough, those that have none are not told."""
+    found = found_by_kinds(judgement, judgement.questions, ways)
+    return [verdict_from(judgement, [trees[way] for trees in found]) for way in range(ways.many)]
+
+
+def verdict_from(judgement, found):
+    """The Shown of the trees of all kinds, or the Parted of the first kind with a Point."""
+    for kind, tree in zip(judgement.sorts, found):
+        if isinstance(tree, Point):
+            return Parted(kind.row, dict(zip(judgement.tables, tree.counts)))
+    return Shown(tuple(found))

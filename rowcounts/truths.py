@@ -224,6 +224,16 @@ def truth_of_opposite(truth):
     return None if truth is None else not truth
 
 
+def truth_of_test(test, truths):
+    """The truth of a test, out of those of its conditions and its Has, which a dict tells by their texts."""
+    if isinstance(test, (Condition, Has)):
+        return truths[str(test)]
+    if isinstance(test, Not):
+        return truth_of_opposite(truth_of_test(test.test, truths))
+    one, other = truth_of_test(test.one, truths), truth_of_test(test.other, truths)
+    return truth_of_both(one, other) if isinstance(test, And) else truth_of_either(one, other)
+
+
 def unlike_conditions(groups):
     """The tuple of the unlike conditions of some groups, ascending by their texts."""
     by_text = {str(condition): condition for group in groups for condition in group}

@@ -94,9 +94,9 @@ class Grid:
     are to be divided by the scale. The gains tell for each bound by how much it falls short of what it asks.
     """
 
-    def __init__(self, bounds, many):
-        self.lines = [[*[bound.form[at] for bound in bounds], *unit_form(at, many)] for at in range(many)]
-        self.gains = [*[1 if bound.is_strict else 0 for bound in bounds], *nought_form(many)]
+    def __init__(self, forms, gains, many):
+        self.lines = [[*[form[at] for form in forms], *unit_form(at, many)] for at in range(many)]
+        self.gains = [*gains, *nought_form(many)]
         self.holders = [None for _ in range(many)]
         self.scale = 1
 
@@ -121,19 +121,24 @@ def reduced(line, held, place, scale):
 
 def point_or_clash(bounds, many):
     """The same as settled, for bounds that are known to fit."""
-    grid = Grid(bounds, many)
+    return settled_forms([bound.form for bound in bounds], [1 if bound.is_strict else 0 for bound in bounds], many)
+
+
+def settled_forms(forms, gains, many):
+    """The same for the forms of bounds, and for each of these a 1 if it is strict, otherwise a 0."""
+    grid = Grid(forms, gains, many)
     for at in range(many):
-        place = first_place(grid.lines[at], len(bounds))
+        place = first_place(grid.lines[at], len(forms))
         if place is not None:
             grid.exchange(at, place)
-    place = short_place(grid, len(bounds))
+    place = short_place(grid, len(forms))
     while place is not None:
         at = leaving_line(grid, place)
         if at is None:
-            return Clash(lowest_terms(clashing_weights(grid, place, len(bounds))))
+            return Clash(lowest_terms(clashing_weights(grid, place, len(forms))))
         grid.exchange(at, place)
-        place = short_place(grid, len(bounds))
-    return Point(lowest_terms([-gain for gain in grid.gains[len(bounds):]]))
+        place = short_place(grid, len(forms))
+    return Point(lowest_terms([-gain for gain in grid.gains[len(forms):]]))
 
 
 def first_place(line, many):

@@ -44,9 +44,12 @@ class JudgeCase(Case):
         self.check_verdict(case.turned(), last)
         both = alike(one, other, *rules)
         if isinstance(found, Parted) or isinstance(last, Parted):
-            self.assertEqual(both, found if isinstance(found, Parted) else last)
+            self.assertEqual(type(both), Parted)
+            self.check_verdict(case if isinstance(found, Parted) else case.turned(), both)
         else:
-            self.assertEqual([type(both), both.first, both.last], [Agreed, found, last])
+            self.assertEqual(type(both), Agreed)
+            self.check_verdict(case, both.first)
+            self.check_verdict(case.turned(), both.last)
         self.same(bool(both), bool(found) and bool(last))
         self.assertEqual([never_more(one, other, *rules), alike(one, other, *rules)], [found, both])
         return found
