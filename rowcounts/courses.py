@@ -1,8 +1,8 @@
 """Courses: some questions, step by step, as their forms are found for rows with certain truths of conditions.
 
 Equal questions have one step. What a step tells in a cell, it tells in each part of the cell, too: so the steps
-ahead of an open comparison are not gone again behind a bound on it. Only where a Has is false, it may be plain now that a form
-is at least 0 that was plainly at most 0: there all steps are gone again.
+ahead of an open comparison are not gone again behind a bound on it. Only where a Has is false, it may be plain now
+that a form is at least 0 that was plainly at most 0: there all steps are gone again.
 """
 
 from rowcounts.branches import Open, compared_form, straight_form

@@ -140,6 +140,63 @@ class ShortestTest(Case):
         self.same(str(question), "( a - ( a - b ) )")
 
 
+class ListTest(Case):
+    """Both functions against the list of all short questions, those with equal numbers put together."""
+
+    NAMES = ((), ("a",), ("x", "zz"), ("a", "ab"), ("a", "b", "c"), ("a", "ab", "abc"))
+
+    def firsts(self, names):
+        """A dict from the numbers at many counts to the text of the first short question that tells them."""
+        rows = [dict(zip(names, told)) for told in itertools.product([0, 1, 2, 3, 5, 11], repeat=len(names))]
+        found = {}
+        for tree in short_trees(names):
+            found.setdefault(tuple(number_of(tree, {}, row) for row in rows), text_of(tree))
+        return rows, found
+
+    def test_each_short_question(self):
+        dice = random.Random(313)
+        for names in self.NAMES:
+            rows, firsts = self.firsts(names)
+            some = dice.sample(list(firsts.items()), min(40, len(firsts)))
+            for numbers, text in some:
+                self.same(str(explains(list(zip(rows, numbers)))), text)
+            trees = short_trees(names)
+            for tree in dice.sample(trees, min(40, len(trees))):
+                question = made_of(tree)
+                if question.names == names:
+                    self.same(str(shortest(question)), firsts[tuple(number_of(tree, {}, row) for row in rows)])
+
+    def test_calls_one_after_another(self):
+        """Calls with other names and with the same ones do not disturb one another."""
+        dice = random.Random(317)
+        made = {names: self.firsts(names) for names in self.NAMES}
+        calls = []
+        for names in self.NAMES * 3:
+            rows, firsts = made[names]
+            numbers, text = dice.choice(list(firsts.items()))
+            calls += [(explains, list(zip(rows, numbers)), text), (explains, [(row, 7919 ** 2) for row in rows], "None")]
+            question = made_of(dice.choice(short_trees(names)))
+            calls += [(shortest, question, str(shortest(question))), (shortest, question * 9 + question * 8, None)]
+        told = [str(call(value)) for call, value, _ in calls]
+        self.same([one for one, call in zip(told, calls) if call[2]], [call[2] for call in calls if call[2]])
+        places = list(range(len(calls)))
+        dice.shuffle(places)
+        for at in places + places[::-1]:
+            call, value, _ = calls[at]
+            found = call(value)
+            self.same(str(found), told[at])
+            self.assertIsNot(found if found is not None else call, call(value))
+
+    def test_drawn_samples(self):
+        dice = random.Random(331)
+        for _ in range(120):
+            names = dice.choice(self.NAMES)
+            counts = [{name: dice.choice([0, 1, 2, 3, 4, 10 ** 30]) for name in names} for _ in range(dice.randrange(4))]
+            samples = [(told, dice.choice([0, 1, 2, sum(told.values()), max(told.values(), default=3)])) for told in counts]
+            expected = first_that_tells(sorted(names) if samples else [], samples)
+            self.same(str(explains(samples)), str(None if expected is None else text_of(expected)))
+
+
 class ExplainsTest(Case):
 
     def check(self, samples):
