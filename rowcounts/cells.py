@@ -12,21 +12,38 @@ SOME_POINTS = (
 
 
 class Cell:
-    """The rows of counts for which all bounds of a branch hold; some of them are its points."""
+    """The rows of counts for which all bounds of a branch hold; some of them are its points.
 
-    def __init__(self, many, sides, lows, standing, points):
+    In an inner cell each count is above 0, and each side is strict.
+    """
+
+    def __init__(self, many, is_inner, points):
         self.many = many
-        self.sides = sides
-        self.lows = lows
-        self.standing = standing
+        self.is_inner = is_inner
         self.points = points
+        self.sides = ()
+        self.lows = {}
+        self.standing = {}
 
     def with_side(self, form, is_strict, points):
         """The part of the cell where a form is at least 0, or above 0; some points of it are known."""
+        part = Cell(self.many, self.is_inner, points)
         lowest = lowest_terms(form)
-        standing = {**self.standing, lowest: True} if is_strict else self.standing
-        sides = (*self.sides, (form, is_strict))
-        return Cell(self.many, sides, {**self.lows, lowest: True}, standing, points)
+        part.sides = (*self.sides, (form, is_strict))
+        part.lows = {**self.lows, lowest: True}
+        part.standing = {**self.standing, lowest: True} if is_strict else self.standing
+        return part
+
+    def parts_by(self, form):
+        """The part of the cell where a form is at least 0, or above 0 in an inner cell, and that where it is below."""
+        above, below = [], []
+        for point in self.points:
+            value = value_of(form, point)
+            if value < 0:
+                below.append(point)
+            elif value > 0 or not self.is_inner:
+                above.append(point)
+        return self.with_side(form, self.is_inner, above), self.with_side(minus_form(form), True, below)
 
     def side(self, form):
         """True if it is plain that a form is at least 0, False if that it is at most 0, otherwise None."""
@@ -48,14 +65,31 @@ class Cell:
     def settled_with(self, forms, gains):
         """A Point of the cell at which some further bounds hold, or the Clash of all of them."""
         held = [unit_form(at, self.many) for at in range(self.many)]
+        inner = [1 if self.is_inner else 0 for _ in held]
         strict = [1 if is_strict else 0 for _, is_strict in self.sides]
         rows = [*held, *[form for form, _ in self.sides], *forms]
-        return settled_forms(rows, [*[0 for _ in held], *strict, *gains], self.many)
+        return settled_forms(rows, [*inner, *strict, *gains], self.many)
+
+    def clash(self):
+        """The Clash of the bounds, or None if the cell has a point; then one is known from now on."""
+        if self.points:
+            return None
+        found = self.settled_with([], [])
+        if not isinstance(found, Point):
+            return found
+        self.points.append(found.counts)
+        return None
 
 
 def whole_cell(many):
     """The cell of all rows of so many counts."""
-    return Cell(many, (), {}, {}, [point[:many] for point in SOME_POINTS])
+    return Cell(many, False, [point[:many] for point in SOME_POINTS])
+
+
+def inner_cell(many):
+    """The inner cell of all rows of so many counts above 0."""
+    points = [point[:many] for point in SOME_POINTS]
+    return Cell(many, True, [point for point in points if all([number > 0 for number in point])])
 
 
 def is_never_below(form):
@@ -64,25 +98,3 @@ def is_never_below(form):
         if factor < 0:
             return False
     return True
-
-
-def parts_of(cell, form):
-    """The part of a cell where a form is at least 0, and that where it is below."""
-    above, below = [], []
-    for point in cell.points:
-        if value_of(form, point) >= 0:
-            above.append(point)
-        else:
-            below.append(point)
-    return cell.with_side(form, False, above), cell.with_side(minus_form(form), True, below)
-
-
-def clash_in(cell):
-    """The Clash of the bounds of a cell, or None if the cell has a point; then one is known from now on."""
-    if cell.points:
-        return None
-    found = cell.settled_with([], [])
-    if not isinstance(found, Point):
-        return found
-    cell.points.append(found.counts)
-    return None

@@ -6,7 +6,7 @@ that a form is at least 0 that was plainly at most 0: there all steps are gone a
 """
 
 from rowcounts.branches import Open, compared_form, straight_form
-from rowcounts.cells import clash_in, parts_of, whole_cell
+from rowcounts.cells import whole_cell
 from rowcounts.forms import minus_form, nought_form, rest_form, sum_form, times_form
 from rowcounts.questions import Bent, Both, Chosen, Times, Where
 from rowcounts.truths import Condition, Has, Not, truth_of_test
@@ -178,16 +178,17 @@ def found_by_kinds(judgement, questions, goal):
         truths = judgement.truths_of(kind)
         counting = truths_that_count(questions, truths)
         if counting not in told:
-            told[counting] = walked(Course(questions, judgement.tables, truths), goal)
+            course = Course(questions, judgement.tables, truths)
+            told[counting] = walked(course, goal, whole_cell(len(judgement.tables)))
         found.append(told[counting])
         if goal.is_reached(told[counting]):
             return found
     return found
 
 
-def walked(course, goal):
-    """What a goal finds on a course, all cells of which are gone through until the goal is reached."""
-    return walked_from(course, goal, (), whole_cell(len(course.tables)))
+def walked(course, goal, cell):
+    """What a goal finds on a course, all parts of a cell being gone through until the goal is reached."""
+    return walked_from(course, goal, (), cell)
 
 
 def walked_from(course, goal, told, cell):
@@ -203,7 +204,7 @@ def walked_from(course, goal, told, cell):
 
 def walked_apart(course, goal, told, cell, form):
     """The same if the next step has an open comparison: in the part where a form is at least 0, then in the other."""
-    above, below = parts_of(cell, form)
+    above, below = cell.parts_by(form)
     is_standing = isinstance(course.steps[len(told)], Standing)
     yes = walked_part(course, goal, () if is_standing else told, above)
     if goal.is_reached(yes):
@@ -213,7 +214,7 @@ def walked_apart(course, goal, told, cell, form):
 
 def walked_part(course, goal, told, cell):
     """The same in a part of a cell, where there may be no counts."""
-    clash = clash_in(cell)
+    clash = cell.clash()
     return walked_from(course, goal, told, cell) if clash is None else goal.at_clash(clash.weights)
 
 

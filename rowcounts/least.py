@@ -1,5 +1,6 @@
 """The least examples: the Parted with the least counts."""
 
+from rowcounts.courses import truths_that_count
 from rowcounts.errors import TooMany
 from rowcounts.judge import Parted, Shown, verdict_of
 from rowcounts.judgements import judgement_of
@@ -26,13 +27,24 @@ def shows_least(one, other, paper, *rules):
 
 def least_of(judgement):
     """The least Parted of a judgement whose counts do not add up to more than the most, or None."""
+    unlike = first_kinds(judgement)
     for total in range(MOST_SUM + 1):
         rows = counts_of_sum(total, len(judgement.tables))
-        for kind in judgement.sorts:
+        for kind in unlike:
             counts = first_parting(judgement, dict(kind.row), rows)
             if counts is not None:
                 return Parted(kind.row, counts)
     return None
+
+
+def first_kinds(judgement):
+    """A list of the kinds of a judgement without those at which its questions tell the same as at an earlier one."""
+    found = {}
+    for kind in judgement.sorts:
+        counting = truths_that_count(judgement.questions, judgement.truths_of(kind))
+        if counting not in found:
+            found[counting] = kind
+    return [found[counting] for counting in found]
 
 
 def first_parting(judgement, values, rows):

@@ -2,6 +2,8 @@
 
 from rowcounts.basics import is_integer, ordered_rows
 from rowcounts.branches import Branch, Open, compared_form, form_in, straight_form
+from rowcounts.cells import inner_cell
+from rowcounts.courses import Course, walked
 from rowcounts.errors import BadCounts, BadQuestion
 from rowcounts.forms import (
     Bound, is_form_of, is_nought, minus_form, nought_form, rest_form, sum_form, times_form, unit_form, value_of,
@@ -12,7 +14,7 @@ from rowcounts.look_judge import MOST_LEAVES, MOST_SPLITS, leaves_of
 from rowcounts.papers import own_copy, same
 from rowcounts.questions import Bent, Question
 from rowcounts.spans import Span, are_independent, shares_of
-from rowcounts.weights import Point, are_clashing, point_or_clash
+from rowcounts.weights import are_clashing
 
 MOST_TABLES = 4
 
@@ -140,26 +142,28 @@ def bounds_in(branch):
 
 def raw_tree(question):
     """The tree of a question, with Pieces in the place of Shares."""
-    return tree_on(question, first_branch(question), tuple([1 for _ in question.names]))
+    course = Course([question], question.names, {})
+    return walked(course, Parts(), inner_cell(len(question.names)))
 
 
-def tree_on(question, branch, inside):
-    """The same on a branch that has a point inside."""
-    form = form_in(question, {}, branch)
-    if not isinstance(form, Open):
-        return Piece(form, inside)
-    yes = tree_below(question, branch + Bound(form.form, True), inside)
-    no = tree_below(question, branch + Bound(minus_form(form.form), True), inside)
-    return Split(form.form, yes, no)
+class Parts:
+    """A goal: the tree of a question, with Pieces in the place of Shares."""
 
+    def at_end(self, forms, cell):
+        """The Piece of a cell."""
+        return Piece(forms[0], cell.points[0])
 
-def tree_below(question, branch, inside):
-    """The same on a branch whose last bound is new: a point of the branch without it may lie outside of it."""
-    newest = branch[-1]
-    if newest(inside):
-        return tree_on(question, branch, inside)
-    found = point_or_clash(bounds_in(branch), len(branch.names))
-    return tree_on(question, branch, found.counts) if isinstance(found, Point) else Leaf(found.weights)
+    def at_clash(self, weights):
+        """The Leaf of a cell without counts."""
+        return Leaf(weights)
+
+    def branched(self, form, yes, no):
+        """The tree out of that where a form is above 0, and that where it is below."""
+        return Split(form, yes, no)
+
+    def is_reached(self, found):
+        """All cells are asked for."""
+        return False
 
 
 def pieces_in(tree):
