@@ -114,7 +114,7 @@ class Slope:
         above, new = rest_form(forms[0], forms[1]), forms[2]
         found = leaf_or_point(cell, [], rest_form(above, times_form(self.least, new)))
         while isinstance(found, Point) and self.least <= self.most:
-            self.least = least_over(value_of(above, found.counts), value_of(new, found.counts), self.most)
+            self.least = least_over(value_of(above, found.counts), value_of(new, found.counts))
             found = leaf_or_point(cell, [], rest_form(above, times_form(self.least, new)))
 
     def at_clash(self, weights):
@@ -128,6 +128,9 @@ class Slope:
         return self.least > self.most
 
 
-def least_over(difference, times, most):
-    """The least number that times another one is not less than a difference, or one above the most."""
-    return -(-difference // times) if times > 0 else most + 1
+def least_over(difference, times):
+    """The least number that times another one is not less than a difference.
+
+    Where questions part, the new table has the row: without it they are one question.
+    """
+    return -(-difference // times)

@@ -81,9 +81,11 @@ def room(question):
     """The Room of a question."""
     check_question(question)
     tree = raw_tree(question)
-    span = Span(())
-    kept = tuple([piece for piece in pieces_in(tree) if span.with_form(piece.form)])
-    return Room(len(kept), kept, with_shares(tree, span))
+    span, kept = Span(()), []
+    for piece in pieces_in(tree):
+        if span.with_form(piece.form):
+            kept.append(piece)
+    return Room(len(kept), tuple(kept), with_shares(tree, span))
 
 
 def shows_room(question, value):

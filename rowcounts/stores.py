@@ -260,13 +260,9 @@ def demanded_behind(rule, answers, told):
 
 def turned_rows(state):
     """A list of the titles, rows and differences by which the answers behind a deed are unlike those ahead of it."""
-    if state.ahead is None:
+    if state.ahead is None or state.word in ("watch", "unwatch"):
         return []
-    found = []
-    for title in state.live:
-        if title in state.ahead.live and state.word not in ("watch", "unwatch"):
-            found = [*found, *[(title, row, number) for row, number in differences(state, title)]]
-    return found
+    return [(title, row, number) for title in state.live for row, number in differences(state, title)]
 
 
 def differences(state, title):

@@ -198,7 +198,7 @@ class ReadingTest(Case):
         wrong = {
             "base": {
                 "": (0, 0), "base": (0, 1), "base ": (0, 1), "bases x": (0, 0), "table a none": (0, 0), " base x": (0, 0),
-                "base x x": (0, 2), "base y x": (0, 2), "base x y z w": (0, 4), "base w x y z": (0, 4), "base X": (0, 1),
+                "base x x": (0, 2), "base y x": (0, 2), "base x y z w": (0, 4), "base a b c d a": (0, 4), "base w x y z": (0, 4), "base X": (0, 1),
                 "base null": (0, 1), "base x\n": (1, 0), "base x\n\ntable a none": (1, 0), "base x\nbase x": (1, 0),
                 "base x\ntable": (1, 1), "base x\ntable a": (1, 2), "base x\ntable a ": (1, 2), "base x\ntable a none ": (1, 3),
                 "base x\ntable of none": (1, 1), "base x\ntable b none\ntable b none": (2, 1), "base x ": (0, 2),
