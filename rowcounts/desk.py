@@ -167,9 +167,10 @@ def asked_of(store, word, question):
 
 def judged(store, word, one, other):
     """The answer to a line that judges two questions under the rules of a store."""
+    rules = store.rules
     if word == "alike":
-        return "unlike" if isinstance(alike(one, other, *store.rules), Parted) else "alike"
-    judgement = judgement_of(one, other, store.rules)
+        return "unlike" if isinstance(alike(one, other, *rules), Parted) else "alike"
+    judgement = judgement_of(one, other, rules)
     if isinstance(verdict_of(judgement), Shown):
         return "never"
     least = least_of(judgement)

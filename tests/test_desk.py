@@ -163,6 +163,21 @@ class LinesTest(DeskCase):
             self.same([desk(line), desk.say(line=line), desk(line=line)], [answer] * 3)
         self.same(desk.deeds, 0)
 
+    def test_alike_under_none_one_and_several_rules(self):
+        base = Base(("x",), a=Bag(), b=Bag(), c=Bag())
+        within, apart, there = Within(A, B), Apart(A, C), Within(C, A)
+        told = {
+            "alike a ; ( a & b )": [(), "unlike", (within,), "alike", (apart,), "unlike", (within, apart), "alike"],
+            "alike a ; ( a - c )": [(), "unlike", (within,), "unlike", (apart,), "alike", (apart, within), "alike"],
+            "alike ( a & b ) ; ( a - c )": [(), "unlike", (within,), "unlike", (apart,), "unlike", (within, apart), "alike"],
+            "alike c ; empty": [(), "unlike", (apart,), "unlike", (there,), "unlike", (there, apart), "alike"],
+            "alike ( a | b ) ; ( b | a )": [(), "alike", (within,), "alike", (within, apart, there), "alike"],
+            "alike a ; b": [(), "unlike", (within,), "unlike", (within, Within(B, A)), "alike", (within, apart, there), "unlike"],
+        }
+        for line, answers in told.items():
+            for rules, answer in zip(answers[::2], answers[1::2]):
+                self.same(Desk(Store(base, *rules))(line), answer)
+
     def test_drawn_lines(self):
         dice = random.Random(241)
         told = {}

@@ -2,8 +2,9 @@
 
 import unittest
 
-from anything import any_values
+from anything import Case, any_values
 from rowcounts import errors
+from rowcounts.questions import Table, Times
 
 GROUPS = {
     "BadInput": {
@@ -22,7 +23,7 @@ GROUPS = {
 FIELDS = {name: fields for group in GROUPS.values() for name, fields in group.items()}
 
 
-class ErrorsTest(unittest.TestCase):
+class ErrorsTest(Case):
 
     def test_each_error_stands_below_its_group_alone(self):
         self.assertEqual(errors.CountError.__mro__, (errors.CountError, *ValueError.__mro__))
@@ -44,7 +45,7 @@ class ErrorsTest(unittest.TestCase):
                 error = getattr(errors, name)(*told)
                 self.assertEqual(list(vars(error)), list(fields))
                 for field, one in zip(fields, told):
-                    self.assertIs(getattr(error, field), one)
+                    self.same(getattr(error, field), one)
 
     def test_fields_by_name(self):
         for name, fields in FIELDS.items():
@@ -52,7 +53,25 @@ class ErrorsTest(unittest.TestCase):
                 told = {field: [value] for field in reversed(fields)}
                 error = getattr(errors, name)(**told)
                 for field in fields:
-                    self.assertIs(getattr(error, field), told[field])
+                    self.same(getattr(error, field), told[field])
+
+    def test_what_is_done_to_a_field_later_has_no_effect(self):
+        for name, fields in FIELDS.items():
+            told = {field: [5, {"a": [field]}] for field in fields}
+            error = getattr(errors, name)(**told)
+            for field in fields:
+                told[field][1]["a"].clear()
+                told[field].pop()
+                self.same(getattr(error, field), [5, {"a": [field]}])
+
+    def test_what_is_done_later_to_a_refused_value_has_no_effect(self):
+        name, number = ["a"], {"a": [1]}
+        for error, ask, value in ((errors.BadName, lambda: Table(name), name),
+                                  (errors.BadNumber, lambda: Times(number, Table("a")), number)):
+            with self.assertRaises(error) as caught:
+                ask()
+            value.clear()
+            self.same(caught.exception.value, ["a"] if error is errors.BadName else {"a": [1]})
 
     def test_all_fields_are_needed(self):
         for name, fields in FIELDS.items():

@@ -108,6 +108,37 @@ def is_generator(node):
     return any(isinstance(part, (ast.Yield, ast.YieldFrom)) for part in ast.walk(node))
 
 
+def properties():
+    return {node.name for _, node in nodes(ast.FunctionDef) if "property" in map(ast.unparse, node.decorator_list)}
+
+
+def is_plain(node, barred):
+    """Whether a value is a name, an attribute off a name, a literal, or a list, tuple or dict of these."""
+    if isinstance(node, ast.Attribute):
+        return isinstance(node.value, ast.Name) and node.attr not in barred
+    if isinstance(node, (ast.List, ast.Tuple)):
+        return all(is_plain(part, barred) for part in node.elts)
+    if isinstance(node, ast.Dict):
+        return all(is_plain(part, barred) for part in [*node.keys, *node.values])
+    if isinstance(node, ast.UnaryOp):
+        return isinstance(node.operand, ast.Constant)
+    return isinstance(node, (ast.Name, ast.Constant))
+
+
+def starred_wrongly(call, barred):
+    """Whether a call has a star with something behind it, or beside two stars, that may not stand there."""
+    stars = [part.value for part in call.args if isinstance(part, ast.Starred)]
+    twice = [keyword.value for keyword in call.keywords if keyword.arg is None]
+    beside = [*call.args, *[keyword.value for keyword in call.keywords]] if twice else []
+    plain = [part.value if isinstance(part, ast.Starred) else part for part in [*stars, *beside]]
+    if not all(is_plain(part, barred) for part in plain):
+        return True
+    if twice and (len(call.keywords) > 1 or not isinstance(twice[0], (ast.Name, ast.Attribute))):
+        return True
+    first = min([keyword.value.col_offset + 10 ** 6 * keyword.value.lineno for keyword in call.keywords], default=None)
+    return first is not None and any(first < star.col_offset + 10 ** 6 * star.lineno for star in stars)
+
+
 def calls_of_init(tree):
     """The calls of an __init__ by its name."""
     for node in ast.walk(tree):
@@ -247,6 +278,22 @@ class LanguageTest(unittest.TestCase):
                 self.assertTrue(node.func.attr in own | METHODS, f"L25 {at} {node.func.attr}")
                 if node.func.attr in METHODS:
                     self.assertEqual(node.keywords, [], f"L25 {at}")
+
+    def test_l7_calls_with_stars(self):
+        barred = properties()
+        self.assertIn("rules", barred)
+        for at, node in nodes(ast.Call):
+            self.assertFalse(starred_wrongly(node, barred), f"L7 {at} {ast.unparse(node)}")
+
+    def test_l7_wrong_calls_with_stars_are_found(self):
+        for text in ("f(*store.rules)", "f(one, *store.rules)", "f(*[store.rules])", "f(*box.more())", "f(*a.b.c)",
+                     "f(*(x for x in xs))", "f(*[x for x in xs])", "f(*xs[0])", "f(*xs + ys)", "f(**d, a=1)",
+                     "f(**d, **e)", "f(**{'a': 1})", "f(g(1), **d)", "f(store.rules, **d)", "f(a=1, *xs)",
+                     "f(1, **store.rules)", "f(*(xs, store.rules))"):
+            self.assertTrue(starred_wrongly(ast.parse(text, mode="eval").body, {"rules"}), text)
+        for text in ("f(*rules)", "f(k, *store.names)", "f(*xs, n, sep=n)", "f(**d)", "f(1, x.y, **box.told)",
+                     "f(*[1, x], *(y, -1))", "f(store.rules, *xs)", "f(g(x), *xs)", "f(*xs, a=store.rules)"):
+            self.assertFalse(starred_wrongly(ast.parse(text, mode="eval").body, {"rules"}), text)
 
     def test_l18_methods_and_attributes(self):
         methods = {part.name for _, node in nodes(ast.ClassDef) for part in node.body

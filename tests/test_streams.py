@@ -140,6 +140,41 @@ class JoinedTest(Case):
             self.refused(BadBag(0), lambda: list(joined(wrong, stream(C, BASE))))
         self.refused(BadBag(1), lambda: next(joined(up, [((1, None), 1), ((1, 5), 1)])))
 
+    def test_what_is_done_to_a_part_later_has_no_effect(self):
+        for change in (list.clear, list.reverse, list.pop, lambda part: part.append(((9,), 5)),
+                       lambda part: part.insert(0, ((0,), 5))):
+            one, other = [((1,), 1), ((3,), 1)], [((1,), 2)]
+            later, begun = joined(one, other), joined(one, tuple(other), one)
+            self.same(next(begun), ((1,), 4))
+            change(one)
+            change(other)
+            self.same([list(later), list(begun)], [[((1,), 3), ((3,), 1)], [((3,), 2)]])
+
+    def test_a_stream_that_is_asked_on_later_has_no_effect(self):
+        part = stream(B, BASE)
+        pairs = joined(part, [((2,), 1)])
+        self.same(list(part), [])
+        self.same(list(pairs), [((1,), 3), ((2,), 1), ((4,), 1), ((None,), 7)])
+
+    def test_a_part_that_is_put_right_later_is_refused(self):
+        down = [((2,), 1), ((1,), 1)]
+        up = [((1,), 1)]
+
+        def asked():
+            pairs = joined(up, down)
+            down.reverse()
+            return next(pairs)
+
+        self.refused(BadBag(1), asked)
+        pairs = joined(up)
+        up.append(((0,), 1))
+        self.same(list(pairs), [((1,), 1)])
+
+    def test_items_are_handed_out_once(self):
+        pairs = joined([((1,), 1)], [((2,), 3)])
+        self.assertIs(iter(pairs), pairs)
+        self.same([next(pairs), list(pairs), list(pairs)], [((1,), 1), [((2,), 3)], []])
+
     def test_errors_of_streams_in_order(self):
         down = [((2,), 1), ((1,), 1)]
         self.refused(NoTable("c"), lambda: next(joined(stream(C, BASE), down)))
