@@ -4,9 +4,10 @@ MOST_VALUES = 3
 
 MOST_LETTERS = 8
 
-RESERVED = (
-    "and", "or", "not", "has", "null", "where", "unless", "empty", "of", "none", "self", "columns",
-)
+RESERVED = {
+    "and": True, "or": True, "not": True, "has": True, "null": True, "where": True, "unless": True, "empty": True,
+    "of": True, "none": True, "self": True, "columns": True,
+}
 
 
 def is_integer(value):
@@ -86,4 +87,13 @@ def merged_rows(one, other):
 
 def ordered_texts(texts):
     """The tuple of all unlike strings of a list, ascending."""
+    if len(texts) < 2:
+        return tuple(texts)
     return tuple(sorted(set([str(text) for text in texts])))
+
+
+def merged_texts(one, other):
+    """The ascending tuple of all strings of two such tuples, which are most often equal, or one of them is empty."""
+    if one == other or not other:
+        return one
+    return ordered_texts([*one, *other]) if one else other

@@ -1,7 +1,9 @@
 """Books: some rules, all of which a base keeps or not, and what follows from them."""
 
+from rowcounts.doubts import can_part
 from rowcounts.errors import BadBook, BadRule, TooMany
 from rowcounts.judge import Parted, never_more
+from rowcounts.judgements import judgement_of
 from rowcounts.parsing import expect, expect_end, word_at, words_of
 from rowcounts.rules import Rule, rule_of, rule_tree
 
@@ -103,6 +105,14 @@ def following(rules, rule):
     return tuple(found)
 
 
+def is_following(rules, rule):
+    """Whether a rule follows from some rules."""
+    for one, other in rule.pairs:
+        if can_part(judgement_of(one, other, rules)):
+            return False
+    return True
+
+
 def rules_in(value):
     """A list of the rules of a book, or of a rule alone; refuses any other value."""
     if isinstance(value, Rule):
@@ -119,7 +129,7 @@ def without(rules, at):
 
 def follows_from_others(rules, at):
     """Whether the rule at an index follows from all the others."""
-    return isinstance(following(without(rules, at), rules[at]), tuple)
+    return is_following(without(rules, at), rules[at])
 
 
 def rule_trees(words):

@@ -9,7 +9,7 @@ from rowcounts.branches import Open, compared_form, straight_form
 from rowcounts.cells import whole_cell
 from rowcounts.forms import minus_form, nought_form, rest_form, sum_form, times_form
 from rowcounts.questions import Bent, Both, Chosen, Times, Where
-from rowcounts.truths import Condition, Has, Not, truth_of_test
+from rowcounts.truths import Has, Not, truth_of_test
 
 
 class Known:
@@ -162,26 +162,25 @@ def is_picked(question, truth):
 
 def standing_tests(test):
     """A list of the Has in a test, as they stand in its text."""
+    if test.size == 0:
+        return []
     if isinstance(test, Has):
         return [test]
-    if isinstance(test, Condition):
-        return []
     if isinstance(test, Not):
         return standing_tests(test.test)
     return [*standing_tests(test.one), *standing_tests(test.other)]
 
 
-def found_by_kinds(judgement, questions, goal):
-    """A list of what a goal finds on the courses of some questions, kind by kind, until the goal is reached."""
-    told, found = {}, []
-    for kind in judgement.sorts:
-        truths = judgement.truths_of(kind)
-        counting = truths_that_count(questions, truths)
-        if counting not in told:
-            course = Course(questions, judgement.tables, truths)
-            told[counting] = walked(course, goal, whole_cell(len(judgement.tables)))
-        found.append(told[counting])
-        if goal.is_reached(told[counting]):
+def found_by_kinds(judgement, goal):
+    """A list of what a goal finds on the courses of a judgement, kind by kind, until the goal is reached."""
+    found = []
+    for at, first in enumerate(judgement.firsts):
+        if first < at:
+            found.append(found[first])
+            continue
+        course = Course(judgement.questions, judgement.tables, judgement.truths_of(judgement.sorts[at]))
+        found.append(walked(course, goal, whole_cell(len(judgement.tables))))
+        if goal.is_reached(found[at]):
             return found
     return found
 
@@ -216,38 +215,3 @@ def walked_part(course, goal, told, cell):
     """The same in a part of a cell, where there may be no counts."""
     clash = cell.clash()
     return walked_from(course, goal, told, cell) if clash is None else goal.at_clash(clash.weights)
-
-
-def truths_that_count(questions, truths):
-    """The truths of all greatest parts without Has of the tests in some questions, in order.
-
-    Kinds of rows for which these are equal have equal courses.
-    """
-    found = []
-    for question in questions:
-        add_truths(question, truths, found)
-    return tuple(found)
-
-
-def add_truths(question, truths, found):
-    """Put the same for one question, of its parts and of its test, behind those that are found."""
-    for part in question.parts:
-        add_truths(part, truths, found)
-    if isinstance(question, Chosen):
-        if not standing_tests(question.test):
-            found.append(truth_of_test(question.test, truths) is True)
-        else:
-            add_test_truths(question.test, truths, found)
-
-
-def add_test_truths(test, truths, found):
-    """Put the same for a test behind those that are found."""
-    if not standing_tests(test):
-        found.append(truth_of_test(test, truths))
-    elif isinstance(test, Has):
-        add_truths(test.asked, truths, found)
-    elif isinstance(test, Not):
-        add_test_truths(test.test, truths, found)
-    else:
-        add_test_truths(test.one, truths, found)
-        add_test_truths(test.other, truths, found)

@@ -4,12 +4,12 @@ A line is told as a tuple, which begins with its first word, and done when all i
 """
 
 from rowcounts.bags import times_at, value_at
-from rowcounts.books import following
+from rowcounts.books import is_following
+from rowcounts.doubts import can_differ, can_part_at_great
 from rowcounts.errors import BadLine, BadStore, BadText, Breaks
 from rowcounts.hangs import gain, loss
-from rowcounts.judge import Parted, Shown, alike, verdict_of
 from rowcounts.judgements import judgement_of
-from rowcounts.least import least_of
+from rowcounts.least import great_parted, small_parted
 from rowcounts.parsing import expect, expect_end, name_at, word_at, words_of
 from rowcounts.rooms import room
 from rowcounts.rules import rule_of, rule_tree
@@ -131,8 +131,7 @@ def answer_of(store, told):
     if word == "watched":
         return str(store.watched(told[1]))
     if word == "follows":
-        found = following(store.rules, rule_of(told[1]))
-        return "yes" if isinstance(found, tuple) else "no"
+        return "yes" if is_following(store.rules, rule_of(told[1])) else "no"
     if word in TWO_QUESTIONS_WORDS:
         return judged(store, word, question_of(told[1]), question_of(told[2]))
     if word in QUESTION_WORDS:
@@ -167,13 +166,14 @@ def asked_of(store, word, question):
 
 def judged(store, word, one, other):
     """The answer to a line that judges two questions under the rules of a store."""
-    rules = store.rules
+    judgement = judgement_of(one, other, store.rules)
     if word == "alike":
-        return "unlike" if isinstance(alike(one, other, *rules), Parted) else "alike"
-    judgement = judgement_of(one, other, rules)
-    if isinstance(verdict_of(judgement), Shown):
+        return "unlike" if can_differ(judgement) else "alike"
+    least = small_parted(judgement)
+    if least is None and not can_part_at_great(judgement):
         return "never"
-    least = least_of(judgement)
+    if least is None:
+        least = great_parted(judgement)
     if least is None:
         return "far"
     values = [f"{column} {'null' if value is None else value}" for column, value in least.row]

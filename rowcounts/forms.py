@@ -137,6 +137,17 @@ def value_of(form, numbers):
     return sum([factor * number for factor, number in zip(form, numbers)])
 
 
+def values_of(form, points):
+    """A list of what a form tells at some points; most forms are short."""
+    if len(form) == 3:
+        one, other, third = form
+        return [one * first + other * second + third * last for first, second, last in points]
+    if len(form) == 2:
+        one, other = form
+        return [one * first + other * second for first, second in points]
+    return [value_of(form, point) for point in points]
+
+
 def nought_form(many):
     """The form over so many numbers that is always 0."""
     return tuple([0 for _ in range(many)])
@@ -159,9 +170,9 @@ def times_form(number, form):
 
 def minus_form(form):
     """The form that tells the opposite of what a form tells."""
-    return times_form(-1, form)
+    return tuple([-factor for factor in form])
 
 
 def rest_form(one, other):
     """The form that tells what one form tells less what another one does."""
-    return sum_form(one, minus_form(other))
+    return tuple([factor - less for factor, less in zip(one, other)])

@@ -1,19 +1,22 @@
 """How the answer of a question hangs on one of its tables, on all bases."""
 
-from rowcounts.courses import found_by_kinds
+from rowcounts.cells import inner_cell, some_points, whole_cell
+from rowcounts.doubts import Outlook, can_differ, can_part
 from rowcounts.errors import BadQuestion, NoTable
 from rowcounts.forms import rest_form, times_form, value_of
-from rowcounts.judge import Shown, leaf_or_point, parted_either_way, verdict_of
-from rowcounts.judgements import Judgement, check_sizes, judgement_of
-from rowcounts.questions import Empty, Question, Table
+from rowcounts.judgements import check_size_of, judgement_of, judgement_without_rules
+from rowcounts.questions import Chosen, Empty, Question, Table
+from rowcounts.samples import Samples, numbers_on
 from rowcounts.truths import Has
-from rowcounts.weights import Point
 
 MOST_TABLES = 3
 
 MOST_OPERATORS = 5
 
 MOST_TIMES = 9
+
+# So many rows of each old table beside one of the new one: what grows or falls by all of them is told at once.
+MANY_ROWS = 40
 
 NEW_NAMES = ("new", "newer", "newest", "news")
 
@@ -33,25 +36,29 @@ def harms(question, name):
 def plays_part(question, name):
     """Whether some bases that differ in a table alone have unlike answers."""
     more = with_more(question, name)
-    return parted_either_way(Judgement(question, more, [])) is not None
+    return can_differ(judgement_without_rules(question, more))
 
 
 def gain(question, name):
     """How much more often, at most, a question tells a row for each one more in a table; None if above 9."""
-    more = with_more(question, name)
-    return least_times(more, question, new_table(question))
+    check_hanging(question, name)
+    if is_steady(question):
+        return steepest(question, name, 1)
+    return least_times(with_more(question, name), question, new_name(question))
 
 
 def loss(question, name):
     """How much less often, at most, a question tells a row for each one more in a table; None if above 9."""
-    more = with_more(question, name)
-    return least_times(question, more, new_table(question))
+    check_hanging(question, name)
+    if is_steady(question):
+        return steepest(question, name, -1)
+    return least_times(question, with_more(question, name), new_name(question))
 
 
 def never_any(question):
     """Whether a question has no row in any base."""
     check_question(question)
-    check_sizes([question], MOST_TABLES, MOST_OPERATORS)
+    check_size_of(question, MOST_TABLES, MOST_OPERATORS)
     return is_never_more(question, Empty())
 
 
@@ -63,7 +70,7 @@ def same_rows(one, other):
         raise BadQuestion("other")
     first = judgement_of(one // Has(other), Empty(), ())
     last = judgement_of(other // Has(one), Empty(), ())
-    return isinstance(verdict_of(first), Shown) and isinstance(verdict_of(last), Shown)
+    return not can_part(first) and not can_part(last)
 
 
 def check_question(question):
@@ -72,60 +79,91 @@ def check_question(question):
         raise BadQuestion("question")
 
 
-def with_more(question, name):
-    """The question with the rows of a new table put into one of its tables; refuses any wrong values."""
+def check_hanging(question, name):
+    """Refuse any values that are no question of the sizes and one of its tables."""
     check_question(question)
     if name not in question:
         raise NoTable(name)
-    check_sizes([question], MOST_TABLES, MOST_OPERATORS)
-    return question.filled({name: Table(name) + new_table(question)})
+    check_size_of(question, MOST_TABLES, MOST_OPERATORS)
 
 
-def new_table(question):
-    """A table that the question does not have."""
+def with_more(question, name):
+    """The question with the rows of a new table put into one of its tables; refuses any wrong values."""
+    check_hanging(question, name)
+    return question.filled({name: Table(name) + Table(new_name(question))})
+
+
+def new_name(question):
+    """The name of a table that the question does not have."""
     names = [name for name in NEW_NAMES if name not in question.names]
-    return Table(names[0])
+    return names[0]
 
 
 def is_never_more(one, other):
     """Whether one question, of any size, never tells a row more often than another one."""
-    return isinstance(verdict_of(Judgement(one, other, [])), Shown)
+    return not can_part(judgement_without_rules(one, other))
+
+
+def is_steady(question):
+    """Whether a question has no Has, so that its answers do not jump."""
+    if isinstance(question, Chosen) and question.test.size > 0:
+        return False
+    return all([is_steady(part) for part in question.parts])
+
+
+def steepest(question, name, sign):
+    """The gain of a question without Has, or with the sign -1 its loss.
+
+    It is straight in each part of all counts, and does not jump between them: so its steepest part tells.
+    """
+    at, most = question.names.index(name), 0
+    for sort in judgement_without_rules(question, Empty()).unlike_sorts:
+        cell = inner_cell(len(question.names))
+        for form, _ in Outlook(question.names, sort.known_values).over(question, cell):
+            most = max(most, int(sign * form[at]))
+    return most if most <= MOST_TIMES else None
 
 
 def least_times(one, other, new):
     """The least n from 0 to 9 with which one is never more than other and n times the new table, or None."""
-    slope = Slope(MOST_TIMES)
-    found_by_kinds(Judgement(one, other, []), [one, other, new], slope)
-    return None if slope.is_reached(None) else slope.least
+    judgement, least = judgement_without_rules(one, other), 0
+    sorts = judgement.unlike_sorts
+    for sort in sorts:
+        least = least_at_samples(judgement, new, sort.known_values, least)
+        if least > MOST_TIMES:
+            return None
+    for sort in sorts:
+        least = least_in_parts(judgement, new, sort.known_values, least)
+        if least > MOST_TIMES:
+            return None
+    return least
 
 
-class Slope:
-    """A goal: the least number of times, up to a most, that a table must be put to a question so that it is not less.
+def least_at_samples(judgement, new, values, least):
+    """The least number of times, from a number on, that is enough at some counts with one row of the new table."""
+    points = some_points(len(judgement.tables))
+    columns = [[1 if name == new else MANY_ROWS * point[at] for point in points]
+               for at, name in enumerate(judgement.tables)]
+    samples = Samples(judgement.tables, columns, len(points))
+    ones, others = [numbers_on(question, values, samples) for question in (judgement.one, judgement.other)]
+    return max(least, int(max([int(one - other) for one, other in zip(ones, others)])))
+
+
+def least_in_parts(judgement, new, values, least):
+    """The same at all counts; it need not be right if it is more than the most.
 
     Each number that is too small is left behind at counts where it is: so the last one is the least.
     """
-
-    def __init__(self, most):
-        self.most = most
-        self.least = 0
-
-    def at_end(self, forms, cell):
-        """Raise the number in a cell where the questions, and the table, are these forms."""
-        above, new = rest_form(forms[0], forms[1]), forms[2]
-        found = leaf_or_point(cell, [], rest_form(above, times_form(self.least, new)))
-        while isinstance(found, Point) and self.least <= self.most:
-            self.least = least_over(value_of(above, found.counts), value_of(new, found.counts))
-            found = leaf_or_point(cell, [], rest_form(above, times_form(self.least, new)))
-
-    def at_clash(self, weights):
-        """In a cell without counts there is nothing to do."""
-
-    def branched(self, form, yes, no):
-        """Behind both parts of a cell there is nothing to do."""
-
-    def is_reached(self, found):
-        """Whether no number up to the most is enough."""
-        return self.least > self.most
+    outlook = Outlook(judgement.tables, values)
+    unit = outlook.units[new]
+    for one, other, part in outlook.both_over(judgement.one, judgement.other, whole_cell(len(judgement.tables))):
+        above = rest_form(one, other)
+        steeper = part.part_above(rest_form(above, times_form(least, unit)))
+        while steeper is not None and least <= MOST_TIMES:
+            point = steeper.points[0]
+            least = least_over(value_of(above, point), value_of(unit, point))
+            steeper = part.part_above(rest_form(above, times_form(least, unit)))
+    return least
 
 
 def least_over(difference, times):

@@ -84,7 +84,7 @@ def never_more(one, other, *rules):
 
 def alike(one, other, *rules):
     """An Agreed that two questions tell each row equally often, or a Parted, of one and other first."""
-    found = verdicts_of(judgement_of(one, other, rules), Ways(2, 1))
+    found = verdicts_of(judgement_of(one, other, rules), Ways(2))
     for verdict in found:
         if isinstance(verdict, Parted):
             return verdict
@@ -93,26 +93,17 @@ def alike(one, other, *rules):
 
 def verdict_of(judgement):
     """The Shown or the Parted of a judgement, of any size."""
-    return verdicts_of(judgement, Ways(1, 1))[0]
-
-
-def parted_either_way(judgement):
-    """A Parted of a judgement, or of the same the other way about, or None; of any size."""
-    for verdict in verdicts_of(judgement, Ways(2, 2)):
-        if isinstance(verdict, Parted):
-            return verdict
-    return None
+    return verdicts_of(judgement, Ways(1))[0]
 
 
 class Ways:
     """A goal: a tree, or else a Point at which the questions part, from one to other and, if asked, back.
 
-    Of how many ways, from the first one on, a Point is enough, so that nothing else need be found, is told, too.
+    A Point of the first way is enough, so that nothing else need be found.
     """
 
-    def __init__(self, many, enough):
+    def __init__(self, many):
         self.many = many
-        self.enough = enough
 
     def at_end(self, forms, cell):
         """What is found for each way in a cell where the questions are these forms."""
@@ -130,7 +121,7 @@ class Ways:
 
     def is_reached(self, found):
         """Whether a Point is found that is enough."""
-        return any([isinstance(tree, Point) for tree in found[:self.enough]])
+        return isinstance(found[0], Point)
 
 
 def branched_tree(form, yes, no):
@@ -152,14 +143,14 @@ def leaf_or_point(cell, demanded, above):
 
 
 def verdicts_of(judgement, ways):
-    """A list of the verdicts for each way; if a Point is enough, those that have none are not told."""
-    found = found_by_kinds(judgement, judgement.questions, ways)
+    """A list of the verdicts for each way, or of the first one alone if it is a Parted."""
+    found = found_by_kinds(judgement, ways)
     return [verdict_from(judgement, [trees[way] for trees in found]) for way in range(ways.many)]
 
 
 def verdict_from(judgement, found):
     """The Shown of the trees of all kinds, or the Parted of the first kind with a Point."""
-    for kind, tree in zip(judgement.sorts, found):
+    for sort, tree in zip(judgement.sorts, found):
         if isinstance(tree, Point):
-            return Parted(kind.row, dict(zip(judgement.tables, tree.counts)))
+            return Parted(sort.row, dict(zip(judgement.tables, tree.counts)))
     return Shown(tuple(found))

@@ -19,40 +19,48 @@ class Kind:
         return isinstance(other, Kind) and same(self.row, other.row) and same(self.truths, other.truths)
 
 
+class Sort:
+    """What a Kind tells, and its row as a dict, too."""
+
+    def __init__(self, row, truths):
+        self.row = row
+        self.truths = truths
+        self.known_values = dict(row)
+
+
 def kinds(*conditions):
     """The tuple of the kinds of rows that some conditions tell apart, ordered by their values."""
     if not all([isinstance(condition, Condition) for condition in conditions]):
         raise BadTest("condition")
-    unlike = unlike_conditions([conditions])
+    unlike = unlike_conditions(conditions)
     if len(unlike) > MOST_CONDITIONS:
         raise TooMany("conditions", MOST_CONDITIONS)
-    return kinds_of(unlike)
+    return tuple([Kind(sort.row, sort.truths) for sort in sorts_of(unlike)])
 
 
-def kinds_of(conditions):
-    """The same for unlike conditions, ascending by their texts."""
-    columns = ordered_texts([condition.column for condition in conditions])
+def sorts_of(conditions):
+    """The same as Sorts, for unlike conditions, ascending by their texts: so those of one column stand together."""
+    found = [((), ())]
+    for column in ordered_texts([condition.column for condition in conditions]):
+        told = values_told(column, [condition for condition in conditions if condition.column == column])
+        found = [((*row, (column, value)), (*truths, *more)) for row, truths in found for value, more in told]
+    return tuple([Sort(row, truths) for row, truths in found])
+
+
+def values_told(column, conditions):
+    """A list of pairs, ascending: the first value of a column for which its conditions have some truths, and these."""
     found = {}
-    for values in rows_over([values_in(column, conditions) for column in columns]):
-        told = dict(zip(columns, values))
+    for value in values_in(conditions):
+        told = {column: value}
         truths = tuple([condition.known(told, {}) for condition in conditions])
         if truths not in found:
-            found[truths] = Kind(tuple(zip(columns, values)), truths)
-    return tuple([found[truths] for truths in found])
+            found[truths] = value
+    return [(found[truths], truths) for truths in found]
 
 
-def values_in(column, conditions):
-    """The values of a column at which the conditions can change, and one between them, ascending."""
-    numbers = [condition.number for condition in conditions
-               if condition.column == column and not isinstance(condition, Missing)]
+def values_in(conditions):
+    """The values at which some conditions on one column can change, and one between them, ascending."""
+    numbers = [condition.number for condition in conditions if not isinstance(condition, Missing)]
     if not numbers:
         return [0, None]
     return [*sorted(set([int(number + step) for number in numbers for step in (-1, 0, 1)])), None]
-
-
-def rows_over(columns):
-    """A list of all rows with one value out of each of some lists, ascending as these are."""
-    rows = [()]
-    for values in columns:
-        rows = [(*row, value) for row in rows for value in values]
-    return rows

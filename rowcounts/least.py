@@ -1,9 +1,12 @@
 """The least examples: the Parted with the least counts."""
 
-from rowcounts.courses import truths_that_count
+from rowcounts.doubts import can_part_at_great, first_parting, small_samples
 from rowcounts.errors import TooMany
-from rowcounts.judge import Parted, Shown, verdict_of
+from rowcounts.judge import Parted
 from rowcounts.judgements import judgement_of
+from rowcounts.samples import Samples
+
+SMALL_SUM = 2
 
 MOST_SUM = 12
 
@@ -11,9 +14,10 @@ MOST_SUM = 12
 def least_parted(one, other, *rules):
     """The least Parted of two questions, or None if one never tells a row more often."""
     judgement = judgement_of(one, other, rules)
-    if isinstance(verdict_of(judgement), Shown):
-        return None
-    found = least_of(judgement)
+    found = small_parted(judgement)
+    if found is not None or not can_part_at_great(judgement):
+        return found
+    found = great_parted(judgement)
     if found is None:
         raise TooMany("counts", MOST_SUM)
     return found
@@ -27,32 +31,31 @@ def shows_least(one, other, paper, *rules):
 
 def least_of(judgement):
     """The least Parted of a judgement whose counts do not add up to more than the most, or None."""
-    unlike = first_kinds(judgement)
-    for total in range(MOST_SUM + 1):
-        rows = counts_of_sum(total, len(judgement.tables))
-        for kind in unlike:
-            counts = first_parting(judgement, dict(kind.row), rows)
-            if counts is not None:
-                return Parted(kind.row, counts)
+    found = small_parted(judgement)
+    return great_parted(judgement) if found is None else found
+
+
+def small_parted(judgement):
+    """The same if its counts add up to 1 or 2; no questions part without any counts."""
+    samples = small_samples(judgement.tables)
+    found = [(sort, first_parting(judgement, sort.known_values, samples, False)) for sort in judgement.unlike_sorts]
+    for most in (len(judgement.tables), len(samples.noughts)):
+        for sort, at in found:
+            if at is not None and at < most:
+                return Parted(sort.row, samples.counts_at(at))
     return None
 
 
-def first_kinds(judgement):
-    """A list of the kinds of a judgement without those at which its questions tell the same as at an earlier one."""
-    found = {}
-    for kind in judgement.sorts:
-        counting = truths_that_count(judgement.questions, judgement.truths_of(kind))
-        if counting not in found:
-            found[counting] = kind
-    return [found[counting] for counting in found]
-
-
-def first_parting(judgement, values, rows):
-    """The first of some rows of counts, as a dict from the tables, at which the questions part, or None."""
-    for row in rows:
-        counts = dict(zip(judgement.tables, row))
-        if judgement.parts_at(values, counts):
-            return counts
+def great_parted(judgement):
+    """The same if its counts add up to more."""
+    sorts, many = judgement.unlike_sorts, len(judgement.tables)
+    for total in range(SMALL_SUM + 1, MOST_SUM + 1):
+        rows = counts_of_sum(total, many)
+        samples = Samples(judgement.tables, [[row[at] for row in rows] for at in range(many)], len(rows))
+        for sort in sorts:
+            at = first_parting(judgement, sort.known_values, samples, False)
+            if at is not None:
+                return Parted(sort.row, samples.counts_at(at))
     return None
 
 

@@ -73,8 +73,8 @@ def is_right_shown(judgement, value):
         return False
     if not all([leaves_of(tree, MOST_SPLITS, MOST_LEAVES) <= MOST_LEAVES for tree in value.trees]):
         return False
-    return all([is_right_tree(judgement, judgement.truths_of(kind), judgement.branch(), tree)
-                for kind, tree in zip(judgement.sorts, value.trees)])
+    return all([is_right_tree(judgement, judgement.truths_of(sort), judgement.branch(), tree)
+                for sort, tree in zip(judgement.sorts, value.trees)])
 
 
 def leaves_of(tree, splits, most):

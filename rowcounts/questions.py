@@ -2,10 +2,10 @@
 
 from rowcounts.bags import bag_of
 from rowcounts.bases import Base, check_questions
-from rowcounts.basics import is_integer, is_name, ordered_texts
+from rowcounts.basics import is_integer, is_name, merged_texts
 from rowcounts.errors import BadBase, BadName, BadNumber, BadQuestion, BadTest, NoColumn, NoPlace, NoTable, TooMany
 from rowcounts.marks import AnyQuestion
-from rowcounts.truths import Test, check_told, unlike_conditions
+from rowcounts.truths import Test, check_told, merged_conditions
 
 
 class Question(AnyQuestion):
@@ -13,17 +13,16 @@ class Question(AnyQuestion):
 
     MOST = 40
 
-    def __init__(self, text, parts, tests):
-        held = [*parts, *tests]
-        self._size = sum([one.size for one in held]) + (1 if held else 0)
-        if self._size > Question.MOST:
+    def __init__(self, text, size, parts, names, columns, conditions, is_plain):
+        if size > Question.MOST:
             raise TooMany("size", Question.MOST)
         self._text = text
+        self._size = size
         self._parts = parts
-        self._names = ordered_texts([name for one in held for name in one.names])
-        self._columns = ordered_texts([column for one in held for column in one.columns])
-        self._conditions = unlike_conditions([one.conditions for one in held])
-        self._is_plain = not tests and all([part.is_plain for part in parts])
+        self._names = names
+        self._columns = columns
+        self._conditions = conditions
+        self._is_plain = is_plain
 
     @property
     def names(self):
@@ -136,8 +135,8 @@ class Question(AnyQuestion):
 class Bare(Question):
     """The base of the questions without parts; it is not made itself."""
 
-    def __init__(self, text):
-        Question.__init__(self, text, (), ())
+    def __init__(self, text, names):
+        Question.__init__(self, text, 0, (), names, (), (), True)
 
     def with_parts(self, parts):
         """The question itself: it has no parts."""
@@ -152,7 +151,11 @@ class Pair(Question):
             raise BadQuestion("one")
         if not isinstance(other, Question):
             raise BadQuestion("other")
-        Question.__init__(self, f"( {one} {sign} {other} )", (one, other), ())
+        Question.__init__(
+            self, f"( {one} {sign} {other} )", 1 + one.size + other.size, (one, other),
+            merged_texts(one.names, other.names), merged_texts(one.columns, other.columns),
+            merged_conditions(one.conditions, other.conditions), one.is_plain and other.is_plain,
+        )
         self.one = one
         self.other = other
 
@@ -160,8 +163,10 @@ class Pair(Question):
 class Single(Question):
     """The base of the questions with one part; it is not made itself."""
 
-    def __init__(self, text, part, tests):
-        Question.__init__(self, text, (part,), tests)
+    def __init__(self, text, part):
+        Question.__init__(
+            self, text, 1 + part.size, (part,), part.names, part.columns, part.conditions, part.is_plain,
+        )
 
 
 class Straight(Question):
@@ -180,7 +185,11 @@ class Chosen(Question):
             raise BadQuestion("part")
         if not isinstance(test, Test):
             raise BadTest("test")
-        Question.__init__(self, f"( {part} {word} {test} )", (part,), (test,))
+        Question.__init__(
+            self, f"( {part} {word} {test} )", 1 + part.size + test.size, (part,),
+            merged_texts(part.names, test.names), merged_texts(part.columns, test.columns),
+            merged_conditions(part.conditions, test.conditions), False,
+        )
         self.part = part
         self.test = test
 
@@ -191,8 +200,7 @@ class Table(Bare, Straight):
     def __init__(self, name):
         if not is_name(name):
             raise BadName(name)
-        Bare.__init__(self, name)
-        self._names = (name,)
+        Bare.__init__(self, name, (name,))
         self.name = name
 
     def number_at(self, values, counts):
@@ -208,7 +216,7 @@ class Empty(Bare, Straight):
     """No rows."""
 
     def __init__(self):
-        Bare.__init__(self, "empty")
+        Bare.__init__(self, "empty", ())
 
     def number_at(self, values, counts):
         """The number of a row that is known to have all columns and tables."""
@@ -238,7 +246,7 @@ class Times(Single, Straight):
             raise BadNumber(number)
         if not isinstance(part, Question):
             raise BadQuestion("part")
-        Single.__init__(self, f"( {number} * {part} )", part, ())
+        Single.__init__(self, f"( {number} * {part} )", part)
         self.number = number
         self.part = part
 

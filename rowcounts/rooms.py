@@ -9,7 +9,7 @@ from rowcounts.forms import (
     Bound, is_form_of, is_nought, minus_form, nought_form, rest_form, sum_form, times_form, unit_form, value_of,
 )
 from rowcounts.judge import Leaf, Split
-from rowcounts.judgements import check_sizes
+from rowcounts.judgements import check_size_of
 from rowcounts.look_judge import MOST_LEAVES, MOST_SPLITS, leaves_of
 from rowcounts.papers import own_copy, same
 from rowcounts.questions import Bent, Question
@@ -118,7 +118,7 @@ def check_question(question):
         raise BadQuestion("question")
     if not question.is_plain:
         raise BadQuestion("plain")
-    check_sizes([question], MOST_TABLES, MOST_OPERATORS)
+    check_size_of(question, MOST_TABLES, MOST_OPERATORS)
 
 
 def check_counts(question, counts, part):

@@ -5,11 +5,12 @@ tell of some samples; those that tell the same numbers are put together. A quest
 """
 
 from rowcounts.basics import is_integer, ordered_texts
+from rowcounts.doubts import doubt_of
 from rowcounts.errors import BadCounts, BadQuestion
-from rowcounts.judge import parted_either_way
-from rowcounts.judgements import Judgement, check_sizes
-from rowcounts.kinds import kinds_of
+from rowcounts.judgements import check_size_of, judgement_without_rules
+from rowcounts.kinds import sorts_of
 from rowcounts.questions import Question
+from rowcounts.samples import Samples, numbers_on
 from rowcounts.truths import are_counts
 from rowcounts.words import read_question
 
@@ -17,14 +18,12 @@ MOST_TABLES = 3
 
 MOST_OPERATORS = 8
 
-SIGNS = ("+", "&", "|", "-")
-
 # Each order of three tables, with one table that outweighs the others and without, and some tables without the row:
-# unlike questions seldom tell the same of all.
-SOME_COUNTS = (
-    (23, 97, 211), (211, 23, 97), (97, 211, 23), (61, 89, 73), (73, 61, 89), (89, 73, 61), (211, 97, 23), (23, 211, 97),
-    (97, 23, 211), (89, 61, 73), (61, 73, 89), (73, 89, 61), (0, 5, 8), (8, 0, 5), (5, 8, 0), (1, 0, 0), (0, 1, 0),
-    (0, 0, 1),
+# unlike questions seldom tell the same of all. For each table there is a column.
+SOME_COLUMNS = (
+    (23, 211, 97, 61, 73, 89, 211, 23, 97, 89, 61, 73, 0, 8, 5, 1, 0, 0),
+    (97, 23, 211, 89, 61, 73, 97, 211, 23, 61, 73, 89, 5, 0, 8, 0, 1, 0),
+    (211, 97, 23, 73, 89, 61, 23, 97, 211, 73, 89, 61, 8, 5, 0, 0, 0, 1),
 )
 
 
@@ -32,27 +31,40 @@ def shortest(question):
     """The first short question that is alike a question on all bases, or None."""
     if not isinstance(question, Question):
         raise BadQuestion("question")
-    check_sizes([question], MOST_TABLES, MOST_OPERATORS)
-    rows = [dict(kind.row) for kind in kinds_of(question.conditions)]
-    if not are_alike_rows(question, rows):
-        return None
-    samples = [sample_of(question, rows[0], dict(zip(question.names, counts))) for counts in SOME_COUNTS]
-    text = first_text(question.names, samples)
-    while text is not None:
+    check_size_of(question, MOST_TABLES, MOST_OPERATORS)
+    names = question.names
+    columns = [list(column) for column in SOME_COLUMNS[:len(names)]]
+    samples = Samples(names, columns, len(SOME_COLUMNS[0]))
+    sorts = sorts_of(question.conditions)
+    goal = numbers_on(question, sorts[0].known_values, samples)
+    for sort in sorts[1:]:
+        # Short questions tell the same of rows with unlike values.
+        if numbers_on(question, sort.known_values, samples) != goal:
+            return None
+    return first_alike(question, columns, goal)
+
+
+def first_alike(question, columns, goal):
+    """The same, out of the numbers of each table at some samples, and those that the question tells there."""
+    text = first_text(question.names, columns, goal)
+    while text is not None and text != str(question):
         short = read_question(text)
-        parted = parted_either_way(Judgement(question, short, []))
-        if parted is None:
+        doubt = doubt_of(judgement_without_rules(question, short), True)
+        if doubt is None:
             return short
-        samples.append(sample_of(question, dict(parted.row), parted.counts))
-        text = first_text(question.names, samples)
-    return None
+        values, counts = doubt
+        columns = [[*column, counts[name]] for name, column in zip(question.names, columns)]
+        goal = [*goal, question.number_at(values, counts)]
+        text = first_text(question.names, columns, goal)
+    return None if text is None else question
 
 
 def explains(samples):
     """The first short question that tells the numbers of some pairs of counts and numbers, or None."""
     check_samples(samples)
     names = ordered_texts(list(samples[0][0])) if samples else ()
-    text = first_text(names, samples)
+    columns = [[counts[name] for counts, _ in samples] for name in names]
+    text = first_text(names, columns, [number for _, number in samples])
     return None if text is None else read_question(text)
 
 
@@ -73,32 +85,20 @@ def is_sample(value):
     return are_counts(counts) and len(counts) <= MOST_TABLES and is_integer(number) and number >= 0
 
 
-def sample_of(question, values, counts):
-    """The pair of some counts and the number that a question tells for them."""
-    return counts, question.number_at(values, counts)
+def first_text(names, columns, goal):
+    """The text of the first short question over some tables that tells some numbers, or None.
 
-
-def are_alike_rows(question, rows):
-    """Whether a question tells the same of rows with unlike values, as short questions do, for a few counts."""
-    for counts in SOME_COUNTS[:2]:
-        told = dict(zip(question.names, counts))
-        number = question.number_at(rows[0], told)
-        for values in rows[1:]:
-            if question.number_at(values, told) != number:
-                return False
-    return True
-
-
-def first_text(names, samples):
-    """The text of the first short question over some table names that tells the numbers of all samples, or None."""
-    goal = tuple([number for _, number in samples])
-    bare = {name: tuple([counts[name] for counts, _ in samples]) for name in names}
-    bare["empty"] = tuple([0 for _ in samples])
-    found = first_of([text for text in bare if bare[text] == goal])
-    if found is not None:
-        return found
+    For each table there is a column of its numbers.
+    """
+    bare = dict(zip(names, columns))
+    found = [name for name in names if bare[name] == goal]
+    if not any(goal):
+        found.append("empty")
+    if found:
+        return first_of(found)
     single = single_texts(bare)
-    return single[goal] if goal in single else first_of(double_texts(bare, single, goal))
+    key = tuple(goal)
+    return single[key] if key in single else first_of(double_texts(bare, single, goal))
 
 
 def first_of(texts):
@@ -109,46 +109,63 @@ def first_of(texts):
 def single_texts(bare):
     """A dict from the numbers that questions of one operator tell to the first text of those that tell them.
 
-    The bare questions are told by a dict from their texts to their numbers.
+    The tables are told by a dict from their names, ascending, to their numbers. Questions that tell what a table tells,
+    or nothing, are left out, if it is plain from their texts: they are never first.
     """
     found = {}
     for one in bare:
+        put_single(found, f"( {one} + {one} )", [2 * number for number in bare[one]])
         for other in bare:
-            for sign in SIGNS:
-                text = f"( {one} {sign} {other} )"
-                numbers = numbers_of(bare[one], sign, bare[other])
-                if numbers not in found or text < found[numbers]:
-                    found[numbers] = text
+            pairs = list(zip(bare[one], bare[other]))
+            if one != other:
+                put_single(found, f"( {one} - {other} )", [more - less if more > less else 0 for more, less in pairs])
+            if one < other:
+                put_single(found, f"( {one} & {other} )", [low if low < high else high for low, high in pairs])
+                put_single(found, f"( {one} + {other} )", [number + more for number, more in pairs])
+                put_single(found, f"( {one} | {other} )", [high if low < high else low for low, high in pairs])
     return found
 
 
+def put_single(found, text, numbers):
+    """Put a text to such a dict, if there is none ahead of it that tells its numbers."""
+    key = tuple(numbers)
+    if key not in found or text < found[key]:
+        found[key] = text
+
+
 def double_texts(bare, single, goal):
-    """A list of texts of questions of two operators that tell some numbers, the first one of all among them."""
+    """A list of texts of questions of two operators that tell some numbers, the first one of all among them.
+
+    Only a Rest need begin with a table: all others tell the same the other way about, with a text further ahead.
+    """
     found = []
     for numbers in single:
-        for text in bare:
-            for sign in signs_to(numbers, bare[text], goal):
-                found.append(f"( {single[numbers]} {sign} {text} )")
-            for sign in signs_to(bare[text], numbers, goal):
-                found.append(f"( {text} {sign} {single[numbers]} )")
+        for name in bare:
+            for sign in signs_to(numbers, bare[name], goal):
+                found.append(f"( {single[numbers]} {sign} {name} )")
+            if is_rest(bare[name], numbers, goal):
+                found.append(f"( {name} - {single[numbers]} )")
     return found
 
 
 def signs_to(ones, others, goal):
     """A list of the signs with which two rows of numbers tell a third one."""
-    signs = SIGNS
+    signs = ("+", "&", "|", "-")
     for one, other, number in zip(ones, others, goal):
         if number not in (0, one, other, one + other, one - other):
-            return []
+            return ()
         signs = [sign for sign in signs if number_of(one, sign, other) == number]
         if not signs:
             return signs
     return signs
 
 
-def numbers_of(ones, sign, others):
-    """The row of numbers that two rows tell with a sign between them."""
-    return tuple([number_of(one, sign, other) for one, other in zip(ones, others)])
+def is_rest(ones, others, goal):
+    """Whether a row of numbers is what is left of one row without those of another one."""
+    for one, other, number in zip(ones, others, goal):
+        if number != (one - other if one > other else 0):
+            return False
+    return True
 
 
 def number_of(one, sign, other):

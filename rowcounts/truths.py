@@ -1,6 +1,6 @@
 """Tests of rows: true, false or unknown."""
 
-from rowcounts.basics import is_integer, is_name, is_value, ordered_texts
+from rowcounts.basics import is_integer, is_name, is_value, merged_texts, ordered_texts
 from rowcounts.errors import BadCounts, BadName, BadNumber, BadQuestion, BadRow, BadTest, NoColumn, NoTable
 from rowcounts.marks import AnyQuestion
 
@@ -8,12 +8,12 @@ from rowcounts.marks import AnyQuestion
 class Test:
     """The base of all tests; it is not made itself."""
 
-    def __init__(self, text, held):
+    def __init__(self, text, size, columns, names, conditions):
         self._text = text
-        self._columns = ordered_texts([column for one in held for column in one.columns])
-        self._names = ordered_texts([name for one in held for name in one.names])
-        self._conditions = unlike_conditions([one.conditions for one in held])
-        self._size = sum([one.size for one in held])
+        self._size = size
+        self._columns = columns
+        self._names = names
+        self._conditions = conditions
 
     @property
     def columns(self):
@@ -64,9 +64,7 @@ class Condition(Test):
     """The base of the tests that look at one value; it is not made itself."""
 
     def __init__(self, column, text):
-        Test.__init__(self, text, ())
-        self._columns = (column,)
-        self._conditions = (self,)
+        Test.__init__(self, text, 0, (column,), (), (self,))
         self.column = column
 
     def filled_by(self, parts):
@@ -135,8 +133,9 @@ class Has(Test):
     def __init__(self, question):
         if not isinstance(question, AnyQuestion):
             raise BadQuestion("question")
-        Test.__init__(self, f"has {question}", (question,))
-        self._size = 1 + question.size
+        Test.__init__(
+            self, f"has {question}", 1 + question.size, question.columns, question.names, question.conditions,
+        )
         self.asked = question
 
     def known(self, values, counts):
@@ -153,7 +152,10 @@ class And(Test):
 
     def __init__(self, one, other):
         check_both(one, other)
-        Test.__init__(self, f"( {one} and {other} )", (one, other))
+        Test.__init__(
+            self, f"( {one} and {other} )", one.size + other.size, merged_texts(one.columns, other.columns),
+            merged_texts(one.names, other.names), merged_conditions(one.conditions, other.conditions),
+        )
         self.one = one
         self.other = other
 
@@ -171,7 +173,10 @@ class Or(Test):
 
     def __init__(self, one, other):
         check_both(one, other)
-        Test.__init__(self, f"( {one} or {other} )", (one, other))
+        Test.__init__(
+            self, f"( {one} or {other} )", one.size + other.size, merged_texts(one.columns, other.columns),
+            merged_texts(one.names, other.names), merged_conditions(one.conditions, other.conditions),
+        )
         self.one = one
         self.other = other
 
@@ -190,7 +195,7 @@ class Not(Test):
     def __init__(self, test):
         if not isinstance(test, Test) or isinstance(test, Not):
             raise BadTest("test")
-        Test.__init__(self, f"not {test}", (test,))
+        Test.__init__(self, f"not {test}", test.size, test.columns, test.names, test.conditions)
         self.test = test
 
     def known(self, values, counts):
@@ -234,10 +239,19 @@ def truth_of_test(test, truths):
     return truth_of_both(one, other) if isinstance(test, And) else truth_of_either(one, other)
 
 
-def unlike_conditions(groups):
-    """The tuple of the unlike conditions of some groups, ascending by their texts."""
-    by_text = {str(condition): condition for group in groups for condition in group}
+def unlike_conditions(conditions):
+    """The tuple of the unlike ones of some conditions, ascending by their texts."""
+    if len(conditions) < 2:
+        return tuple(conditions)
+    by_text = {str(condition): condition for condition in conditions}
     return tuple([by_text[text] for text in ordered_texts(list(by_text))])
+
+
+def merged_conditions(one, other):
+    """The same for two tuples, each of them unlike and ascending; most often one of them is empty."""
+    if not other:
+        return one
+    return unlike_conditions([*one, *other]) if one else other
 
 
 def check_comparison(column, number):

@@ -5,7 +5,7 @@ so a word that cannot stand is told ahead of a size that is too great.
 """
 
 from rowcounts.basics import is_name
-from rowcounts.errors import BadText
+from rowcounts.errors import BadName, BadText
 from rowcounts.parsing import expect, expect_end, is_integer_word, word_at, words_of
 from rowcounts.questions import Empty, Question, Table
 from rowcounts.truths import Below, Condition, Equals, Has, Missing, UpTo
@@ -58,9 +58,10 @@ def question_tree(words, at, depth):
         return closed(words, bracket_tree(words, at + 1, depth + 1))
     if word == "empty":
         return Empty(), at + 1
-    if is_name(word):
+    try:
         return Table(word), at + 1
-    raise BadText(0, at)
+    except BadName:
+        raise BadText(0, at)
 
 
 def bracket_tree(words, at, depth):

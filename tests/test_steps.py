@@ -4,9 +4,11 @@ import sys
 import unittest
 
 from anything import Case
+from rowcounts.desk import Desk
 from rowcounts.hangs import gain, loss
 from rowcounts.judge import Agreed, alike
 from rowcounts.look_judge import shows_agreed
+from rowcounts.reader import read_store
 from rowcounts.shortest import explains, shortest
 from rowcounts.words import read_question
 
@@ -19,6 +21,25 @@ SLOPES = [
     (gain, "( ( a - b ) | ( ( b - c ) & ( c | a ) ) )", "a"), (loss, "( ( ( a - b ) & ( b - c ) ) | ( c & a ) )", "b"),
     (gain, "( ( ( a - b ) | ( b - c ) ) | ( c - a ) )", "b"),
 ]
+
+STORE = """base col x y
+table a 3 of 0 5 null, 1 of 0 6 null
+table b 9 of 0 5 null, 9 of 0 6 null
+table zz none
+rule within ( ( a - b ) where x < 6 ) ; ( b + b )
+rule apart zz ; ( a where y = 1 )"""
+
+LINES = {
+    "alike ( a unless has zz ) ; ( a - zz )": ("unlike", 700),
+    "more ( a - b ) ; a": ("never", 900),
+    "follows apart ( a - b ) ; ( b - a )": ("yes", 1400),
+    "alike ( a where y = 1 ) ; ( a unless y = 1 )": ("unlike", 600),
+    "more ( a where x < 5 ) ; ( b - a )": ("least x 4 y 0 a 1 b 1 zz 0", 700),
+    "more ( a where y = 1 ) ; ( b unless x null )": ("least x 6 y 1 a 1 b 0 zz 0", 700),
+    "short ( a - b )": ("( a - b )", 200),
+    "short ( a unless has b )": ("none", 500),
+    "gain a ( a - b )": ("1", 250),
+}
 
 
 def counted(work):
@@ -58,6 +79,15 @@ class StepsTest(Case):
         for slope, text, name in SLOPES:
             question = read_question(text)
             self.check(lambda question=question, name=name, slope=slope: slope(question, name), 1, 25000)
+
+    def test_lines_of_desks(self):
+        """On desks that were not asked them before."""
+        for line, (answer, most) in LINES.items():
+            desk = Desk(read_store(STORE))
+            desk("watch w ( a - b )")
+            found, many = counted(lambda desk=desk, line=line: desk(line))
+            self.same(found, answer)
+            self.assertLess(many, most, line)
 
     def test_alike(self):
         one = read_question("( ( ( a - b ) & ( b - c ) ) | ( c & a ) )")
