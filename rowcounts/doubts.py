@@ -8,6 +8,7 @@ are, too.
 from rowcounts.branches import compared_form
 from rowcounts.cells import some_points, whole_cell
 from rowcounts.forms import minus_form, nought_form, rest_form, sum_form, times_form, unit_form
+from rowcounts.judgements import judgement_without_rules
 from rowcounts.questions import Bent, Both, Chosen, Table, Times, Where
 from rowcounts.samples import Samples, numbers_on
 from rowcounts.truths import And, Has, Not, truth_of_both, truth_of_either, truth_of_opposite
@@ -16,20 +17,21 @@ from rowcounts.truths import And, Has, Not, truth_of_both, truth_of_either, trut
 FEW_OPERATORS = 6
 
 # For each number of tables a column of numbers for each of these: counts that add up to 1, then to 2, ascending.
+# Counts twice as great as others are left out: all that is told of them is twice as great, too.
 SMALL_COLUMNS = (
     (),
-    ((1, 2),),
-    ((0, 1, 0, 1, 2), (1, 0, 2, 1, 0)),
-    ((0, 0, 1, 0, 0, 0, 1, 1, 2), (0, 1, 0, 0, 1, 2, 0, 1, 0), (1, 0, 0, 2, 1, 0, 1, 0, 0)),
+    ((1,),),
+    ((0, 1, 1), (1, 0, 1)),
+    ((0, 0, 1, 0, 1, 1), (0, 1, 0, 1, 0, 1), (1, 0, 0, 1, 1, 0)),
     (
-        (0, 0, 0, 1, 0, 0, 0, 0, 0, 0, 1, 1, 1, 2), (0, 0, 1, 0, 0, 0, 0, 1, 1, 2, 0, 0, 1, 0),
-        (0, 1, 0, 0, 0, 1, 2, 0, 1, 0, 0, 1, 0, 0), (1, 0, 0, 0, 2, 1, 0, 1, 0, 0, 1, 0, 0, 0),
+        (0, 0, 0, 1, 0, 0, 0, 1, 1, 1), (0, 0, 1, 0, 0, 1, 1, 0, 0, 1), (0, 1, 0, 0, 1, 0, 1, 0, 1, 0),
+        (1, 0, 0, 0, 1, 1, 0, 1, 0, 0),
     ),
 )
 
 
 def small_samples(names):
-    """All counts of at most four tables that add up to 1 or 2."""
+    """The counts of at most four tables that add up to 1 or 2, as columns."""
     columns = SMALL_COLUMNS[len(names)]
     return Samples(names, columns, len(columns[0]) if names else 0)
 
@@ -65,10 +67,25 @@ def great_doubt(judgement, is_either):
     """The same if it is known that there is none at small counts."""
     if str(judgement.one) == str(judgement.other):
         return None
-    if judgement.operators > FEW_OPERATORS:
-        found = doubt_at(judgement, unlike_samples(judgement.tables), is_either)
-        if found is not None:
-            return found
+    are_many = judgement.operators > FEW_OPERATORS
+    if judgement.demands and len(judgement.unlike_sorts) > 1 and not can_without_rules(judgement, is_either, are_many):
+        return None
+    return unlike_doubt(judgement, is_either, are_many)
+
+
+def can_without_rules(judgement, is_either, are_many):
+    """Whether there is such a doubt without the demands, and without the kinds of rows that only they tell apart."""
+    free = judgement_without_rules(judgement.one, judgement.other)
+    if doubt_at(free, small_samples(free.tables), is_either) is not None:
+        return True
+    return unlike_doubt(free, is_either, are_many) is not None
+
+
+def unlike_doubt(judgement, is_either, are_many):
+    """Such a doubt at unlike counts, if they are to be looked at, or else in any part of all counts."""
+    found = doubt_at(judgement, unlike_samples(judgement.tables), is_either) if are_many else None
+    if found is not None:
+        return found
     for sort in judgement.unlike_sorts:
         point = Outlook(judgement.tables, sort.known_values).parting(judgement, is_either)
         if point is not None:

@@ -11,6 +11,7 @@ from rowcounts.doubts import Outlook, can_differ, can_part, can_part_at_great, d
 from rowcounts.hangs import gain, loss
 from rowcounts.judge import Parted, Shown, never_more
 from rowcounts.judgements import judgement_of
+from rowcounts.least import least_parted
 from rowcounts.look_judge import shows_parted, shows_shown
 from rowcounts.samples import Samples, numbers_on, truths_on
 from rowcounts.words import read_question
@@ -54,7 +55,7 @@ class SamplesTest(Case):
             names = NAMES[:many]
             samples = small_samples(names)
             found = [samples.counts_at(at) for at in range(len(samples.noughts))]
-            own = [row for total in (1, 2) for row in itertools.product(range(3), repeat=many) if sum(row) == total]
+            own = [row for total in (1, 2) for row in itertools.product(range(2), repeat=many) if sum(row) == total]
             self.same(found, [dict(zip(names, row)) for row in own])
         self.same([small_samples(()).noughts, small_samples(()).counted], [[], ()])
 
@@ -138,6 +139,17 @@ class DoubtsTest(Case):
             for samples in (small_samples(judgement.tables), unlike_samples(judgement.tables)):
                 self.same(doubt_at(judgement, samples, False), None)
 
+    def test_rows_of_which_a_part_of_a_test_is_unknown(self):
+        """They stand behind those of which it is false; where the test has a Has, they are not always like these."""
+        one, other = "( a where not ( x < 5 and has b ) )", "( a unless ( x < 5 and has b ) )"
+        for sides, parts in (((one, other), False), ((other, one), True)):
+            questions = [read_question(text) for text in sides]
+            judgement = judgement_of(*questions, ())
+            self.same([can_part(judgement), can_part_at_great(judgement), can_differ(judgement)], [parts, parts, True])
+            self.same(isinstance(never_more(*questions), Parted), parts)
+            found = least_parted(*questions)
+            self.same(found == (Parted((("x", None),), {"a": 1, "b": 1}) if parts else None), True)
+
     def test_equal_questions(self):
         for text in ("a", "empty", "( ( a - b ) where ( x < 1 or has c ) )"):
             judgement = judgement_of(read_question(text), read_question(text), ())
@@ -156,6 +168,14 @@ class DoubtsTest(Case):
 
 
 class SlopesTest(Case):
+
+    def test_far_steps(self):
+        """Steps that no sample tells, but some part of all counts: of slopes, and of falls at a Has."""
+        slope, fall = "( ( a - ( 9 * ( 9 * b ) ) ) where has b )", "( a where has ( a - ( 9 * ( 9 * b ) ) ) )"
+        self.same([gain(read_question(slope), "a"), loss(read_question(slope), "a")], [1, 0])
+        self.same([gain(read_question(fall), "a"), loss(read_question(fall), "a")], [None, 0])
+        turned = "( a unless has ( a - ( 9 * ( 9 * b ) ) ) )"
+        self.same([gain(read_question(turned), "a"), loss(read_question(turned), "a")], [1, None])
 
     def test_against_steps(self):
         """Gain and loss are enough for all steps at drawn counts, also great ones."""

@@ -67,18 +67,18 @@ class StepsTest(Case):
             self.assertLess(many, most)
 
     def test_explains(self):
-        self.check(lambda: explains([({"a": 1, "b": 0, "c": 2}, 77)]), None, 1000)
-        self.check(lambda: str(explains([({"a": 9, "b": 5, "c": 1}, 3), ({"a": 9, "b": 1, "c": 5}, 3)])), "( ( a - b ) - c )", 1500)
+        self.check(lambda: explains([({"a": 1, "b": 0, "c": 2}, 77)]), None, 300)
+        self.check(lambda: str(explains([({"a": 9, "b": 5, "c": 1}, 3), ({"a": 9, "b": 1, "c": 5}, 3)])), "( ( a - b ) - c )", 700)
 
     def test_shortest(self):
         for text in ("( ( a + b ) + ( b - c ) )", CHOSEN, GREAT):
             question = read_question(text)
-            self.check(lambda question=question: shortest(question), None, 4000)
+            self.check(lambda question=question: shortest(question), None, 600)
 
     def test_gain_and_loss(self):
         for slope, text, name in SLOPES:
             question = read_question(text)
-            self.check(lambda question=question, name=name, slope=slope: slope(question, name), 1, 25000)
+            self.check(lambda question=question, name=name, slope=slope: slope(question, name), 1, 2500)
 
     def test_lines_of_desks(self):
         """On desks that were not asked them before."""
