@@ -5,6 +5,7 @@ from rowcounts.doubts import Outlook, can_differ, can_part
 from rowcounts.errors import BadQuestion, NoTable
 from rowcounts.forms import rest_form, times_form, value_of
 from rowcounts.judgements import check_size_of, judgement_of, judgement_without_rules
+from rowcounts.limits import limits_of
 from rowcounts.questions import Chosen, Empty, Question, Table
 from rowcounts.samples import Samples, numbers_on
 from rowcounts.truths import Has
@@ -15,8 +16,14 @@ MOST_OPERATORS = 5
 
 MOST_TIMES = 9
 
-# So many rows of each old table beside one of the new one: what grows or falls by all of them is told at once.
+# Samples are so great, beside the one row more, that what comes or goes as a whole is told at once.
 MANY_ROWS = 40
+
+# Some samples have nearly equal numbers in all tables: what one row more turns, it turns there.
+NEAR_COLUMNS = (
+    (120, 121, 120, 121, 120, 121, 120, 121), (120, 120, 121, 121, 120, 120, 121, 121),
+    (120, 120, 120, 120, 121, 121, 121, 121),
+)
 
 NEW_NAMES = ("new", "newer", "newest", "news")
 
@@ -42,17 +49,13 @@ def plays_part(question, name):
 def gain(question, name):
     """How much more often, at most, a question tells a row for each one more in a table; None if above 9."""
     check_hanging(question, name)
-    if is_steady(question):
-        return steepest(question, name, 1)
-    return least_times(with_more(question, name), question, new_name(question))
+    return steepest(question, name, 1) if is_steady(question) else greatest_step(question, name, 1)
 
 
 def loss(question, name):
     """How much less often, at most, a question tells a row for each one more in a table; None if above 9."""
     check_hanging(question, name)
-    if is_steady(question):
-        return steepest(question, name, -1)
-    return least_times(question, with_more(question, name), new_name(question))
+    return steepest(question, name, -1) if is_steady(question) else greatest_step(question, name, -1)
 
 
 def never_any(question):
@@ -124,35 +127,43 @@ def steepest(question, name, sign):
     return most if most <= MOST_TIMES else None
 
 
-def least_times(one, other, new):
-    """The least n from 0 to 9 with which one is never more than other and n times the new table, or None."""
-    judgement, least = judgement_without_rules(one, other), 0
-    sorts = judgement.unlike_sorts
-    for sort in sorts:
-        least = least_at_samples(judgement, new, sort.known_values, least)
-        if least > MOST_TIMES:
-            return None
-    for sort in sorts:
-        least = least_in_parts(judgement, new, sort.known_values, least)
+def greatest_step(question, name, sign):
+    """The gain of a question, or with the sign -1 its loss."""
+    least = step_at_samples(question, name, sign)
+    if least > MOST_TIMES:
+        return None
+    more, less = limits_of(question, name)
+    if least == (more if sign > 0 else less):
+        return least
+    grown = with_more(question, name)
+    one, other = (grown, question) if sign > 0 else (question, grown)
+    judgement = judgement_without_rules(one, other)
+    for sort in judgement.unlike_sorts:
+        least = least_in_parts(judgement, new_name(question), sort.known_values, least)
         if least > MOST_TIMES:
             return None
     return least
 
 
-def least_at_samples(judgement, new, values, least):
-    """The least number of times, from a number on, that is enough at some counts with one row of the new table."""
-    points = some_points(len(judgement.tables))
-    columns = [[1 if name == new else MANY_ROWS * point[at] for point in points]
-               for at, name in enumerate(judgement.tables)]
-    samples = Samples(judgement.tables, columns, len(points))
-    ones, others = [numbers_on(question, values, samples) for question in (judgement.one, judgement.other)]
-    return max(least, int(max([int(one - other) for one, other in zip(ones, others)])))
+def step_at_samples(question, name, sign):
+    """The greatest change of a question, upwards or with the sign -1 downwards, for one row more at some samples."""
+    points, found = some_points(len(question.names)), 0
+    columns = [[*[MANY_ROWS * point[at] for point in points], *NEAR_COLUMNS[at]] for at in range(len(question.names))]
+    grown = [[number + 1 for number in column] if other == name else column
+             for other, column in zip(question.names, columns)]
+    ahead, behind = [Samples(question.names, told, len(columns[0])) for told in (columns, grown)]
+    for sort in judgement_without_rules(question, Empty()).unlike_sorts:
+        ones, others = [numbers_on(question, sort.known_values, samples) for samples in (ahead, behind)]
+        steps = [int(sign * (other - one)) for one, other in zip(ones, others)]
+        found = max(found, int(max([int(step) for step in steps])))
+    return found
 
 
 def least_in_parts(judgement, new, values, least):
-    """The same at all counts; it need not be right if it is more than the most.
+    """The least number, from one on, with which one is never more than other and so many times the new table.
 
-    Each number that is too small is left behind at counts where it is: so the last one is the least.
+    It need not be right if it is more than the most. Each number that is too small is left behind at counts where it
+    is: so the last one is the least.
     """
     outlook = Outlook(judgement.tables, values)
     unit = outlook.units[new]

@@ -12,6 +12,7 @@ from rowcounts.hangs import gain, loss
 from rowcounts.judge import Parted, Shown, never_more
 from rowcounts.judgements import judgement_of
 from rowcounts.least import least_parted
+from rowcounts.limits import limits_of
 from rowcounts.look_judge import shows_parted, shows_shown
 from rowcounts.samples import Samples, numbers_on, truths_on
 from rowcounts.words import read_question
@@ -176,6 +177,38 @@ class SlopesTest(Case):
         self.same([gain(read_question(fall), "a"), loss(read_question(fall), "a")], [None, 0])
         turned = "( a unless has ( a - ( 9 * ( 9 * b ) ) ) )"
         self.same([gain(read_question(turned), "a"), loss(read_question(turned), "a")], [1, None])
+
+    def test_limits(self):
+        """No step at drawn counts, great, small or nearly equal, goes beyond the limits that the parts of a question tell."""
+        dice = random.Random(349)
+        found = {}
+        for _ in range(600):
+            tree = some_question(dice, 3, "ab")
+            name = dice.choice("ab")
+            limits = limits_of(made_of(tree), name)
+            self.same([type(limit) is int and 0 <= limit <= 10 for limit in limits], [True, True])
+            found[limits] = True
+            for _ in range(12):
+                values = {"x": dice.choice([None, -2, 0, 1]), "y": dice.choice([None, -2, 0, 1])}
+                counts, more = dice.choice([some_counts(dice, "ab"), {"a": 50, "b": 50 + dice.choice([-1, 0, 1])}]), dice.choice([1, 1, 2, 50])
+                step = number_of(tree, values, {**counts, name: counts[name] + more}) - number_of(tree, values, counts)
+                for limit, change in zip(limits, (step, -step)):
+                    self.assertTrue(limit == 10 or change <= limit * more, f"{tree} {name} {limits}")
+        self.assertGreater(len(found), 20)
+
+    def test_told_limits(self):
+        told = {
+            "a": (1, 0), "b": (0, 0), "empty": (0, 0), "( a + a )": (2, 0), "( a - b )": (1, 0), "( b - a )": (0, 1),
+            "( 3 * ( b - a ) )": (0, 3), "( 9 * ( 2 * a ) )": (10, 0), "( a & ( b - a ) )": (1, 1), "( a | ( 2 * a ) )": (2, 0),
+            "( ( b - a ) - ( 2 * a ) )": (0, 3), "( a where x < 5 )": (1, 0), "( a where has b )": (1, 0),
+            "( b where has a )": (10, 0), "( b unless has a )": (0, 10), "( b where has ( b - a ) )": (0, 10),
+            "( b unless has ( b - a ) )": (10, 0), "( a where has a )": (1, 0), "( ( a & b ) where has a )": (1, 0),
+            "( ( a | b ) where has a )": (10, 0), "( ( a + b ) where has a )": (10, 0), "( ( ( 2 * a ) - b ) where has a )": (2, 0),
+            "( b where not has a )": (10, 10), "( b where not has b )": (0, 0), "( ( a where x < 5 ) where has a )": (1, 0),
+            "( ( a | ( 2 * a ) ) where has a )": (2, 0), "( ( a + a ) where has a )": (2, 0), "( empty where has a )": (10, 0),
+        }
+        for text, limits in told.items():
+            self.same(limits_of(read_question(text), "a"), limits)
 
     def test_against_steps(self):
         """Gain and loss are enough for all steps at drawn counts, also great ones."""
