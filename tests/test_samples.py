@@ -178,6 +178,18 @@ class SlopesTest(Case):
         turned = "( a unless has ( a - ( 9 * ( 9 * b ) ) ) )"
         self.same([gain(read_question(turned), "a"), loss(read_question(turned), "a")], [1, None])
 
+    def test_steps_up_to_the_most(self):
+        told = {
+            "( ( 9 * a ) where has b )": (9, 0), "( ( 9 * a ) where not has ( a - a ) )": (9, 0),
+            "( ( a + ( 9 * a ) ) where has b )": (None, 0), "( ( b - a ) where has b )": (0, 1),
+            "( ( b - ( 9 * a ) ) unless has c )": (0, 9), "( ( b - ( 9 * a ) ) where not has ( a - a ) )": (0, 9),
+            "( ( b - ( 2 * ( 5 * a ) ) ) where has b )": (0, None), "( ( 2 * a ) where has a )": (2, 0),
+            "( b unless has a )": (0, None), "( b where has a )": (None, 0), "( ( b - a ) + ( a where has c ) )": (1, 1),
+        }
+        for text, (more, less) in told.items():
+            question = read_question(text)
+            self.same([gain(question, "a"), loss(question, "a")], [more, less])
+
     def test_limits(self):
         """No step at drawn counts, great, small or nearly equal, goes beyond the limits that the parts of a question tell."""
         dice = random.Random(349)
@@ -190,7 +202,8 @@ class SlopesTest(Case):
             found[limits] = True
             for _ in range(12):
                 values = {"x": dice.choice([None, -2, 0, 1]), "y": dice.choice([None, -2, 0, 1])}
-                counts, more = dice.choice([some_counts(dice, "ab"), {"a": 50, "b": 50 + dice.choice([-1, 0, 1])}]), dice.choice([1, 1, 2, 50])
+                counts = dice.choice([some_counts(dice, "ab"), {"a": 50, "b": 50 + dice.choice([-1, 0, 1])}])
+                more = dice.choice([1, 1, 2, 50])
                 step = number_of(tree, values, {**counts, name: counts[name] + more}) - number_of(tree, values, counts)
                 for limit, change in zip(limits, (step, -step)):
                     self.assertTrue(limit == 10 or change <= limit * more, f"{tree} {name} {limits}")
@@ -199,13 +212,15 @@ class SlopesTest(Case):
     def test_told_limits(self):
         told = {
             "a": (1, 0), "b": (0, 0), "empty": (0, 0), "( a + a )": (2, 0), "( a - b )": (1, 0), "( b - a )": (0, 1),
-            "( 3 * ( b - a ) )": (0, 3), "( 9 * ( 2 * a ) )": (10, 0), "( a & ( b - a ) )": (1, 1), "( a | ( 2 * a ) )": (2, 0),
+            "( 3 * ( b - a ) )": (0, 3), "( 9 * ( 2 * a ) )": (10, 0), "( a & ( b - a ) )": (1, 1),
+            "( a | ( 2 * a ) )": (2, 0), "( ( 2 * a ) & a )": (2, 0), "( ( a - b ) + ( b - a ) )": (1, 1),
             "( ( b - a ) - ( 2 * a ) )": (0, 3), "( a where x < 5 )": (1, 0), "( a where has b )": (1, 0),
             "( b where has a )": (10, 0), "( b unless has a )": (0, 10), "( b where has ( b - a ) )": (0, 10),
             "( b unless has ( b - a ) )": (10, 0), "( a where has a )": (1, 0), "( ( a & b ) where has a )": (1, 0),
-            "( ( a | b ) where has a )": (10, 0), "( ( a + b ) where has a )": (10, 0), "( ( ( 2 * a ) - b ) where has a )": (2, 0),
-            "( b where not has a )": (10, 10), "( b where not has b )": (0, 0), "( ( a where x < 5 ) where has a )": (1, 0),
-            "( ( a | ( 2 * a ) ) where has a )": (2, 0), "( ( a + a ) where has a )": (2, 0), "( empty where has a )": (10, 0),
+            "( ( a | b ) where has a )": (10, 0), "( ( a + b ) where has a )": (10, 0),
+            "( ( ( 2 * a ) - b ) where has a )": (2, 0), "( b where not has a )": (10, 10), "( b where not has b )": (0, 0),
+            "( ( a where x < 5 ) where has a )": (1, 0), "( ( a | ( 2 * a ) ) where has a )": (2, 0),
+            "( ( a + a ) where has a )": (2, 0), "( empty where has a )": (10, 0),
         }
         for text, limits in told.items():
             self.same(limits_of(read_question(text), "a"), limits)
