@@ -7,16 +7,6 @@ from rowcounts.errors import BadBag, BadBase, BadQuestion, BadRow
 from rowcounts.questions import Question, check_base
 
 
-class Pairs:
-    """Rows with their numbers, to be handed out one by one."""
-
-    def __init__(self, pairs):
-        self.handed = pairs
-
-    def __iter__(self):
-        return iter(self.handed)
-
-
 def stream(question, base, behind=None):
     """The rows, ascending, that stand in an answer, with their numbers; only those behind a row, if one is told."""
     check_asked(question, base, behind)
@@ -29,9 +19,10 @@ def stream(question, base, behind=None):
 
 def joined(*parts):
     """The rows of some parts, ascending, the numbers of equal rows added up."""
-    # A generator would read the parts only when its first item is asked for, when they may have been changed.
+    # All parts are read ahead of the first item: an error comes there, and later changes have no effect.
     numbers = added_up(pairs_of_parts(parts))
-    return Pairs([(row, numbers[row]) for row in ordered_rows(list(numbers))]).__iter__()
+    for row in ordered_rows(list(numbers)):
+        yield row, numbers[row]
 
 
 def check_asked(question, base, behind):

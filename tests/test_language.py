@@ -146,6 +146,35 @@ def calls_of_init(tree):
             yield node
 
 
+def is_class_name(node):
+    """Whether a node is `x.__class__.__name__` of a name or an attribute."""
+    inner = node.value
+    return (node.attr == "__name__" and isinstance(inner, ast.Attribute) and inner.attr == "__class__"
+            and isinstance(inner.value, (ast.Name, ast.Attribute)))
+
+
+def is_init_above(call):
+    """Whether a call is `super().__init__(..)` or `Base.__init__(self, ..)`."""
+    if not isinstance(call.func, ast.Attribute) or call.func.attr != "__init__":
+        return False
+    if ast.unparse(call.func.value) == "super()":
+        return True
+    told = isinstance(call.func.value, ast.Name) and call.func.value.id != "self"
+    return told and call.args != [] and ast.unparse(call.args[0]) == "self"
+
+
+def double_attributes(tree):
+    """The attributes whose names begin with two underscores, except those that may be used so."""
+    allowed = []
+    for node in ast.walk(tree):
+        if isinstance(node, ast.Attribute) and is_class_name(node):
+            allowed.extend([node, node.value])
+        if isinstance(node, ast.Call) and is_init_above(node):
+            allowed.append(node.func)
+    return [node for node in ast.walk(tree) if isinstance(node, ast.Attribute) and node.attr.startswith("__")
+            and not any(node is one for one in allowed)]
+
+
 class LanguageTest(unittest.TestCase):
 
     def holds(self, rule, wrong):
@@ -238,6 +267,23 @@ class LanguageTest(unittest.TestCase):
             self.holds(f"L2 {path.name}", [name for name in barred if not re.search(
                 rf"\b{name}\b", "\n".join(ast.unparse(node) for node in tree.body
                                           if not isinstance(node, ast.ImportFrom)))] if path.stem != "__init__" else [])
+
+    def test_l8_attributes_with_two_underscores(self):
+        for path, tree in trees():
+            self.holds(f"L8 {path.name}", [(node.lineno, node.attr) for node in double_attributes(tree)])
+
+    def test_l8_wrong_attributes_with_two_underscores_are_found(self):
+        for text in ("xs.__iter__()", "Pairs([x]).__iter__()", "a.__add__(b)", "x.__iter__", "self.__held",
+                     "x.__dict__['a']", "x.__class__", "x.__class__(1)", "f.__name__", "f(x).__class__.__name__",
+                     "x.__class__.__qualname__", "x.__class__.__class__.__name__", "super().__str__()",
+                     "super().__init__", "super(A, self).__init__(x)", "Base.__init__", "Base.__init__(other, x)",
+                     "Base.__init__()", "Base.__str__(self)", "self.__init__(x)", "self.__init__(self, x)",
+                     "box.part.__init__(self)", "sorted(xs, key=len.__call__)", "Base.__init__(self, x.__len__())"):
+            self.assertTrue(double_attributes(ast.parse(text)), text)
+        for text in ("x.__class__.__name__", "self.shape.__class__.__name__ == other.__class__.__name__", "x._held",
+                     "super().__init__()", "super().__init__(*xs, **more)", "Base.__init__(self)",
+                     "Base.__init__(self, x.rows, at=x.__class__.__name__)", "x.a__b"):
+            self.assertFalse(double_attributes(ast.parse(text)), text)
 
     def test_l12_l17_l26_names(self):
         for path, tree in trees():

@@ -1,5 +1,6 @@
 """Promises [2], [5] and streams.py."""
 
+import inspect
 import random
 import unittest
 
@@ -74,6 +75,7 @@ class StreamTest(Case):
 
     def test_by_turns(self):
         first, second = stream(B, BASE), stream(B, BASE)
+        self.assertTrue(inspect.isgenerator(first))
         told = [next(first), next(second), next(first), next(first), next(second)]
         self.same(told, [((1,), 3), ((1,), 3), ((4,), 1), ((None,), 7), ((4,), 1)])
         self.same([list(first), list(second)], [[], [((None,), 7)]])
@@ -140,40 +142,51 @@ class JoinedTest(Case):
             self.refused(BadBag(0), lambda: list(joined(wrong, stream(C, BASE))))
         self.refused(BadBag(1), lambda: next(joined(up, [((1, None), 1), ((1, 5), 1)])))
 
-    def test_what_is_done_to_a_part_later_has_no_effect(self):
+    def test_what_is_done_to_a_part_behind_the_first_item_has_no_effect(self):
         for change in (list.clear, list.reverse, list.pop, lambda part: part.append(((9,), 5)),
                        lambda part: part.insert(0, ((0,), 5))):
-            one, other = [((1,), 1), ((3,), 1)], [((1,), 2)]
-            later, begun = joined(one, other), joined(one, tuple(other), one)
-            self.same(next(begun), ((1,), 4))
+            one, other = [((1,), 1), ((3,), 1)], [((1,), 2), ((2,), 4)]
+            pairs, more = joined(one, other), joined(other, tuple(other), one, [((0,), 1)])
+            self.same([next(pairs), next(more)], [((1,), 3), ((0,), 1)])
             change(one)
             change(other)
-            self.same([list(later), list(begun)], [[((1,), 3), ((3,), 1)], [((3,), 2)]])
+            self.same([list(pairs), list(more)], [[((2,), 4), ((3,), 1)], [((1,), 5), ((2,), 8), ((3,), 1)]])
 
-    def test_a_stream_that_is_asked_on_later_has_no_effect(self):
+    def test_a_stream_that_is_asked_on_behind_the_first_item_has_no_effect(self):
         part = stream(B, BASE)
         pairs = joined(part, [((2,), 1)])
-        self.same(list(part), [])
-        self.same(list(pairs), [((1,), 3), ((2,), 1), ((4,), 1), ((None,), 7)])
+        self.same([next(pairs), list(part)], [((1,), 3), []])
+        self.same(list(pairs), [((2,), 1), ((4,), 1), ((None,), 7)])
 
-    def test_a_part_that_is_put_right_later_is_refused(self):
-        down = [((2,), 1), ((1,), 1)]
-        up = [((1,), 1)]
+    def test_a_stream_that_was_begun_gives_its_other_pairs(self):
+        part = stream(B, BASE)
+        self.same([next(part), list(joined(part, [((2,), 1)]))], [((1,), 3), [((2,), 1), ((4,), 1), ((None,), 7)]])
 
-        def asked():
-            pairs = joined(up, down)
-            down.reverse()
-            return next(pairs)
-
-        self.refused(BadBag(1), asked)
-        pairs = joined(up)
+    def test_a_part_that_ascends_no_longer_behind_the_first_item(self):
+        up, more = [((1,), 1)], [((2,), 1), ((3,), 1)]
+        pairs = joined(up, more)
+        self.same(next(pairs), ((1,), 1))
         up.append(((0,), 1))
-        self.same(list(pairs), [((1,), 1)])
+        more.reverse()
+        self.same(list(pairs), [((2,), 1), ((3,), 1)])
 
-    def test_items_are_handed_out_once(self):
+    def test_the_error_comes_ahead_of_the_first_item_also_for_the_last_rows(self):
+        late = [((n,), 1) for n in range(50)] + [((48,), 1)]
+        self.refused(BadBag(1), lambda: next(joined([((0,), 1)], late)))
+        self.refused(BadBag(2), lambda: next(joined([((0,), 1)], (), iter(late), late)))
+
+    def test_a_generator(self):
         pairs = joined([((1,), 1)], [((2,), 3)])
-        self.assertIs(iter(pairs), pairs)
+        self.assertTrue(inspect.isgenerator(pairs))
+        self.assertTrue(inspect.isgenerator(joined()))
         self.same([next(pairs), list(pairs), list(pairs)], [((1,), 1), [((2,), 3)], []])
+
+    def test_by_turns(self):
+        part = [((1,), 1), ((2,), 3)]
+        first, second = joined(part), joined(part, part)
+        self.same([next(first), next(second), next(second), next(first)],
+                  [((1,), 1), ((1,), 2), ((2,), 6), ((2,), 3)])
+        self.same([list(first), list(second)], [[], []])
 
     def test_errors_of_streams_in_order(self):
         down = [((2,), 1), ((1,), 1)]
